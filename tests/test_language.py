@@ -1,0 +1,257 @@
+"""The rules of the language subset that can be read off the files of the package."""
+
+import ast
+import builtins
+import pathlib
+import unittest
+
+FOLDER = pathlib.Path(__file__).resolve().parent.parent / "lastgiver"
+FILES = sorted(FOLDER.glob("*.py"))
+TREES = {path.stem: ast.parse(path.read_text()) for path in FILES}
+
+BUILTINS = {
+    "len", "range", "enumerate", "zip", "min", "max", "sum", "abs", "sorted", "reversed", "int", "str", "bool",
+    "list", "tuple", "dict", "isinstance", "any", "all", "iter", "type", "ValueError", "staticmethod",
+    "classmethod", "property",
+}
+LIBRARY = {"math": {"gcd", "lcm", "isqrt", "comb", "perm", "factorial"}}
+METHODS = {
+    "append", "clear", "copy", "count", "endswith", "extend", "find", "get", "index", "insert", "isalnum", "isalpha",
+    "isdigit", "islower", "isspace", "isupper", "items", "join", "keys", "ljust", "lower", "lstrip", "partition",
+    "pop", "remove", "replace", "reverse", "rfind", "rjust", "rpartition", "rsplit", "rstrip", "setdefault", "split",
+    "splitlines", "startswith", "strip", "update", "upper", "values", "zfill", "bit_length",
+}
+OPERATORS = {
+    "__add__", "__sub__", "__mul__", "__and__", "__or__", "__neg__", "__abs__", "__bool__", "__contains__",
+    "__getitem__",
+}
+DOUBLE = OPERATORS | {"__init__", "__eq__", "__repr__", "__str__", "__len__", "__iter__", "__call__"}
+BARRED = {
+    "register", "mro", "elements", "open", "input", "law", "version_info", "with_traceback", "add_note", "typing",
+    "enum", "Enum", "Flag", "Generic", "Protocol", "ABC", "namedtuple", "attrgetter", "compile", "gc", "os", "sys",
+    "help", "vars", "dir", "locals", "globals", "_cold", "_outside", "_record", "_written_out", "_member_names",
+}
+NO_ATTRIBUTE = {
+    "items", "keys", "values", "pop", "update", "append", "clear", "extend", "insert", "remove", "reverse",
+    "setdefault", "sort", "args", "encode", "decode", "hex", "fromhex", "format", "as_integer_ratio", "bit_count",
+    "conjugate", "from_bytes", "is_integer", "to_bytes",
+}
+VIEWS = {"range", "zip", "enumerate", "reversed"}
+TAKERS = {"list", "tuple", "dict", "sorted", "sum", "any", "all", "enumerate", "zip", "min", "max", "len"}
+
+
+def nodes(kind):
+    """Pairs of a file's name and a node of this kind, of all files."""
+    return [(name, node) for name, tree in TREES.items() for node in ast.walk(tree) if isinstance(node, kind)]
+
+
+def functions():
+    """Pairs of a file's name and a function or method."""
+    return nodes(ast.FunctionDef)
+
+
+def parameters(function):
+    """All parameters of a function."""
+    told = function.args
+    stars = [star for star in (told.vararg, told.kwarg) if star is not None]
+    return [arg.arg for arg in told.posonlyargs + told.args + told.kwonlyargs + stars]
+
+
+def bound_in(function):
+    """All names that a function binds."""
+    stored = [node.id for node in ast.walk(function) if isinstance(node, ast.Name) and isinstance(node.ctx, ast.Store)]
+    return set(parameters(function)) | set(stored)
+
+
+def methods():
+    """Pairs of a class and a method of it."""
+    return [(node, row) for _, node in nodes(ast.ClassDef) for row in node.body if isinstance(row, ast.FunctionDef)]
+
+
+def is_generator(function):
+    """Whether a function yields."""
+    return any(isinstance(node, (ast.Yield, ast.YieldFrom)) for node in ast.walk(function))
+
+
+class LanguageTest(unittest.TestCase):
+    def none(self, found):
+        self.assertEqual([], list(found))
+
+    def test_files_lines_and_signs(self):
+        for path in FILES:
+            lines = path.read_text().split("\n")
+            self.assertLessEqual(len(lines), 399, path)
+            self.none(row for row in lines if len(row) > 120 or not all(" " <= sign <= "~" for sign in row))
+        self.none(path for path in FOLDER.iterdir() if path.suffix != ".py" and path.name != "__pycache__")
+
+    def test_functions_are_short(self):
+        self.none((name, node.name) for name, node in functions() if node.end_lineno - node.lineno + 1 > 40)
+
+    def test_module_level(self):
+        plain = (ast.ImportFrom, ast.FunctionDef, ast.ClassDef)
+        for name, tree in TREES.items():
+            rows = tree.body[1:]
+            self.assertIsNotNone(ast.get_docstring(tree), name)
+            others = [row for row in rows if not isinstance(row, plain)]
+            self.none((name, row.lineno) for row in others if not isinstance(row, ast.Assign))
+            self.none((name, row.lineno) for row in others if not isinstance(row.value, ast.Constant))
+            told = [row.name for row in rows if isinstance(row, (ast.FunctionDef, ast.ClassDef))]
+            told += [alias.name for row in rows if isinstance(row, ast.ImportFrom) for alias in row.names]
+            told += [target.id for row in others for target in row.targets]
+            self.assertEqual(len(told), len(set(told)), name)
+
+    def test_imports(self):
+        self.none(nodes(ast.Import))
+        for name, node in nodes(ast.ImportFrom):
+            self.none(alias.name for alias in node.names if alias.asname is not None)
+            if node.module in LIBRARY:
+                self.none(alias.name for alias in node.names if alias.name not in LIBRARY[node.module])
+            else:
+                package, file = node.module.split(".")
+                self.assertEqual("lastgiver", package)
+                defined = [row.name for row in TREES[file].body if isinstance(row, (ast.FunctionDef, ast.ClassDef))]
+                self.none((name, alias.name) for alias in node.names if alias.name not in defined)
+
+    def test_imports_are_used_and_run_in_no_circle(self):
+        after = {}
+        for name, node in nodes(ast.ImportFrom):
+            used = {other.id for other in ast.walk(TREES[name]) if isinstance(other, ast.Name)}
+            self.none((name, alias.name) for alias in node.names if alias.name not in used)
+            if node.module not in LIBRARY:
+                after.setdefault(name, set()).add(node.module.split(".")[1])
+        left = set(TREES)
+        while left:
+            free = {name for name in left if not after.get(name, set()) & left}
+            self.assertTrue(free, left)
+            left -= free
+
+    def test_names(self):
+        known = set(dir(builtins))
+        for name, tree in TREES.items():
+            fixed = {row.name for row in tree.body if isinstance(row, ast.ClassDef)}
+            fixed |= {alias.name for row in tree.body if isinstance(row, ast.ImportFrom) for alias in row.names}
+            for node in ast.walk(tree):
+                if isinstance(node, ast.FunctionDef):
+                    self.none((name, node.name, other) for other in bound_in(node) & (fixed | known | BARRED))
+                if isinstance(node, ast.Name) and isinstance(node.ctx, ast.Load) and node.id in known:
+                    self.assertIn(node.id, BUILTINS, name)
+        for name, node in functions():
+            self.assertNotIn(node.name, BARRED)
+            self.assertFalse(node.name in known and node.name not in METHODS, node.name)
+            if node.name.startswith("__"):
+                self.assertIn(node.name, DOUBLE)
+
+    def test_no_value_that_is_left_out(self):
+        kinds = (
+            ast.Lambda, ast.GeneratorExp, ast.Global, ast.Nonlocal, ast.Try, ast.With, ast.AugAssign, ast.AnnAssign,
+            ast.Set, ast.NamedExpr, ast.Match, ast.AsyncFunctionDef, ast.Await, ast.Assert, ast.Delete, ast.Div,
+            ast.Pow, ast.MatMult,
+        )
+        self.none((name, type(node), node) for name, node in nodes(kinds))
+        self.none(node.value for _, node in nodes(ast.Constant) if isinstance(node.value, (float, complex, bytes)))
+        texts = [node.value for _, node in nodes(ast.Constant) if isinstance(node.value, str)]
+        self.none(text for text in texts if "%" in text or "__" in text or "\\" in text)
+        self.none((name, node.name) for name, node in functions() if node.returns is not None)
+        self.none(arg.arg for _, node in functions() for arg in node.args.args if arg.annotation is not None)
+
+    def test_no_nested_function(self):
+        for name, node in functions():
+            inner = [other for other in ast.walk(node) if isinstance(other, (ast.FunctionDef, ast.ClassDef))]
+            self.assertEqual(1, len(inner), (name, node.name))
+
+    def test_sets_only_go_into_sorted(self):
+        taken = [node.args[0] for _, node in nodes(ast.Call) if getattr(node.func, "id", "") == "sorted"]
+        self.none((name, node.lineno) for name, node in nodes(ast.SetComp) if node not in taken)
+
+    def test_views_are_gone_over_at_once(self):
+        taken = []
+        for _, node in nodes((ast.For, ast.comprehension)):
+            taken.append(node.iter)
+        for _, node in nodes(ast.Call):
+            if getattr(node.func, "id", "") in TAKERS or getattr(node.func, "attr", "") == "join":
+                taken.extend(node.args[:1] if node.func.__class__ is ast.Attribute else node.args)
+        for name, node in nodes(ast.Assign):
+            if isinstance(node.value, ast.Call) and getattr(node.value.func, "id", "") == "range":
+                taken.append(node.value)
+        for name, node in nodes(ast.Call):
+            if getattr(node.func, "id", "") == "range" and any(
+                getattr(other.func, "id", "") == "reversed" and node in other.args for _, other in nodes(ast.Call)
+            ):
+                taken.append(node)
+        for name, node in nodes(ast.Call):
+            if getattr(node.func, "id", "") in VIEWS or getattr(node.func, "attr", "") in ("items", "keys", "values"):
+                self.assertIn(node, taken, (name, node.lineno))
+
+    def test_generators_are_gone_over_at_once(self):
+        told = {node.name for _, node in functions() if is_generator(node)}
+        self.assertEqual(len(told), len([node for _, node in functions() if node.name in told]))
+        taken = [node.iter for _, node in nodes((ast.For, ast.comprehension))]
+        for _, node in nodes(ast.Call):
+            if getattr(node.func, "id", "") in TAKERS - {"len"}:
+                taken.extend(node.args)
+        for name, node in nodes(ast.Call):
+            called = getattr(node.func, "id", getattr(node.func, "attr", ""))
+            if called in told:
+                self.assertIn(node, taken, (name, node.lineno))
+
+    def test_calls_of_methods(self):
+        own = {row.name for _, row in methods()}
+        for name, node in nodes(ast.Call):
+            if isinstance(node.func, ast.Attribute):
+                self.assertIn(node.func.attr, METHODS | own | {"__init__"}, (name, node.lineno))
+                if node.func.attr in METHODS:
+                    self.assertEqual([], node.keywords)
+
+    def test_methods_attributes_and_properties_have_names_of_their_own(self):
+        stored = {node.attr for _, node in nodes(ast.Attribute) if isinstance(node.ctx, ast.Store)}
+        self.assertEqual(set(), stored & NO_ATTRIBUTE)
+        told = {row.name for _, row in methods()}
+        self.assertEqual(set(), told & stored)
+        values = {target.id for _, node in nodes(ast.ClassDef) for row in node.body if isinstance(row, ast.Assign)
+                  for target in row.targets}
+        self.assertEqual(set(), values & (told | stored))
+        read = {node.attr for _, node in nodes(ast.Attribute) if isinstance(node.ctx, ast.Load)}
+        self.assertEqual(set(), read - stored - told - values - METHODS)
+        foreign = {name for kind in (str, int, list, dict, tuple, bytes, set) for name in dir(kind)}
+        self.assertEqual(set(), (told - DOUBLE) & (foreign - METHODS))
+
+    def test_decorators(self):
+        by_kind = {}
+        for _, row in methods():
+            for told in row.decorator_list:
+                by_kind.setdefault(told.id, set()).add(row.name)
+        plain = {row.name for _, row in methods() if not row.decorator_list}
+        self.assertEqual(set(), set(by_kind) - {"property", "staticmethod", "classmethod"})
+        for names in by_kind.values():
+            self.assertEqual(set(), names & plain)
+        self.none(node.name for _, node in nodes(ast.ClassDef) if node.decorator_list)
+
+    def test_each_method_with_a_star_has_a_plain_first_parameter(self):
+        starred = [row for _, row in methods() if row.args.vararg or row.args.kwarg]
+        self.none(row.name for row in starred if not row.args.args)
+
+    def test_raise_creates_its_error(self):
+        errors = {row.name for row in TREES["errors"].body if isinstance(row, ast.ClassDef)}
+        for name, node in nodes(ast.Raise):
+            self.assertIsInstance(node.exc, ast.Call, (name, node.lineno))
+            self.assertIn(node.exc.func.id, errors)
+            self.assertEqual([], node.exc.keywords)
+
+    def test_texts_of_values_only_return(self):
+        for _, row in methods():
+            if row.name in ("__str__", "__repr__", "__len__", "__eq__", "__bool__"):
+                inner = [node for node in ast.walk(row) if isinstance(node, (ast.Assign, ast.For, ast.While))]
+                self.none(inner)
+                self.assertIsInstance(row.body[-1], ast.Return)
+
+    def test_comparisons_by_is(self):
+        for name, node in nodes(ast.Compare):
+            for sign, right in zip(node.ops, node.comparators):
+                if isinstance(sign, (ast.Is, ast.IsNot)):
+                    by_kind = isinstance(node.left, ast.Call) and node.left.func.id == "type"
+                    plain = isinstance(right, ast.Constant) and right.value in (None, True, False)
+                    self.assertTrue(by_kind or plain, (name, node.lineno))
+
+
+if __name__ == "__main__":
+    unittest.main()

@@ -1,0 +1,75 @@
+"""Papers: how they keep what they are told, and when they are equal."""
+
+import unittest
+
+from lastgiver.kind_rows import StuckKinds
+from lastgiver.papers import Denial, Paper, fixed
+from lastgiver.ratios import Ratio
+from lastgiver.rows import Good, Stuck
+from lastgiver.two_sides import Gap, Sides
+
+from support import Case
+
+KINDS = [(Good, "good", "row", True), (Stuck, "stuck", "sets", False), (StuckKinds, "stuckkinds", "counts", False),
+         (Sides, "sides", "row", True), (Gap, "gap", "place", False)]
+
+
+class PapersTest(Case):
+    def test_fixed(self):
+        self.check_same((1, (2, (3, ())), None), fixed([1, [2, (3, [])], None]))
+        self.check_same((("a", (1,)), ("b", (("c", 2),))), fixed({"b": {"c": 2}, "a": [1]}))
+        self.check_same(((-1, "x"), (2, (3,)), (10, ())), fixed({10: {}, 2: [3], -1: "x"}))
+        for value in ["ab", 1, True, None, Ratio(1, 2), 1.5]:
+            self.assertIs(value, fixed(value=value))
+
+    def test_fixed_deep_within(self):
+        value, wanted = 7, 7
+        for _ in range(60):
+            value, wanted = [value], (wanted,)
+        self.check_same(wanted, fixed(value))
+
+    def test_paper_and_denial(self):
+        for kind, truth in ((Paper, True), (Denial, False)):
+            paper = kind("note", [1, [2]], {"a": [3]})
+            self.assertEqual("note", paper.word)
+            self.check_same(((1, (2,)), (("a", (3,)),)), paper.parts)
+            self.assertIs(truth, bool(paper))
+            self.check_same((), kind(word="note").parts)
+        self.assertTrue(issubclass(Denial, Paper))
+
+    def test_equality(self):
+        self.check_equality(lambda: Paper("note", [1], 2), [
+            Paper("note", [1]), Paper("notes", [1], 2), Paper("note", [1], 3), Paper("note", 2, [1]),
+            Denial("note", [1], 2), Good([1]),
+        ])
+        self.assertTrue(Paper("note", [1]) == Paper("note", (Ratio(1),)))
+        self.assertTrue(Denial("note", {"a": 1}) == Denial("note", [["a", 1]]))
+        self.assertFalse(Denial("note") == Paper("note"))
+        self.assertFalse(Good([0]) == Paper("good", [0]) or Paper("good", [0]) == Good([0]))
+        self.assertFalse(Sides([0]) == Good([0]) or Stuck([]) == StuckKinds([]))
+
+    def test_a_paper_keeps_its_parts_whatever_happens_to_what_was_passed(self):
+        row, inner = [1, 0], {"a": [1]}
+        paper, good = Paper("note", row, inner), Good(row)
+        row.append(2)
+        inner["a"].append(2)
+        inner["b"] = 3
+        self.check_same(((1, 0), (("a", (1,)),)), paper.parts)
+        self.check_same((1, 0), good.row)
+
+    def test_classes_of_papers(self):
+        for kind, word, part, truth in KINDS:
+            for value in [None, 3, "x", (), ((1,), 2)]:
+                for paper in (kind(value), kind(**{part: value})):
+                    self.assertEqual(word, paper.word)
+                    self.check_same((value,), paper.parts)
+                    self.check_same(value, getattr(paper, part))
+                    self.assertIs(truth, bool(paper))
+                    self.assertIs(not truth, isinstance(paper, Denial))
+                    self.assertIsInstance(paper, Paper)
+            self.check_same((1, (2, (("a", ()),))), getattr(kind([1, [2, {"a": []}]]), part))
+            self.check_equality(lambda: kind([1]), [kind([2]), kind(1), Paper(word, [1]), Denial(word, [1])])
+
+
+if __name__ == "__main__":
+    unittest.main()
