@@ -28,7 +28,8 @@ class Denial(Paper):
     """A paper that says no."""
 
     def __init__(self, word, *parts):
-        Paper.__init__(self, word, *parts)
+        self.word = word
+        self.parts = fixed(parts)
 
     def __eq__(self, other):
         return type(self) is type(other) and self.word == other.word and self.parts == other.parts

@@ -85,11 +85,9 @@ def stretch_at(tracks, place, more):
     least = 0
     most = more
     for track in tracks:
-        given, step = track.effects[0] * place, track.effects[1]
-        if step == 0 and not track.bears(given):
-            return 1, 0
-        if step != 0:
-            first, last = _steps_within(track, given, step)
+        # Without a step the sum lies between those of none and of all, and these are allowed.
+        if track.effects[1] != 0:
+            first, last = _steps_within(track, track.effects[0] * place, track.effects[1])
             least = least if first is None else max(least, first)
             most = most if last is None else min(most, last)
     return least, most

@@ -1,0 +1,113 @@
+"""Answers at the largest sizes, and refusals by size, come in a short time."""
+
+import random
+import time
+import unittest
+
+from lastgiver.bounds import Bounds
+from lastgiver.check_rows import shows_good, shows_stuck, shows_stuck_kinds
+from lastgiver.deals import Deal, allowed_sets
+from lastgiver.errors import Ring, TooMany
+from lastgiver.kind_rows import StuckKinds, count_by_kinds, find_by_kinds
+from lastgiver.kinds import Kinds
+from lastgiver.leanings import Leanings
+from lastgiver.numbered import Rows
+from lastgiver.ratios import Ratio
+from lastgiver.reached import firsts, lasts, live, reached
+from lastgiver.rows import Good, Stuck, find_row, forced
+from lastgiver.sums import along, done_sets, sums
+from lastgiver.swaps import HandOver, Swap
+from lastgiver.turned_deals import exchanged, handed_back_deal, rest_deal
+from lastgiver.two_sides import two_sides
+from lastgiver.walked import RowWalk
+
+from support import Case
+
+NAMES = ("ann", "bob", "cay", "dan", "eve", "fay")
+
+
+def large(rnd):
+    """A ratio of 30 digits above and below."""
+    return Ratio(rnd.randrange(10 ** 29, 10 ** 30), rnd.randrange(10 ** 29, 10 ** 30))
+
+
+def large_swap(rnd, many):
+    """So many hand-overs, each of large ratios, among six strangers."""
+    return Swap(NAMES, [HandOver(*rnd.sample(NAMES, 2), large(rnd), large(rnd)) for _ in range(many)])
+
+
+class SpeedTest(Case):
+    def setUp(self):
+        self.began = time.perf_counter()
+
+    def tearDown(self):
+        self.assertLess(time.perf_counter() - self.began, 10)
+
+    def test_12_hand_overs(self):
+        rnd = random.Random(111)
+        swap = large_swap(rnd, 12)
+        for bounds in (Bounds.alike(6, 1000, 1000), Bounds([large(rnd) * 4 for _ in NAMES], [large(rnd) * 4 for _ in NAMES])):
+            for deal in (Deal(swap, bounds), exchanged(Deal(swap, bounds, [(0, 11), (3, 4)]))):
+                found = find_row(deal)
+                for work in (reached, live, firsts, lasts, forced, count_by_kinds, allowed_sets):
+                    if work is not count_by_kinds or len(deal.leanings) == 0:
+                        work(deal)
+                rows = Rows(deal)
+                self.assertEqual(bool(found), bool(rows))
+                self.assertEqual(min(2000, rows.count), len(list(rows.in_order(2000))))
+                sets = reached(deal)[:-1] if found else found.sets
+                self.assertIs(not found, shows_stuck(deal, Stuck(sets)))
+
+    def test_40_hand_overs(self):
+        rnd = random.Random(112)
+        swap = large_swap(rnd, 40)
+        pairs = [(e, f) for e in range(40) for f in range(e + 1, 40)]
+        deal = Deal(swap, Bounds.alike(6, 10 ** 4, 10 ** 4), pairs)
+        row = tuple(range(40))
+        self.assertTrue(RowWalk(deal, row).is_good)
+        self.assertTrue(shows_good(deal, Good(row)))
+        self.assertEqual(41, len(list(along(swap, row))))
+        self.assertEqual(swap.nets, sums(swap, row))
+        self.assertEqual(40, len(Kinds(swap)))
+        self.assertEqual((0,), deal.moves([]))
+        self.assertEqual(deal, handed_back_deal(handed_back_deal(deal)))
+        self.assertEqual(20, len(rest_deal(deal, list(range(20)))))
+        self.assertEqual(tuple(range(39)), Leanings(40, pairs).ahead_of(39))
+        self.check_raises(Ring(0, (0, 39)), Leanings, 40, [*pairs, (39, 0)])
+
+    def test_refusals_by_size(self):
+        swap = large_swap(random.Random(113), 40)
+        deal = Deal(swap, Bounds.alike(6, None, None))
+        for work in (reached, live, firsts, lasts, find_row, forced, Rows, allowed_sets):
+            self.check_raises(TooMany("hands", 12), work, deal)
+        for work in (find_by_kinds, count_by_kinds):
+            self.check_raises(TooMany("counts", 4096), work, deal)
+        self.check_raises(TooMany("hands", 12), lambda: list(done_sets(swap)))
+
+    def test_4096_counts(self):
+        rnd = random.Random(114)
+        hands = [HandOver("ann", "bob", large(rnd), large(rnd)) for _ in range(4)]
+        back = [HandOver("bob", "ann", large(rnd), large(rnd)) for _ in range(2)]
+        swap = Swap(NAMES, [*hands, *back] * 3)
+        deal = Deal(swap, Bounds.alike(6, None, None))
+        self.assertEqual(18, len(find_by_kinds(deal).row))
+        counts = [(a, b, c, d, e, f) for a in range(4) for b in range(4) for c in range(4)
+                  for d in range(4) for e in range(4) for f in range(4)]
+        self.assertEqual(4096, len(counts))
+        ordered = sorted(counts, key=lambda told: (sum(told), told))
+        self.assertFalse(shows_stuck_kinds(deal, StuckKinds(ordered[:-1])))
+
+    def test_500_things_of_each_side(self):
+        rnd = random.Random(115)
+        one, other = HandOver("ann", "bob", large(rnd), large(rnd)), HandOver("bob", "ann", large(rnd), large(rnd))
+        self.assertEqual(1000, len(two_sides(one, 500, other, 500, Bounds.alike(2, None, None)).row))
+
+    def test_long_texts(self):
+        hands = [HandOver(*NAMES[:2], Ratio(10 ** 59 + 1, 10 ** 59), 1)] * 40
+        pairs = [(e, f) for e in range(40) for f in range(e + 1, 40)]
+        deal = Deal(Swap(NAMES, hands), Bounds.alike(6, None, None), pairs)
+        self.assertEqual(deal, Deal.read(str(deal)))
+
+
+if __name__ == "__main__":
+    unittest.main()
