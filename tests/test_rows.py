@@ -5,11 +5,11 @@ import unittest
 
 from lastgiver.bounds import Bounds
 from lastgiver.deals import Deal
-from lastgiver.errors import BadDeal, Ring, TooMany
+from lastgiver.errors import BadDeal, Below, Ring, TooMany
 from lastgiver.reached import live
 from lastgiver.rows import Good, Stuck, find_row, forced
 from lastgiver.swaps import Swap
-from lastgiver.turned_deals import exchanged
+from lastgiver.turned_deals import exchanged, handed_back_deal
 
 from support import CUP, NO_DEALS, NO_HANDS, Case, plain_good_rows, plain_reached, random_deals
 
@@ -81,6 +81,21 @@ class RowsTest(Case):
         for deal in random_deals(54, 40):
             if find_row(deal):
                 self.assertEqual(sorted((f, e) for e, f in forced(deal)), list(forced(exchanged(deal))))
+
+    def test_the_deal_handed_back_has_the_complements_and_the_forced_pairs_turned_about(self):
+        tried = 0
+        for deal in random_deals(58, 120, 4):
+            try:
+                back = handed_back_deal(deal)
+            except Below:
+                continue
+            every = set(range(len(deal)))
+            self.assertEqual(sorted(live(deal)), sorted(tuple(sorted(every - set(done))) for done in live(back)))
+            self.assertIs(bool(find_row(deal)), bool(find_row(back)))
+            if find_row(deal):
+                tried += 1
+                self.assertEqual(sorted((f, e) for e, f in forced(deal)), list(forced(back)))
+        self.assertGreater(tried, 20)
 
     def test_a_call_made_again_returns_an_equal_one(self):
         for deal in random_deals(55, 10):

@@ -1,0 +1,91 @@
+"""The names of the interface: in which file each stands, and what its parameters are called."""
+
+import importlib
+import inspect
+import unittest
+
+FUNCTIONS = {
+    "checks": "is_integer(value) is_within(value,least,most) is_name(value)",
+    "ratios": "is_ratio(value) added(ratios) least_of(ratios) greatest_of(ratios)",
+    "papers": "fixed(value)",
+    "sums": "done_set(swap,done) rest(swap,done) sums(swap,done) sum_of(swap,done,name) gave(swap,done,name) "
+            "took(swap,done,name) along(swap,numbers) done_sets(swap)",
+    "turned": "handed_back(swap) one_after(*swaps) portion(swap,done) renamed(swap,names) seated(swap,strangers) "
+              "reordered(swap,order) scaled(swap,ratio) circles(swap) hands_among(swap,names)",
+    "deals": "allowed_sets(deal)",
+    "turned_deals": "exchanged(deal) handed_back_deal(deal) rest_deal(deal,done)",
+    "reached": "reached(deal) live(deal) firsts(deal) lasts(deal)",
+    "rows": "find_row(deal) forced(deal)",
+    "kind_rows": "find_by_kinds(deal) count_by_kinds(deal)",
+    "two_sides": "two_sides(one,many,other,more,bounds)",
+    "check_rows": "shows_good(deal,value) shows_stuck(deal,value) shows_stuck_kinds(deal,value) "
+                  "shows_sides(one,many,other,more,bounds,value) shows_gap(one,many,other,more,bounds,value)",
+}
+CLASSES = {
+    ("ratios", "Ratio"): "__init__(top,bottom=1) over(other) compared(other) is_below(other) read(text) of(value) __add__ "
+                         "__sub__ __mul__ __neg__ __abs__ __bool__ __eq__ __str__ __repr__ sign is_whole",
+    ("papers", "Paper"): "__init__(word,*parts) __eq__ __bool__",
+    ("papers", "Denial"): "__init__(word,*parts) __eq__ __bool__",
+    ("swaps", "HandOver"): "__init__(giver,taker,cost,gain) returned() effect(name) read(text) __eq__ __str__",
+    ("swaps", "Swap"): "__init__(strangers,hands) net(name) read(text) ring __len__ __iter__ __getitem__ __contains__ "
+                       "__neg__ __add__ __mul__ __eq__ __str__ is_even is_gainful is_even_priced MOST_STRANGERS MOST_HANDS",
+    ("kinds", "Kinds"): "__init__(swap) counts_of(done) first_with(counts) sums_with(counts) sets_with(counts) __len__ orders",
+    ("bounds", "Bounds"): "__init__(trusts,pledges) alike(many,trust,pledge) zero(many) exchanged() with_trust(place,trust) "
+                          "with_pledge(place,pledge) covers(other) read(text) __len__ __eq__ __or__ __str__",
+    ("leanings", "Leanings"): "__init__(many,pairs) broken(done) free(done) ahead_of(number) turned() __len__ __iter__ __eq__",
+    ("deals", "Objection"): "__init__(name,side,amount) __eq__ __str__",
+    ("deals", "Deal"): "__init__(swap,bounds,leanings=()) is_allowed(done) objections(done) broken(done) against(done,number) "
+                       "moves(done) with_bounds(bounds) read(text) __len__ __eq__ __str__",
+    ("walked", "RowWalk"): "__init__(deal,row)",
+    ("walked", "Moment"): "",
+    ("rows", "Good"): "__init__(row)",
+    ("rows", "Stuck"): "__init__(sets)",
+    ("numbered", "Rows"): "__init__(deal) at(number) place_of(row) from_set(done) in_order(many) __bool__ __contains__ MOST",
+    ("kind_rows", "StuckKinds"): "__init__(counts)",
+    ("two_sides", "Sides"): "__init__(row)",
+    ("two_sides", "Gap"): "__init__(place)",
+}
+
+
+def told_parameters(function):
+    """The parameters of a function, without the object's own."""
+    names = str(inspect.signature(function)).replace(" ", "")
+    for own in ("self", "cls"):
+        names = names.replace(f"({own},", "(").replace(f"({own})", "()")
+    return names
+
+
+class InterfaceTest(unittest.TestCase):
+    def test_functions(self):
+        for file, told in FUNCTIONS.items():
+            module = importlib.import_module(f"lastgiver.{file}")
+            for text in told.split(" "):
+                name = text.partition("(")[0]
+                function = getattr(module, name)
+                self.assertEqual(module.__name__, function.__module__)
+                self.assertEqual(text, name + told_parameters(function))
+
+    def test_classes(self):
+        for (file, name), told in CLASSES.items():
+            module = importlib.import_module(f"lastgiver.{file}")
+            kind = getattr(module, name)
+            self.assertEqual(module.__name__, kind.__module__)
+            for text in told.split():
+                method, stop, _ = text.partition("(")
+                self.assertIn(method, vars(kind), (name, method))
+                if stop:
+                    self.assertEqual(text, method + told_parameters(getattr(kind, method)))
+
+    def test_errors_stand_in_their_own_file(self):
+        module = importlib.import_module("lastgiver.errors")
+        self.assertEqual({"lastgiver.errors"}, {kind.__module__ for kind in vars(module).values() if isinstance(kind, type)})
+
+    def test_cost_and_gain_of_the_ring_are_told_by_name(self):
+        module = importlib.import_module("lastgiver.swaps")
+        told = inspect.signature(module.Swap.ring).parameters
+        self.assertEqual([1, 2], [told["cost"].default, told["gain"].default])
+        self.assertEqual({inspect.Parameter.KEYWORD_ONLY}, {told["cost"].kind, told["gain"].kind})
+
+
+if __name__ == "__main__":
+    unittest.main()
