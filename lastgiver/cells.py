@@ -1,8 +1,8 @@
-"""Sets of hand-overs, or counts of kinds, as cells: integers, in lists with one item for each cell.
+"""Sets of hand-overs, or counts of kinds, as cells: integers.
 
 A cell tells how many of each kind are done, the first kind as its lowest digit; digit k goes from 0
 to sizes[k]. For single hand-overs all sizes are 1, and a cell is the mask of a done set. So the cells
-behind a cell have greater numbers, and one pass up or down a list sees all that it hangs on.
+behind a cell have greater numbers. Some cells are told as bits: an integer with 1 at the place of each.
 """
 
 from math import lcm
@@ -100,53 +100,45 @@ def counts_in(cell, sizes):
     return tuple([cell // stride % (size + 1) for stride, size in zip(strides, sizes)])
 
 
-def bearable(tracks, numbers, sizes):
-    """For each cell whether all strangers bear its sums; each kind counts as hand-over numbers[k]."""
-    fit = [True] * strides_of(sizes)[-1]
-    for track in tracks:
-        totals = [0]
-        for number, size in zip(numbers, sizes):
-            effect = track.effects[number]
-            totals = [total + effect * count for count in range(size + 1) for total in totals]
-        fit = [so_far and track.bears(total) for so_far, total in zip(fit, totals)]
-    return fit
-
-
-def reached_cells(fit, sizes):
-    """For each cell whether steps of one more, over cells that fit, lead to it from cell 0."""
-    steps = list(zip(strides_of(sizes), sizes))
+def cells_in(bits):
+    """The cells that the bits tell, ascending."""
+    text = f"{bits:b}"
     found = []
-    for cell, fits in enumerate(fit):
-        behind = [stride for stride, size in steps if cell // stride % (size + 1) > 0]
-        found.append(fits and (cell == 0 or any([found[cell - stride] for stride in behind])))
+    at = text.find("1")
+    while at >= 0:
+        found.append(len(text) - 1 - at)
+        at = text.find("1", at + 1)
+    return found[::-1]
+
+
+def bits_of(cells):
+    """The bits of some cells."""
+    bits = 0
+    for cell in cells:
+        bits = bits | (1 << cell)
+    return bits
+
+
+def sets_in(bits, many):
+    """The list of the done sets, of so many hand-overs, whose masks the bits tell, in their order."""
+    half = many // 2
+    low = _sets_among(list(range(half)))
+    high = _sets_among(list(range(half, many)))
+    found = [low[mask & (len(low) - 1)] + high[mask >> half] for mask in cells_in(bits)]
+    ordered = sorted([(len(done), done) for done in found])
+    return [pair[1] for pair in ordered]
+
+
+def counts_listed(bits, sizes):
+    """The list of the counts that the bits tell, those of fewer ahead, then as tuples."""
+    found = [counts_in(cell, sizes) for cell in cells_in(bits)]
+    ordered = sorted([(sum(counts), counts) for counts in found])
+    return [pair[1] for pair in ordered]
+
+
+def _sets_among(numbers):
+    """The ascending tuples of some of these numbers, each at the place that is its mask among them."""
+    found = [()]
+    for number in numbers:
+        found = found + [(*done, number) for done in found]
     return found
-
-
-def ways_on(fit, sizes):
-    """For each cell how many ways lead on to the last one, by steps of one more over cells that fit."""
-    steps = list(zip(strides_of(sizes), sizes))
-    last = len(fit) - 1
-    ways = [0] * len(fit)
-    ways[last] = 1 if fit[last] else 0
-    for cell in reversed(range(last)):
-        if fit[cell]:
-            ways[cell] = sum([ways[cell + stride] for stride, size in steps if cell // stride % (size + 1) < size])
-    return ways
-
-
-def first_way(ways, numbers):
-    """The first row, as tuples are ordered, from cell 0 to the last one, over cells with ways on.
-
-    numbers are those of each kind, ascending; cell 0 has ways on.
-    """
-    sizes = [len(like) for like in numbers]
-    strides = strides_of(sizes)
-    row = []
-    cell = 0
-    while cell < len(ways) - 1:
-        counts = counts_in(cell, sizes)
-        open_kinds = [k for k in range(len(sizes)) if counts[k] < sizes[k] and ways[cell + strides[k]] > 0]
-        number, kind = min([(numbers[k][counts[k]], k) for k in open_kinds])
-        row.append(number)
-        cell = cell + strides[kind]
-    return tuple(row)

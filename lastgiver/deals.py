@@ -1,9 +1,10 @@
 """Deals: a swap with bounds and leanings, and what is allowed in it."""
 
 from lastgiver.bounds import Bounds, bounds_at
-from lastgiver.cells import bearable, mask_of, sets_in_order, tracks_of
+from lastgiver.cells import mask_of, sets_in, tracks_of
 from lastgiver.checks import check_hand, done_told, integer_in, is_within, word_at, words_of
 from lastgiver.errors import BadBounds, BadDeal, BadLeanings, BadText, Done, TooMany, Unlike
+from lastgiver.fields import Field, bound_slacks, leaning_slacks
 from lastgiver.leanings import Leanings, are_pairs
 from lastgiver.swaps import check_swap, swap_at_start
 
@@ -128,23 +129,14 @@ def check_small_deal(deal):
 def allowed_sets(deal):
     """The list of all allowed done sets."""
     check_small_deal(deal)
-    return sets_of(deal, allowed_masks(deal))
+    return sets_in(field_of(deal).free_cells(), len(deal.swap.hands))
 
 
-def allowed_masks(deal):
-    """For each mask of a done set of a small deal whether the set is allowed."""
+def field_of(deal):
+    """The Field of the masks of done sets, those of sets that are not allowed being barred."""
     many = len(deal.swap.hands)
-    fit = bearable(deal.tracks, list(range(many)), [1] * many)
-    wanted = [0]
-    for number in range(many):
-        needed = deal.leanings.wanted([number])
-        wanted = wanted + [mask | needed for mask in wanted]
-    return [fits and _keeps(mask, wanted[mask]) for mask, fits in enumerate(fit)]
-
-
-def sets_of(deal, flags):
-    """The list of the done sets whose masks have a true flag, in their order."""
-    return [done for done in sets_in_order(len(deal.swap.hands)) if flags[mask_of(done)]]
+    slacks = bound_slacks(deal.tracks, list(range(many))) + leaning_slacks(deal.leanings.pairs, many)
+    return Field(slacks, [1] * many)
 
 
 def objections_at(strangers, tracks, totals):

@@ -1,8 +1,9 @@
 """Good rows of a deal without leanings, by kinds."""
 
-from lastgiver.cells import bearable, counts_in, first_way, reached_cells, strides_of, ways_on
+from lastgiver.cells import counts_listed, strides_of
 from lastgiver.deals import check_deal
 from lastgiver.errors import BadDeal, TooMany
+from lastgiver.fields import Field, bound_slacks, first_way, leading_cells, ways_on
 from lastgiver.kinds import Kinds
 from lastgiver.papers import Denial
 from lastgiver.rows import Good
@@ -21,20 +22,18 @@ class StuckKinds(Denial):
 def find_by_kinds(deal):
     """A Good with the first good row, or a StuckKinds with the reached counts."""
     kinds = _kinds_told(deal)
-    fit = _allowed_cells(deal, kinds)
-    ways = ways_on(fit, kinds.sizes)
-    if ways[0] > 0:
-        return Good(first_way(ways, kinds.numbers))
-    come = reached_cells(fit, kinds.sizes)
-    counts = [counts_in(cell, kinds.sizes) for cell, found in enumerate(come) if found]
-    ordered = sorted([(sum(told), told) for told in counts])
-    return StuckKinds([pair[1] for pair in ordered])
+    come = _field_of(deal, kinds).reached_cells()
+    alive = leading_cells(come, kinds.sizes)
+    if alive > 0:
+        return Good(first_way(alive, kinds.numbers))
+    return StuckKinds(counts_listed(come, kinds.sizes))
 
 
 def count_by_kinds(deal):
     """How many good rows there are."""
     kinds = _kinds_told(deal)
-    return ways_on(_allowed_cells(deal, kinds), kinds.sizes)[0] * kinds.orders
+    ways = ways_on(_field_of(deal, kinds).reached_cells(), kinds.sizes)
+    return ways.get(0, 0) * kinds.orders
 
 
 def check_unleant_deal(deal):
@@ -53,6 +52,6 @@ def _kinds_told(deal):
     return kinds
 
 
-def _allowed_cells(deal, kinds):
-    """For each cell of counts whether they are allowed."""
-    return bearable(deal.tracks, [numbers[0] for numbers in kinds.numbers], kinds.sizes)
+def _field_of(deal, kinds):
+    """The Field of the cells of counts, those that are not allowed being barred."""
+    return Field(bound_slacks(deal.tracks, [numbers[0] for numbers in kinds.numbers]), kinds.sizes)

@@ -1,9 +1,10 @@
 """All good rows of a deal, numbered in order."""
 
-from lastgiver.cells import mask_of, ways_on
+from lastgiver.cells import mask_of
 from lastgiver.checks import done_told, is_integer, is_row, is_within, row_told
-from lastgiver.deals import allowed_masks, check_small_deal, first_bad_moment
+from lastgiver.deals import check_small_deal, field_of, first_bad_moment
 from lastgiver.errors import BadNumber, NoRow, NotGood
+from lastgiver.fields import ways_on
 
 
 class Rows:
@@ -14,8 +15,8 @@ class Rows:
     def __init__(self, deal):
         check_small_deal(deal)
         self.deal = deal
-        self._ways = ways_on(allowed_masks(deal), [1] * len(deal.swap.hands))
-        self.count = self._ways[0]
+        self._ways = ways_on(field_of(deal).free_cells(), [1] * len(deal.swap.hands))
+        self.count = self._ways.get(0, 0)
 
     def __bool__(self):
         return bool(self.count)
@@ -54,7 +55,7 @@ class Rows:
 
     def from_set(self, done):
         """How many ways single moves lead from this done set to the full one."""
-        return self._ways[mask_of(done_told(len(self.deal.swap.hands), done, "done"))]
+        return self._ways.get(mask_of(done_told(len(self.deal.swap.hands), done, "done")), 0)
 
     def in_order(self, many):
         """Yield the first good rows, so many, or all if there are fewer."""
@@ -67,12 +68,12 @@ class Rows:
 
     def _ways_before(self, mask, hand):
         """How many ways lead on from this set, done next a hand-over of a lesser number than this one."""
-        return sum([self._ways[mask | (1 << other)] for other in range(hand) if not mask >> other & 1])
+        return sum([self._ways.get(mask | (1 << other), 0) for other in range(hand) if not mask >> other & 1])
 
     def _hands_on(self, mask, least):
         """The hand-overs from least on that can be done next behind this set, so that all can be done."""
         hands = range(least, len(self.deal.swap.hands))
-        return [hand for hand in hands if not mask >> hand & 1 and self._ways[mask | (1 << hand)] > 0]
+        return [hand for hand in hands if not mask >> hand & 1 and mask | (1 << hand) in self._ways]
 
     def _hand_with(self, mask, number):
         """The hand-over that is next in the way on from this set with this number."""

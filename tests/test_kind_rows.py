@@ -72,6 +72,23 @@ class KindRowsTest(Case):
                 self.check_same(tuple(sorted(counts, key=lambda row: (sum(row), row))), found.counts)
         self.assertEqual({Good, StuckKinds}, kinds)
 
+    def test_many_counts_as_by_sets(self):
+        rnd = random.Random(73)
+        kinds = set()
+        for most in (3, 6, 6, 9, 9, 12, 30, 30):
+            hands = [HandOver(*rnd.sample(["a", "b", "c"], 2), rnd.randrange(4), rnd.randrange(4)) for _ in range(6)]
+            swap = Swap(["a", "b", "c"], rnd.sample(hands * 2, 12))
+            deal = Deal(swap, Bounds.alike(3, most, most))
+            found, by_sets = find_by_kinds(deal), find_row(deal)
+            kinds.add(type(found))
+            self.assertEqual(Rows(deal).count, count_by_kinds(deal))
+            if found:
+                self.assertEqual(by_sets, found)
+            else:
+                counts = {Kinds(swap).counts_of(done) for done in by_sets.sets}
+                self.assertEqual(tuple(sorted(counts, key=lambda row: (sum(row), row))), found.counts)
+        self.assertEqual({Good, StuckKinds}, kinds)
+
     def test_there_are_as_many_good_rows_as_good_rows_tried(self):
         rnd = random.Random(72)
         deal = Deal(Swap(CUP.strangers, [CUP[0]] * 4 + [CUP[1]] * 4), Bounds([4, 2], [2, 4]))

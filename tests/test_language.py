@@ -180,7 +180,13 @@ class LanguageTest(unittest.TestCase):
                 taken.append(node)
         for name, node in nodes(ast.Call):
             if getattr(node.func, "id", "") in VIEWS or getattr(node.func, "attr", "") in ("items", "keys", "values"):
-                self.assertIn(node, taken, (name, node.lineno))
+                self.assertTrue(node in taken, (name, node.lineno))
+
+    def test_reversed_takes_what_is_plainly_a_list(self):
+        for name, node in nodes(ast.Call):
+            if getattr(node.func, "id", "") == "reversed":
+                told = node.args[0]
+                self.assertIn(getattr(told.func, "id", ""), ("list", "tuple", "sorted", "range"), (name, node.lineno))
 
     def test_generators_are_gone_over_at_once(self):
         told = {node.name for _, node in functions() if is_generator(node)}
@@ -192,7 +198,7 @@ class LanguageTest(unittest.TestCase):
         for name, node in nodes(ast.Call):
             called = getattr(node.func, "id", getattr(node.func, "attr", ""))
             if called in told:
-                self.assertIn(node, taken, (name, node.lineno))
+                self.assertTrue(node in taken, (name, node.lineno))
 
     def test_calls_of_methods(self):
         own = {row.name for _, row in methods()}

@@ -58,6 +58,22 @@ class SpeedTest(Case):
                 sets = reached(deal)[:-1] if found else found.sets
                 self.assertIs(not found, shows_stuck(deal, Stuck(sets)))
 
+    def test_few_reached_sets_of_12_hand_overs(self):
+        deal = Deal(Swap.read("a b" + " | a b 1 2" * 12), Bounds.alike(2, 1, 99))
+        for work, many in ((reached, 13), (live, 0), (firsts, 0), (lasts, 0)):
+            for _ in range(1000):
+                self.assertEqual(many, len(work(deal)))
+        self.assertLess(time.perf_counter() - self.began, 4)
+
+    def test_short_answers_on_12_hand_overs(self):
+        rnd = random.Random(116)
+        hands = [HandOver(*rnd.sample(NAMES, 2), rnd.randrange(9), rnd.randrange(9)) for _ in range(12)]
+        for bounds in (Bounds.alike(6, 1000, 1000), Bounds.alike(6, 12, 12)):
+            for _ in range(200):
+                firsts(Deal(Swap(NAMES, hands), bounds))
+                lasts(Deal(Swap(NAMES, hands), bounds))
+        self.assertLess(time.perf_counter() - self.began, 4)
+
     def test_40_hand_overs(self):
         rnd = random.Random(112)
         swap = large_swap(rnd, 40)
