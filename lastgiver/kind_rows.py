@@ -5,7 +5,7 @@ from lastgiver.deals import check_deal
 from lastgiver.errors import BadDeal, TooMany
 from lastgiver.fields import Field, bound_slacks, first_way, leading_cells, ways_on
 from lastgiver.kinds import Kinds
-from lastgiver.papers import Denial
+from lastgiver.papers import Denial, fixed
 from lastgiver.rows import Good
 
 MOST_COUNTS = 4096
@@ -15,7 +15,8 @@ class StuckKinds(Denial):
     """A closed list of counts: there is no good row."""
 
     def __init__(self, counts):
-        Denial.__init__(self, "stuckkinds", counts)
+        self.word = "stuckkinds"
+        self.parts = fixed((counts,))
         self.counts = self.parts[0]
 
 

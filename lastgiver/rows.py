@@ -3,7 +3,7 @@
 from lastgiver.cells import cells_in
 from lastgiver.deals import check_small_deal
 from lastgiver.fields import first_way
-from lastgiver.papers import Denial, Paper
+from lastgiver.papers import Denial, Paper, fixed
 from lastgiver.reached import live_bits, reached
 
 
@@ -11,7 +11,8 @@ class Good(Paper):
     """A good row."""
 
     def __init__(self, row):
-        Paper.__init__(self, "good", row)
+        self.word = "good"
+        self.parts = fixed((row,))
         self.row = self.parts[0]
 
 
@@ -19,7 +20,8 @@ class Stuck(Denial):
     """A closed list of done sets: there is no good row."""
 
     def __init__(self, sets):
-        Denial.__init__(self, "stuck", sets)
+        self.word = "stuck"
+        self.parts = fixed((sets,))
         self.sets = self.parts[0]
 
 

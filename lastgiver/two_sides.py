@@ -5,7 +5,7 @@ from lastgiver.cells import Track
 from lastgiver.checks import is_within
 from lastgiver.deals import objections_at
 from lastgiver.errors import BadBounds, BadHandOver, BadNumber, NoWay, TooMany, Unlike
-from lastgiver.papers import Denial, Paper
+from lastgiver.papers import Denial, Paper, fixed
 from lastgiver.swaps import HandOver
 
 MOST_THINGS = 500
@@ -15,7 +15,8 @@ class Sides(Paper):
     """A good tuple of 0 and 1, for who gives next."""
 
     def __init__(self, row):
-        Paper.__init__(self, "sides", row)
+        self.word = "sides"
+        self.parts = fixed((row,))
         self.row = self.parts[0]
 
 
@@ -23,7 +24,8 @@ class Gap(Denial):
     """A gap: there is no good row."""
 
     def __init__(self, place):
-        Denial.__init__(self, "gap", place)
+        self.word = "gap"
+        self.parts = fixed((place,))
         self.place = self.parts[0]
 
 

@@ -31,8 +31,8 @@ class RowWalk:
         self.is_good = len(bad) == 0
         self.first_bad = None if len(bad) == 0 else bad[0]
         self.needs = _needs_of(deal.swap, lines)
-        self.lent = tuple([_below_zero(line) for line in lines])
-        self.above = tuple([_above_nets(deal.swap, line) for line in lines])
+        self.lent = tuple([lent_on(line) for line in lines])
+        self.above = tuple([above_on(deal.swap, line) for line in lines])
 
 
 def _moment_of(deal, numbers, line):
@@ -51,11 +51,11 @@ def _needs_of(swap, lines):
     return Bounds(trusts, pledges)
 
 
-def _below_zero(line):
+def lent_on(line):
     """What all strangers together are below 0."""
     return added([-total for total in line if total.sign < 0])
 
 
-def _above_nets(swap, line):
+def above_on(swap, line):
     """What all strangers together are above their nets."""
     return added([total - net for total, net in zip(line, swap.nets) if net.is_below(total)])

@@ -21,6 +21,10 @@ NO_NAMES = [*ODD, "Ann", "1a", "a-b", "a b", "abcdefghijklm", "\u00e4", "a\u0661
 NO_LISTS = [*ODD, "1", 3, Ratio(1), CUP]
 NO_DONE = [*NO_LISTS, [True], [0, None], ["0"], (Ratio(0),), [[0]], [1.0], [0, 0.0]]
 NO_DEALS = [*ODD, CUP, Bounds.zero(2), [], 3, str(CUP)]
+NO_SWAPS = [*ODD, Bounds.zero(2), [], 3, str(CUP), Deal(CUP, Bounds.zero(2))]
+# For two hand-overs.
+NO_ROWS = [*NO_LISTS, [], (0,), (1, 2), (0, 0), (0, 1, 1), (0, 1, 2), (0, True), (-1, 0), (0, 1.0), ("0", "1"), ((0, 1),)]
+NO_SHARES = [*NO_AMOUNTS, Ratio(-1, 10 ** 9), 2, Ratio(3, 2)]
 
 
 class Case(unittest.TestCase):
@@ -192,3 +196,131 @@ def random_deals(seed, times, hands=5, leanings=True):
         many = rnd.choice([0, 1, 2, 3]) if leanings and rnd.random() < 0.6 else 0
         told.append(random_deal(rnd, rnd.choice([2, 2, 3, 4]), rnd.randrange(hands + 1), many, rnd.choice([2, 4, 8])))
     return told
+
+
+def loosened(value):
+    """A paper's part as a caller may tell it: lists for tuples, integers for whole ratios."""
+    if isinstance(value, tuple):
+        return [loosened(item) for item in value]
+    return value.top if isinstance(value, Ratio) and value.bottom == 1 else value
+
+
+def bent_leaf(value):
+    """Values that do not stand for this one."""
+    if isinstance(value, bool):
+        return [not value, int(value), Ratio(int(value)), None]
+    if isinstance(value, Ratio):
+        bools = [True, False] if value in (0, 1) else []
+        return [value + 1, -value - Ratio(1, 2), value * 2 + 3, None, str(value), (value,), *bools, 0.5]
+    if isinstance(value, int):
+        bools = [bool(value)] if value in (0, 1) else []
+        return [value + 1, value - 1, -1, Ratio(value), None, str(value), float(value), *bools]
+    return [0, False, "", (), "zed"] if value is None else [None, 0, True, value + "x", value.upper(), ()]
+
+
+def bent(value):
+    """A paper's part, bent at one place, in turn at each."""
+    if not isinstance(value, tuple):
+        yield from bent_leaf(value)
+        return
+    yield None
+    yield (*value, value)
+    for place, item in enumerate(value):
+        yield value[:place] + value[place + 1:]
+        yield value[:place] + (item, item) + value[place + 1:]
+        if place > 0 and value[place - 1] != item:
+            yield value[:place - 1] + (item, value[place - 1]) + value[place + 1:]
+        for other in bent(item):
+            yield value[:place] + (other,) + value[place + 1:]
+
+
+def is_same(one, other):
+    """Equal, an integer standing for a ratio at the left, and of the same classes otherwise."""
+    if isinstance(other, tuple):
+        return isinstance(one, tuple) and len(one) == len(other) and all(map(is_same, one, other))
+    if isinstance(other, Ratio):
+        return (isinstance(one, Ratio) or type(one) is int) and one == other
+    return type(one) is type(other) and one == other
+
+
+def plain_road(swap, moment):
+    """The road at a moment."""
+    nets = plain_sums(swap, range(len(swap)))
+    return [net * moment / len(swap) if len(swap) else Fraction(0) for net in nets]
+
+
+def plain_off(swap):
+    """The off lines."""
+    road = plain_road(swap, 1)
+    return [[one - part for one, part in zip(plain_sums(swap, [number]), road)] for number in range(len(swap))]
+
+
+def plain_rank(lines):
+    """How many lines are no sums of multiples of the others, by elimination."""
+    left = [list(told) for told in lines]
+    number = 0
+    for place in range(len(left[0]) if left else 0):
+        pivot = next((at for at in range(number, len(left)) if left[at][place] != 0), None)
+        if pivot is not None:
+            left[number], left[pivot] = left[pivot], left[number]
+            for at in range(number + 1, len(left)):
+                times = left[at][place] / left[number][place]
+                left[at] = [one - times * other for one, other in zip(left[at], left[number])]
+            number += 1
+    return number
+
+
+def by(one, other):
+    """A line by another one."""
+    return sum((as_fraction(left) * as_fraction(right) for left, right in zip(one, other)), Fraction(0))
+
+
+def own(swap, name, many, side):
+    """The own costs, or the own gains, of a stranger."""
+    told = [hand.cost if side == "cost" else hand.gain for hand in swap if name == (hand.giver if side == "cost" else hand.taker)]
+    return sum(sorted((as_fraction(one) for one in told), reverse=True)[:many], Fraction(0))
+
+
+def plain_enough(swap):
+    """The enough trusts and the enough pledges."""
+    number, many = plain_rank(plain_off(swap)), len(swap)
+    trusts, pledges = [], []
+    for place, name in enumerate(swap.strangers):
+        net = plain_sums(swap, range(many))[place]
+        trusts.append(max([0, -net]))
+        pledges.append(max([0, -net]))
+        for moment in range(1, many):
+            road = plain_road(swap, max(0, moment - number))[place]
+            trusts[-1] = max(trusts[-1], own(swap, name, number, "cost") - road)
+            pledges[-1] = max(pledges[-1], own(swap, name, number, "gain") + road - net)
+    return trusts, pledges
+
+
+def is_rank(swap, number, kept, pulls):
+    """Whether this is a rank: kept ones, lines that tell them apart, and all off lines made of them."""
+    lines = plain_off(swap)
+    if not (len(kept) == len(pulls) == number) or list(kept) != sorted(set(kept)):
+        return False
+    for place, pull in enumerate(pulls):
+        if any(by(pull, lines[one]) != (at == place) for at, one in enumerate(kept)):
+            return False
+    for told in lines:
+        made = [sum(by(pull, told) * lines[one][at] for pull, one in zip(pulls, kept)) for at in range(len(told))]
+        if made != told:
+            return False
+    return True
+
+
+def are_weights(swap, number, row, weights):
+    """Whether these are the weights of a chain."""
+    lines, many = plain_off(swap), len(swap)
+    if len(weights) != many - number + 1:
+        return False
+    for told, long in zip(weights, range(many, number - 1, -1)):
+        plain = [as_fraction(weight) for weight in told]
+        if len(told) != long or sum(plain) != long - number or any(not 0 <= weight <= 1 for weight in plain):
+            return False
+        for place in range(len(swap.strangers)):
+            if sum(weight * lines[one][place] for weight, one in zip(plain, row)) != 0:
+                return False
+    return True

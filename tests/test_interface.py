@@ -20,6 +20,16 @@ FUNCTIONS = {
     "two_sides": "two_sides(one,many,other,more,bounds)",
     "check_rows": "shows_good(deal,value) shows_stuck(deal,value) shows_stuck_kinds(deal,value) "
                   "shows_sides(one,many,other,more,bounds,value) shows_gap(one,many,other,more,bounds,value)",
+    "plays": "played(deal,row,careful=False) leaver(deal,row,careful=False) tempted(deal,row)",
+    "group_plays": "played_groups(deal,groups,careful=False)",
+    "weeks": "weekly(deal,q) forever(swap,q)",
+    "seasons": "season(swap,row,q,weeks) unrolled(swap,row,q,weeks)",
+    "check_plays": "shows_played(deal,value,careful=False) shows_played_groups(deal,value,careful=False) "
+                   "shows_season(swap,q,weeks,value)",
+    "roads": "off(swap) rank(swap) enough_bounds(swap) from_here(swap,done) chest(swap,done=())",
+    "chains": "enough(swap) finish(swap,done)",
+    "starts": "begun_at(row,start) spared(swap,row,name) bound_to(swap,row,name)",
+    "even": "lane(deal) grain(swap) enough_width(swap) filled(deal) hardest(p,q)",
 }
 CLASSES = {
     ("ratios", "Ratio"): "__init__(top,bottom=1) over(other) compared(other) is_below(other) read(text) of(value) __add__ "
@@ -44,6 +54,14 @@ CLASSES = {
     ("kind_rows", "StuckKinds"): "__init__(counts)",
     ("two_sides", "Sides"): "__init__(row)",
     ("two_sides", "Gap"): "__init__(place)",
+    ("plays", "Played"): "__init__(row,leaves,outcomes) is_whole handed",
+    ("group_plays", "PlayedGroups"): "__init__(groups,leavers,outcomes)",
+    ("seasons", "Season"): "__init__(row,leaves,outcomes)",
+    ("roads", "Rank"): "__init__(number,kept,pulls)",
+    ("chains", "Chain"): "__init__(rank,row,weights)",
+    ("even", "Filled"): "__init__(row)",
+    ("even", "Outside"): "__init__(moment)",
+    ("even", "Halted"): "__init__(row)",
 }
 
 

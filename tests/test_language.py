@@ -254,7 +254,7 @@ class LanguageTest(unittest.TestCase):
         for name, node in nodes(ast.Compare):
             for sign, right in zip(node.ops, node.comparators):
                 if isinstance(sign, (ast.Is, ast.IsNot)):
-                    by_kind = isinstance(node.left, ast.Call) and node.left.func.id == "type"
+                    by_kind = isinstance(node.left, ast.Call) and getattr(node.left.func, "id", "") == "type"
                     plain = isinstance(right, ast.Constant) and right.value in (None, True, False)
                     self.assertTrue(by_kind or plain, (name, node.lineno))
 

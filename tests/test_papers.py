@@ -2,14 +2,26 @@
 
 import unittest
 
+from lastgiver.chains import Chain
+from lastgiver.even import Filled, Halted, Outside
+from lastgiver.group_plays import PlayedGroups
 from lastgiver.kind_rows import StuckKinds
 from lastgiver.papers import Denial, Paper, fixed
+from lastgiver.plays import Played
 from lastgiver.ratios import Ratio
+from lastgiver.roads import Rank
 from lastgiver.rows import Good, Stuck
+from lastgiver.seasons import Season
 from lastgiver.two_sides import Gap, Sides
 
 from support import Case
 
+# Each class of papers of several parts, with their names.
+SEVERAL = [
+    (Played, "row leaves outcomes", True), (PlayedGroups, "groups leavers outcomes", True), (Season, "row leaves outcomes", True),
+    (Rank, "number kept pulls", True), (Chain, "rank row weights", True), (Filled, "row", True), (Outside, "moment", False),
+    (Halted, "row", False),
+]
 KINDS = [(Good, "good", "row", True), (Stuck, "stuck", "sets", False), (StuckKinds, "stuckkinds", "counts", False),
          (Sides, "sides", "row", True), (Gap, "gap", "place", False)]
 
@@ -69,6 +81,23 @@ class PapersTest(Case):
                     self.assertIsInstance(paper, Paper)
             self.check_same((1, (2, (("a", ()),))), getattr(kind([1, [2, {"a": []}]]), part))
             self.check_equality(lambda: kind([1]), [kind([2]), kind(1), Paper(word, [1]), Denial(word, [1])])
+
+    def test_classes_of_papers_of_several_parts(self):
+        for kind, told, truth in SEVERAL:
+            names = told.split()
+            for values in ([None] * 3, [3, True, "x"], [[1, [2]], {"a": []}, Ratio(1, 2)]):
+                values = values[:len(names)]
+                for paper in (kind(*values), kind(**dict(zip(names[::-1], values[::-1])))):
+                    self.assertEqual(kind.__name__.lower(), paper.word)
+                    self.check_same(fixed(values), paper.parts)
+                    for name, value in zip(names, values):
+                        self.check_same(fixed(value), getattr(paper, name))
+                    self.assertIs(truth, bool(paper))
+                    self.assertIs(not truth, isinstance(paper, Denial))
+                    self.assertIsInstance(paper, Paper)
+            one = [[1]] * len(names)
+            others = [kind(*one[:place], 2, *one[place + 1:]) for place in range(len(names))]
+            self.check_equality(lambda: kind(*one), [*others, Paper(kind.__name__.lower(), *one), Denial(kind.__name__.lower(), *one)])
 
 
 if __name__ == "__main__":

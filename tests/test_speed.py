@@ -5,16 +5,24 @@ import time
 import unittest
 
 from lastgiver.bounds import Bounds
+from lastgiver.chains import enough, finish
+from lastgiver.check_plays import shows_played, shows_played_groups, shows_season
 from lastgiver.check_rows import shows_good, shows_stuck, shows_stuck_kinds
 from lastgiver.deals import Deal, allowed_sets
 from lastgiver.errors import Ring, TooMany
+from lastgiver.even import enough_width, filled, grain
+from lastgiver.group_plays import played_groups
 from lastgiver.kind_rows import StuckKinds, count_by_kinds, find_by_kinds
 from lastgiver.kinds import Kinds
 from lastgiver.leanings import Leanings
 from lastgiver.numbered import Rows
+from lastgiver.plays import played, tempted
 from lastgiver.ratios import Ratio
 from lastgiver.reached import firsts, lasts, live, reached
+from lastgiver.roads import chest, enough_bounds, from_here, off, rank
 from lastgiver.rows import Good, Stuck, find_row, forced
+from lastgiver.seasons import season, unrolled
+from lastgiver.starts import bound_to, spared
 from lastgiver.sums import along, done_sets, sums
 from lastgiver.swaps import HandOver, Swap
 from lastgiver.turned_deals import exchanged, handed_back_deal, rest_deal
@@ -91,6 +99,60 @@ class SpeedTest(Case):
         self.assertEqual(tuple(range(39)), Leanings(40, pairs).ahead_of(39))
         self.check_raises(Ring(0, (0, 39)), Leanings, 40, [*pairs, (39, 0)])
 
+    def test_plays_of_40_hand_overs(self):
+        rnd = random.Random(117)
+        swap = large_swap(rnd, 40)
+        row = tuple(range(40))
+        for careful in (False, True):
+            deal = Deal(swap, Bounds([large(rnd) for _ in NAMES], [large(rnd) for _ in NAMES]))
+            found = played(deal, row, careful)
+            self.assertTrue(shows_played(deal, found, careful))
+            self.assertEqual(len(list(tempted(deal, row))), len(list(tempted(deal, list(row)))))
+            groups = played_groups(deal, [[number, number + 20] for number in range(20)], careful)
+            self.assertTrue(shows_played_groups(deal, groups, careful))
+
+    def test_24_weeks(self):
+        rnd = random.Random(118)
+        swap = large_swap(rnd, 40)
+        q = Ratio(10 ** 29 + 7, 10 ** 30 - 1)
+        found = season(swap, tuple(range(40)), q, 24)
+        self.assertTrue(shows_season(swap, q, 24, found))
+        self.assertEqual(40, len(unrolled(large_swap(rnd, 10), tuple(range(10)), q, 4)[0]))
+
+    def test_roads_of_40_hand_overs(self):
+        rnd = random.Random(119)
+        swap = large_swap(rnd, 40)
+        self.assertEqual(6, rank(swap).number)
+        self.assertEqual(6, len(enough_bounds(swap)))
+        self.assertEqual(6, len(from_here(swap, (3, 5))))
+        self.assertEqual(2, len(chest(swap, (3, 5))))
+        self.assertEqual(40, len(off(swap)))
+        many = Swap(NAMES, [hand if place % 2 else hand.returned() for place, hand in enumerate(swap)])
+        name = NAMES[[net.sign >= 0 for net in many.nets].index(True)]
+        self.assertEqual((40, 40), (len(spared(many, tuple(range(40)), name)), len(bound_to(many, tuple(range(40)), name))))
+
+    def test_chains_of_20_hand_overs_and_six_strangers(self):
+        rnd = random.Random(120)
+        for _ in range(3):
+            self.assertEqual(21 - 6, len(enough(large_swap(rnd, 20)).weights))
+            self.assertEqual(20, len(finish(large_swap(rnd, 30), tuple(range(10)))))
+
+    def test_many_small_chains(self):
+        rnd = random.Random(121)
+        for _ in range(200):
+            hands = [HandOver(*rnd.sample(NAMES, 2), rnd.randrange(9), rnd.randrange(9)) for _ in range(12)]
+            enough(Swap(NAMES, hands))
+
+    def test_even_prices_of_40_hand_overs(self):
+        rnd = random.Random(122)
+        hands = []
+        for _ in range(40):
+            worth = large(rnd)
+            hands.append(HandOver(*rnd.sample(NAMES[:2], 2), worth, worth))
+        deal = Deal(Swap(NAMES[:2], hands), Bounds.alike(2, 10 ** 4, 10 ** 4))
+        self.assertEqual(40, len(filled(deal).row))
+        self.assertEqual(1, (enough_width(deal.swap) + grain(deal.swap)).sign)
+
     def test_refusals_by_size(self):
         swap = large_swap(random.Random(113), 40)
         deal = Deal(swap, Bounds.alike(6, None, None))
@@ -98,6 +160,8 @@ class SpeedTest(Case):
             self.check_raises(TooMany("hands", 12), work, deal)
         for work in (find_by_kinds, count_by_kinds):
             self.check_raises(TooMany("counts", 4096), work, deal)
+        self.check_raises(TooMany("hands", 20), enough, swap)
+        self.check_raises(TooMany("weeks", 24), season, swap, tuple(range(40)), Ratio(1, 3), 10 ** 30)
         self.check_raises(TooMany("hands", 12), lambda: list(done_sets(swap)))
 
     def test_4096_counts(self):
