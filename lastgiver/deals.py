@@ -3,7 +3,7 @@
 from lastgiver.bounds import Bounds, bounds_at
 from lastgiver.cells import mask_of, sets_in, tracks_of
 from lastgiver.checks import check_hand, done_told, integer_in, is_within, word_at, words_of
-from lastgiver.errors import BadBounds, BadDeal, BadLeanings, BadText, Done, TooMany, Unlike
+from lastgiver.errors import BadBounds, BadDeal, BadLeanings, BadText, Done, Leans, TooMany, Unlike
 from lastgiver.fields import Field, bound_slacks, leaning_slacks
 from lastgiver.leanings import Leanings, are_pairs
 from lastgiver.swaps import check_swap, swap_at_start
@@ -117,6 +117,13 @@ def check_deal(deal):
     """Raise BadDeal for any value that is no Deal."""
     if not isinstance(deal, Deal):
         raise BadDeal("deal")
+
+
+def check_no_leaning(deal):
+    """Raise Leans with the first leaning of a deal that has some."""
+    if len(deal.leanings.pairs) > 0:
+        one, other = deal.leanings.pairs[0]
+        raise Leans(one, other)
 
 
 def check_small_deal(deal):

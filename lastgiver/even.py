@@ -3,8 +3,8 @@
 from math import gcd, lcm
 
 from lastgiver.checks import is_within
-from lastgiver.deals import check_deal
-from lastgiver.errors import BadNumber, Leans, NotCoprime, NotEven, NotTwo, TooMany
+from lastgiver.deals import check_deal, check_no_leaning
+from lastgiver.errors import BadNumber, NotCoprime, NotEven, NotTwo, TooMany
 from lastgiver.papers import Denial, Paper, fixed
 from lastgiver.ratios import Ratio, greatest_of, least_of
 from lastgiver.swaps import HandOver, Swap, check_swap
@@ -125,13 +125,6 @@ def check_fillable(deal):
     check_deal(deal)
     check_even_pair(deal.swap)
     check_no_leaning(deal)
-
-
-def check_no_leaning(deal):
-    """Raise Leans with the first leaning of a deal that has some."""
-    if len(deal.leanings.pairs) > 0:
-        one, other = deal.leanings.pairs[0]
-        raise Leans(one, other)
 
 
 def lies_in(ends, total):

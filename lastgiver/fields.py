@@ -29,10 +29,6 @@ class Field:
                 place = self._place_for(first, _furthest(first, changes, self.sizes))
                 self.steps = [step + (change << place) for step, change in zip(self.steps, changes)]
 
-    def state_at(self, counts):
-        """The state of the cell with these counts."""
-        return self.start + sum([step * count for step, count in zip(self.steps, counts)])
-
     def is_free(self, state):
         """Whether a cell with this state is free; it has no more than one step too many."""
         return state & self.guard == self.guard

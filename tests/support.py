@@ -7,6 +7,7 @@ from fractions import Fraction
 
 from lastgiver.bounds import Bounds
 from lastgiver.deals import Deal
+from lastgiver.dials import Dial
 from lastgiver.errors import LastError
 from lastgiver.ratios import Ratio
 from lastgiver.swaps import HandOver, Swap
@@ -322,5 +323,143 @@ def are_weights(swap, number, row, weights):
             return False
         for place in range(len(swap.strangers)):
             if sum(weight * lines[one][place] for weight, one in zip(plain, row)) != 0:
+                return False
+    return True
+
+
+def random_dial(rnd, names, trusts=True, pledges=True):
+    """A dial with some of the bounds of these strangers, some with a weight of 0."""
+    halves = []
+    for told in (trusts, pledges):
+        on = [name for name in names if told and rnd.random() < 0.7]
+        halves.append({name: rnd.choice([0, 1, 1, 1, 2, Ratio(1, 2), Ratio(3, 2)]) for name in on})
+    return Dial(*halves)
+
+
+def plain_needs(deal, dials):
+    """For each done set what it needs of each dial, as Fractions; sets that are allowed at no numbers are left out."""
+    needs = {}
+    for done in all_sets(len(deal)):
+        told = []
+        for dial in dials:
+            rest = Dial(
+                {pair[0]: 0 for other in dials if other is not dial for pair in other.trust_weights},
+                {pair[0]: 0 for other in dials if other is not dial for pair in other.pledge_weights},
+            )
+            wide = Bounds(
+                [None if name in dict(rest.trust_weights) else one for name, one in zip(deal.swap.strangers, deal.bounds.trusts)],
+                [None if name in dict(rest.pledge_weights) else one for name, one in zip(deal.swap.strangers, deal.bounds.pledges)],
+            )
+            told.append(dial.allowed_from(deal.with_bounds(wide), done))
+        if None not in told:
+            needs[done] = tuple(as_fraction(one) for one in told)
+    return needs
+
+
+def plain_closure(allowed, many, done=()):
+    """The sets among these that single moves lead to from a first one, in their order."""
+    found = {done} & set(allowed)
+    for one in [one for one in all_sets(many) if len(one) > len(done)]:
+        behind = [tuple(number for number in one if number != left) for left in one if left not in done]
+        if one in allowed and any(other in found for other in behind):
+            found.add(one)
+    return [one for one in all_sets(many) if one in found]
+
+
+def plain_tally_allowed(deal, counts, tally):
+    """Whether nobody objects to the sums of a tally."""
+    nets = plain_sums(deal.swap, range(len(deal)))
+    for place, name in enumerate(deal.swap.strangers):
+        effects = [as_fraction(hand.effect(name)) * done / count for hand, done, count in zip(deal.swap, tally, counts)]
+        total = sum(effects, Fraction(0))
+        trust, pledge = deal.bounds.trusts[place], deal.bounds.pledges[place]
+        if trust is not None and total < -as_fraction(trust):
+            return False
+        if pledge is not None and total > nets[place] + as_fraction(pledge):
+            return False
+    return True
+
+
+def plain_pieces(deal, counts):
+    """The first good piece order, or None, and all reached tallies in their order."""
+    tallies = sorted(itertools.product(*[range(count + 1) for count in counts]), key=lambda told: (sum(told), told))
+    found = set()
+    for tally in tallies:
+        behind = [(*tally[:at], tally[at] - 1, *tally[at + 1:]) for at in range(len(tally)) if tally[at] > 0]
+        if plain_tally_allowed(deal, counts, tally) and (not any(tally) or any(one in found for one in behind)):
+            found.add(tally)
+    alive = {tuple(counts)} & found
+    for tally in tallies[::-1]:
+        further = [(*tally[:at], tally[at] + 1, *tally[at + 1:]) for at in range(len(tally))]
+        if tally in found and any(one in alive for one in further):
+            alive.add(tally)
+    order, tally = [], (0,) * len(counts)
+    while alive and tally != tuple(counts):
+        further = [(at, (*tally[:at], tally[at] + 1, *tally[at + 1:])) for at in range(len(tally))]
+        number, tally = next((at, one) for at, one in further if one in alive)
+        order.append(number)
+    return (tuple(order) if alive else None), [one for one in tallies if one in found]
+
+
+def plain_opened(deal):
+    """The numbers that open, as they are found."""
+    found = []
+    while True:
+        for number, hand in enumerate(deal.swap):
+            giver, taker = deal.swap.strangers.index(hand.giver), deal.swap.strangers.index(hand.taker)
+            pledge = deal.bounds.pledges[taker]
+            gives = hand.cost == 0 or deal.bounds.trusts[giver] != 0
+            takes = hand.gain == 0 or pledge is None or deal.swap.nets[taker] + pledge != 0
+            for other in (deal.swap.hands[one] for one in found):
+                gives = gives or (other.taker == hand.giver and other.gain.sign > 0)
+                takes = takes or (other.giver == hand.taker and other.cost.sign > 0)
+            if number not in found and gives and takes:
+                found.append(number)
+                break
+        else:
+            return tuple(found)
+
+
+def is_fine(deal, opening, closing, pieces):
+    """Whether these are the parts of a right Fine, told as the document tells it."""
+    for pairs in (opening, closing):
+        if not isinstance(pairs, tuple) or not all(isinstance(pair, tuple) and len(pair) == 2 for pair in pairs):
+            return False
+        for number, amount in pairs:
+            if type(number) is not int or type(amount) not in (int, Ratio) or not 0 <= number < len(deal):
+                return False
+    if type(pieces) is not int or pieces < 1:
+        return False
+    both = [(number, as_fraction(amount)) for number, amount in (*opening, *closing)]
+    if any(amount <= 0 or (amount * pieces).denominator != 1 for _, amount in both):
+        return False
+    if any(sum(amount for one, amount in both if one == number) > 1 for number in range(len(deal))):
+        return False
+    nets = plain_sums(deal.swap, range(len(deal)))
+    effects = [[as_fraction(hand.effect(name)) for name in deal.swap.strangers] for hand in deal.swap]
+    points = [[Fraction(0)] * len(nets)]
+    for number, amount in both[:len(opening)]:
+        points.append([total + amount * effect for total, effect in zip(points[-1], effects[number])])
+    behind = len(points) - 1
+    points.append(list(nets))
+    for number, amount in both[len(opening):]:
+        points[-1] = [total - amount * effect for total, effect in zip(points[-1], effects[number])]
+    for number, amount in both[len(opening):]:
+        points.append([total + amount * effect for total, effect in zip(points[-1], effects[number])])
+    rooms = []
+    for point in points:
+        told = []
+        for total, net, trust, pledge in zip(point, nets, deal.bounds.trusts, deal.bounds.pledges):
+            ends = [total + as_fraction(trust)] if trust is not None else []
+            ends += [net + as_fraction(pledge) - total] if pledge is not None else []
+            told.append(min(ends, default=None))
+        rooms.append(told)
+    if any(room is not None and room < 0 for told in rooms for room in told):
+        return False
+    for place in range(len(nets)):
+        mine = [effect[place] for effect in effects]
+        wide = max(mine, default=0) - min(mine, default=0)
+        for told in (rooms[behind], rooms[behind + 1]):
+            if told[place] is not None and len(nets) * wide > pieces * told[place]:
                 return False
     return True

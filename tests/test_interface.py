@@ -29,6 +29,16 @@ FUNCTIONS = {
     "roads": "off(swap) rank(swap) enough_bounds(swap) from_here(swap,done) chest(swap,done=())",
     "chains": "enough(swap) finish(swap,done)",
     "starts": "begun_at(row,start) spared(swap,row,name) bound_to(swap,row,name)",
+    "check_enough": "shows_rank(swap,value) shows_enough(swap,value) shows_filled(deal,value)",
+    "least": "least(deal,dial,done=())",
+    "fronts": "front(deal,one,other)",
+    "patience": "patience(deal)",
+    "check_least": "shows_least(deal,dial,value,done=()) shows_front(deal,one,other,value) shows_patience(deal,value)",
+    "pieces": "cut(swap,counts) cut_deal(deal,counts) whole_of(counts) pieced(deal,counts) stretched(paper,times)",
+    "fitting": "fitting(deal,most) least_pieces(deal,most) fewest_pieces(deal,extra) enough_pieces(deal)",
+    "fine": "openings(deal) closings(deal) fine(deal) sources(swap)",
+    "check_pieces": "shows_pieced(deal,value) shows_least_pieces(deal,value) shows_fewest_pieces(deal,value) "
+                    "shows_enough_pieces(deal,value) shows_fine(deal,value)",
     "even": "lane(deal) grain(swap) enough_width(swap) filled(deal) hardest(p,q)",
 }
 CLASSES = {
@@ -62,6 +72,24 @@ CLASSES = {
     ("even", "Filled"): "__init__(row)",
     ("even", "Outside"): "__init__(moment)",
     ("even", "Halted"): "__init__(row)",
+    ("dials", "Dial"): "__init__(trust_weights,pledge_weights) all_trust(swap) all_pledge(swap) all_bounds(swap) one_trust(name) "
+                       "one_pledge(name) as_told(deal) by_weeks(swap) exchanged() at(deal,x) need(swap,done) "
+                       "allowed_from(deal,done) read(text) __eq__ __str__",
+    ("least", "Least"): "__init__(number,row,pinch,fence)",
+    ("least", "Never"): "__init__(sets)",
+    ("fronts", "Front"): "__init__(points,rows,fences) does(x,y) cheapest(a,b)",
+    ("patience", "Patience"): "__init__(number,factor)",
+    ("pieces", "Pieced"): "__init__(counts,order)",
+    ("pieces", "Unpieced"): "__init__(counts,reached)",
+    ("fitting", "LeastPieces"): "__init__(pieces,order,denials)",
+    ("fitting", "FewestPieces"): "__init__(counts,order,denials)",
+    ("fitting", "EnoughPieces"): "__init__(pieces)",
+    ("fitting", "NoPieces"): "__init__(most,denials)",
+    ("fitting", "NoFewest"): "__init__(extra,denials)",
+    ("fitting", "Tight"): "__init__(name,side)",
+    ("fine", "Fine"): "__init__(opening,closing,pieces)",
+    ("fine", "Unopened"): "__init__(opened,against)",
+    ("fine", "Unclosed"): "__init__(closed,against)",
 }
 
 

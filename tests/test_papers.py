@@ -4,9 +4,15 @@ import unittest
 
 from lastgiver.chains import Chain
 from lastgiver.even import Filled, Halted, Outside
+from lastgiver.fine import Fine, Unclosed, Unopened
+from lastgiver.fitting import EnoughPieces, FewestPieces, LeastPieces, NoFewest, NoPieces, Tight
+from lastgiver.fronts import Front
 from lastgiver.group_plays import PlayedGroups
 from lastgiver.kind_rows import StuckKinds
+from lastgiver.least import Least, Never
 from lastgiver.papers import Denial, Paper, fixed
+from lastgiver.patience import Patience
+from lastgiver.pieces import Pieced, Unpieced
 from lastgiver.plays import Played
 from lastgiver.ratios import Ratio
 from lastgiver.roads import Rank
@@ -20,7 +26,11 @@ from support import Case
 SEVERAL = [
     (Played, "row leaves outcomes", True), (PlayedGroups, "groups leavers outcomes", True), (Season, "row leaves outcomes", True),
     (Rank, "number kept pulls", True), (Chain, "rank row weights", True), (Filled, "row", True), (Outside, "moment", False),
-    (Halted, "row", False),
+    (Halted, "row", False), (Least, "number row pinch fence", True), (Never, "sets", False), (Front, "points rows fences", True),
+    (Patience, "number factor", True), (Pieced, "counts order", True), (Unpieced, "counts reached", False),
+    (LeastPieces, "pieces order denials", True), (FewestPieces, "counts order denials", True), (EnoughPieces, "pieces", True),
+    (NoPieces, "most denials", False), (NoFewest, "extra denials", False), (Tight, "name side", False),
+    (Fine, "opening closing pieces", True), (Unopened, "opened against", False), (Unclosed, "closed against", False),
 ]
 KINDS = [(Good, "good", "row", True), (Stuck, "stuck", "sets", False), (StuckKinds, "stuckkinds", "counts", False),
          (Sides, "sides", "row", True), (Gap, "gap", "place", False)]
@@ -85,7 +95,7 @@ class PapersTest(Case):
     def test_classes_of_papers_of_several_parts(self):
         for kind, told, truth in SEVERAL:
             names = told.split()
-            for values in ([None] * 3, [3, True, "x"], [[1, [2]], {"a": []}, Ratio(1, 2)]):
+            for values in ([None] * 4, [3, True, "x", ()], [[1, [2]], {"a": []}, Ratio(1, 2), 5]):
                 values = values[:len(names)]
                 for paper in (kind(*values), kind(**dict(zip(names[::-1], values[::-1])))):
                     self.assertEqual(kind.__name__.lower(), paper.word)

@@ -6,16 +6,26 @@ import unittest
 
 from lastgiver.bounds import Bounds
 from lastgiver.chains import enough, finish
+from lastgiver.check_enough import shows_enough, shows_rank
+from lastgiver.check_least import shows_front, shows_least, shows_patience
+from lastgiver.check_pieces import shows_enough_pieces, shows_fewest_pieces, shows_fine, shows_least_pieces, shows_pieced
 from lastgiver.check_plays import shows_played, shows_played_groups, shows_season
 from lastgiver.check_rows import shows_good, shows_stuck, shows_stuck_kinds
 from lastgiver.deals import Deal, allowed_sets
+from lastgiver.dials import Dial
 from lastgiver.errors import Ring, TooMany
 from lastgiver.even import enough_width, filled, grain
+from lastgiver.fine import fine, sources
+from lastgiver.fitting import enough_pieces, fewest_pieces, least_pieces
+from lastgiver.fronts import front
 from lastgiver.group_plays import played_groups
 from lastgiver.kind_rows import StuckKinds, count_by_kinds, find_by_kinds
 from lastgiver.kinds import Kinds
 from lastgiver.leanings import Leanings
+from lastgiver.least import least
 from lastgiver.numbered import Rows
+from lastgiver.patience import patience
+from lastgiver.pieces import pieced
 from lastgiver.plays import played, tempted
 from lastgiver.ratios import Ratio
 from lastgiver.reached import firsts, lasts, live, reached
@@ -153,6 +163,89 @@ class SpeedTest(Case):
         self.assertEqual(40, len(filled(deal).row))
         self.assertEqual(1, (enough_width(deal.swap) + grain(deal.swap)).sign)
 
+    def test_least_numbers_of_12_hand_overs(self):
+        rnd = random.Random(123)
+        for _ in range(3):
+            swap = Swap(NAMES, [HandOver(*rnd.sample(NAMES, 2), large(rnd), large(rnd) * 3) for _ in range(12)])
+            deal = Deal(swap, Bounds([large(rnd) * 3 for _ in NAMES], [None] * 6))
+            for dial in (Dial.all_trust(swap), Dial.all_bounds(swap), Dial.all_pledge(swap), Dial.as_told(deal)):
+                found = least(deal, dial)
+                self.assertTrue(shows_least(deal, dial, found))
+        many = Deal(large_swap(rnd, 40), Bounds.alike(6, None, None))
+        found = least(many, Dial.all_bounds(many.swap), list(range(28)))
+        self.assertTrue(shows_least(many, Dial.all_bounds(many.swap), found, list(range(28))))
+
+    def test_few_reached_sets_seen_from_a_dial(self):
+        # Of 4,096 done sets only some are reached at any number; the full one is not.
+        swap = Swap.read("a b" + " | a b 1 2" * 12)
+        deal = Deal(swap, Bounds.alike(2, 1, 99))
+        for _ in range(1000):
+            self.assertEqual(13, len(least(deal, Dial.all_pledge(swap)).sets))
+        self.assertLess(time.perf_counter() - self.began, 4)
+
+    def test_fronts_of_8_hand_overs(self):
+        rnd = random.Random(124)
+        points = 0
+        for strangers in (2, 2, 2, 2, 2, 2, 3, 6):
+            names = NAMES[:strangers]
+            swap = Swap(names, [HandOver(*rnd.sample(names, 2), large(rnd), large(rnd)) for _ in range(8)])
+            deal = Deal(swap, Bounds.zero(strangers))
+            found = front(deal, Dial.all_trust(swap), Dial.all_pledge(swap))
+            points += len(found.points)
+            self.assertTrue(shows_front(deal, Dial.all_trust(swap), Dial.all_pledge(swap), found))
+        self.assertGreater(points, 20)
+
+    def test_patience_of_12_hand_overs(self):
+        rnd = random.Random(125)
+        hands = []
+        for number in range(12):
+            hands.append(HandOver(NAMES[number % 6], NAMES[(number + 1) % 6], large(rnd), large(rnd) * 1000))
+        deal = Deal(Swap(NAMES, hands), Bounds.alike(6, 10 ** 4, 0))
+        self.assertTrue(shows_patience(deal, patience(deal)))
+
+    def test_4096_tallies(self):
+        rnd = random.Random(126)
+        for many, count in ((12, 1), (6, 3), (4, 7), (3, 15), (2, 63), (1, 4095)):
+            swap = large_swap(rnd, many)
+            for bounds in (Bounds.alike(6, 10 ** 4, 10 ** 4), Bounds([large(rnd) for _ in NAMES], [10 ** 4] * 6)):
+                deal = Deal(swap, bounds)
+                found = pieced(deal, count)
+                self.assertTrue(shows_pieced(deal, found))
+
+    def test_many_numbers_of_pieces_of_one_hand_over(self):
+        # Each time nothing is reached but the tally of none: thousands of tallies are not looked at.
+        deal = Deal(Swap.read("a b | a b 1 1"), Bounds([0, 9], [9, 9]))
+        found = least_pieces(deal, 4095)
+        self.assertEqual((((0,),),) * 4095, found.denials)
+        self.assertTrue(shows_least_pieces(deal, found))
+        self.assertLess(time.perf_counter() - self.began, 4)
+        half = least_pieces(Deal(deal.swap, Bounds([Ratio(1, 2), 9], [9, 9])), 500)
+        self.assertEqual(500, len(half.denials))
+
+    def test_fewest_pieces_of_6_hand_overs(self):
+        rnd = random.Random(127)
+        for _ in range(3):
+            swap = Swap(NAMES, [HandOver(*rnd.sample(NAMES, 2), large(rnd), large(rnd)) for _ in range(6)])
+            deal = Deal(swap, Bounds.alike(6, Ratio(1, 9), 10 ** 4))
+            found = fewest_pieces(deal, 4)
+            self.assertTrue(shows_fewest_pieces(deal, found))
+
+    def test_fine_pieces_of_40_hand_overs(self):
+        rnd = random.Random(128)
+        hands = [HandOver(NAMES[number % 6], NAMES[(number + 1 + number // 6 % 5) % 6], large(rnd), large(rnd) * 1000) for number in range(40)]
+        for bounds in (Bounds.alike(6, 10 ** 4, 10 ** 4), Bounds([1, 0, 0, 0, 0, 0], [1, 0, 0, 0, 0, 0]), Bounds.zero(6)):
+            deal = Deal(Swap(NAMES, hands), bounds)
+            self.assertTrue(shows_fine(deal, fine(deal)))
+            self.assertTrue(shows_enough_pieces(deal, enough_pieces(deal)))
+            self.assertEqual(1, len(sources(deal.swap)))
+
+    def test_papers_of_roads_are_read(self):
+        rnd = random.Random(129)
+        swap = large_swap(rnd, 40)
+        self.assertTrue(shows_rank(swap, rank(swap)))
+        swap = large_swap(rnd, 20)
+        self.assertTrue(shows_enough(swap, enough(swap)))
+
     def test_refusals_by_size(self):
         swap = large_swap(random.Random(113), 40)
         deal = Deal(swap, Bounds.alike(6, None, None))
@@ -161,6 +254,12 @@ class SpeedTest(Case):
         for work in (find_by_kinds, count_by_kinds):
             self.check_raises(TooMany("counts", 4096), work, deal)
         self.check_raises(TooMany("hands", 20), enough, swap)
+        many = Deal(swap, Bounds.alike(6, 10 ** 4, 10 ** 4))
+        self.check_raises(TooMany("hands", 12), least, many, Dial.all_trust(swap))
+        self.check_raises(TooMany("hands", 8), front, many, Dial.all_trust(swap), Dial.all_pledge(swap))
+        self.check_raises(TooMany("tallies", 4096), pieced, many, 10 ** 30)
+        self.check_raises(TooMany("tallies", 4096), least_pieces, many, 10 ** 30)
+        self.check_raises(TooMany("hands", 6), fewest_pieces, many, 4)
         self.check_raises(TooMany("weeks", 24), season, swap, tuple(range(40)), Ratio(1, 3), 10 ** 30)
         self.check_raises(TooMany("hands", 12), lambda: list(done_sets(swap)))
 
