@@ -4,7 +4,7 @@ from math import lcm
 
 from lastgiver.chains import Chain
 from lastgiver.checks import are_integers, is_integer, is_row
-from lastgiver.even import Filled, Halted, Outside, check_fillable, filled, lane, lies_in
+from lastgiver.even import Filled, check_fillable, filled, lane, lies_in
 from lastgiver.matched import matches
 from lastgiver.ratios import Ratio, is_ratio
 from lastgiver.roads import Rank, off
@@ -51,8 +51,6 @@ def shows_filled(deal, value):
             return False
         ends = lane(deal)
         return all([lies_in(ends, line[0]) for line in list(along(deal.swap, value.row))])
-    if type(value) is not Outside and type(value) is not Halted:
-        return False
     right = filled(deal)
     return type(value) is type(right) and matches(value.parts, right.parts)
 

@@ -45,9 +45,12 @@ def shows_patience(deal, value):
     dial = Dial.by_weeks(deal.swap)
     if type(value) is Never:
         return shows_least(deal, dial, value)
-    if type(value) is not Patience or type(value.factor) is not Least or not shows_least(deal, dial, value.factor):
+    if type(value) is not Patience:
         return False
-    return matches(value.number, share_of(value.factor.number))
+    factor = value.factor
+    if type(factor) is not Least or not shows_least(deal, dial, factor):
+        return False
+    return matches(value.number, share_of(factor.number))
 
 
 def _is_right_least(seen, value):
@@ -97,10 +100,11 @@ def _is_reached_and_leads_within(field, mask, listed):
     state = field.start + sum([field.steps[place] for place in places])
     if not field.is_free(state) or not (mask == 0 or any([mask - (1 << place) in listed for place in places])):
         return False
-    for place, step in enumerate(field.steps):
-        if not mask >> place & 1 and field.is_free(state + step) and mask | (1 << place) not in listed:
-            return False
-    return True
+    # No cell is free behind a second step of one place.
+    return all([
+        mask | (1 << place) in listed for place, step in enumerate(field.steps)
+        if field.is_free(state + step)
+    ])
 
 
 def _masks_told(seen, sets):

@@ -6,8 +6,7 @@ from lastgiver.fine import (
     Fine, Unclosed, Unopened, added_up, can_give, can_take, check_fine, range_of, rooms_at, sums_behind,
 )
 from lastgiver.fitting import (
-    MOST_EXTRA, MOST_HANDS, EnoughPieces, FewestPieces, LeastPieces, NoFewest, NoPieces, Tight, counts_in_turn,
-    enough_pieces,
+    MOST_EXTRA, MOST_HANDS, FewestPieces, LeastPieces, NoFewest, NoPieces, counts_in_turn, enough_pieces,
 )
 from lastgiver.matched import matches
 from lastgiver.pieces import Pieced, Unpieced, are_counts_of_pieces, is_piece_order, piece_tracks
@@ -60,8 +59,6 @@ def shows_fewest_pieces(deal, value):
 def shows_enough_pieces(deal, value):
     """Whether any value is what enough_pieces returns."""
     right = enough_pieces(deal)
-    if type(value) is not EnoughPieces and type(value) is not Tight:
-        return False
     return type(value) is type(right) and matches(value.parts, right.parts)
 
 
@@ -123,7 +120,7 @@ def _are_closed(deal, counts, tallies):
 
 def _is_tally(counts, value):
     """Whether any value is a tuple that tells how many pieces of each hand-over are done."""
-    if not isinstance(value, tuple) or not are_integers(value) or len(value) != len(counts):
+    if not are_integers(value) or len(value) != len(counts):
         return False
     return all([0 <= done <= count for done, count in zip(value, counts)])
 

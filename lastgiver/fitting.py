@@ -132,7 +132,7 @@ def enough_pieces(deal):
 def counts_in_turn(many, extra):
     """The list of all counts of so many hand-overs with so many extra pieces at most, by their sums, then as tuples."""
     found = []
-    for more in range(extra + 1 if many > 0 else 1):
+    for more in range(extra + 1):
         found = found + _counts_with(many, more)
     return found
 
@@ -140,7 +140,7 @@ def counts_in_turn(many, extra):
 def _counts_with(many, more):
     """The list of all counts of so many hand-overs with just so many extra pieces, as tuples are ordered."""
     if many == 0:
-        return [()]
+        return [()] if more == 0 else []
     if many == 1:
         return [(more + 1,)]
     return [(first + 1, *others) for first in range(more + 1) for others in _counts_with(many - 1, more - first)]

@@ -1,7 +1,7 @@
 """Whether a part of a paper stands for the right one."""
 
 from lastgiver.checks import is_integer
-from lastgiver.ratios import Ratio, is_ratio
+from lastgiver.ratios import Ratio
 
 
 def matches(value, right):
@@ -11,7 +11,7 @@ def matches(value, right):
             return False
         return all([matches(item, told) for item, told in zip(value, right)])
     if isinstance(right, Ratio):
-        return is_ratio(value) and right == value
+        return right == value
     if isinstance(right, bool):
         return isinstance(value, bool) and value == right
     if isinstance(right, str):

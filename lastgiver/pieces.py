@@ -68,7 +68,7 @@ def pieced(deal, counts):
 
 def stretched(paper, times):
     """The Pieced with each count times as great, and each number of its order times over."""
-    if type(paper) is not Pieced or not isinstance(paper.counts, tuple) or not are_counts_of_pieces(paper.counts):
+    if type(paper) is not Pieced or not are_counts_of_pieces(paper.counts):
         raise BadPaper("paper")
     if not is_piece_order(paper.counts, paper.order):
         raise BadPaper("paper")

@@ -33,8 +33,6 @@ def unrolled(swap, row, q, weeks):
     """The swap and the row of all weeks, one behind the other."""
     told = _row_of_weeks(swap, row, q, weeks)
     many = len(swap.hands)
-    if weeks * many > Swap.MOST_HANDS:
-        raise TooMany("hands", Swap.MOST_HANDS)
     hands = []
     power = Ratio(1)
     for _ in range(weeks):

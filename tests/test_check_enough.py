@@ -98,6 +98,7 @@ class RankTest(Case):
         self.assertIs(False, shows_rank(swap, Rank(2, (0, 0), found.pulls)))
         self.assertIs(False, shows_rank(swap, Rank(2, (0, 3), found.pulls)))
         self.assertIs(False, shows_rank(swap, Rank(2, (-1, 1), found.pulls)))
+        self.assertIs(False, shows_rank(CUP, Rank(1, [-1], [[0, Ratio(-2, 5)]])))
 
     def test_40_hand_overs(self):
         rnd = random.Random(402)
@@ -141,6 +142,17 @@ class ChainTest(Case):
         self.assertIs(False, shows_enough(gifts, Chain(found.rank, (0, 1, 2), [[Ratio(2, 3)] * 3, [Ratio(1, 2)] * 2, [0]])))
         self.assertIs(False, shows_enough(gifts, Chain(found.rank, (0, 2, 1), [[1, 1, 0], [Ratio(1, 2)] * 2, [0]])))
 
+    def test_weights_of_another_sum_or_beyond_0_and_1(self):
+        found = enough(CUP)
+        for weights, right in [
+            ([[Ratio(1, 2)] * 2, [0]], True), ([[Ratio(1, 4)] * 2, [0]], False), ([[1, 1], [0]], False), ([[0, 0], [0]], False),
+            ([[Ratio(1, 2)] * 2, [1]], False),
+        ]:
+            self.assertIs(right, shows_enough(CUP, Chain(found.rank, found.row, weights)))
+        alike = Swap(CUP.strangers, [CUP[0]] * 3)
+        for first, right in [((1, 1, 1), True), ((2, 1, 0), False), ((2, 2, -1), False), ((Ratio(1, 2), Ratio(3, 2), 1), False)]:
+            self.assertIs(right, shows_enough(alike, Chain(Rank(0, (), ()), (0, 1, 2), [first, (1, 1), (1,), ()])))
+
     def test_40_hand_overs(self):
         # No size is refused: all are alike, so the rank is 0, and all weights are 1.
         swap = Swap(CUP.strangers, [CUP[0]] * 40)
@@ -177,6 +189,8 @@ class FilledTest(Case):
         self.assertIs(True, shows_filled(deal=out, value=Outside(1)))
         for moment in (0, True, Ratio(1), 1.0, None, 2, (1,)):
             self.assertIs(False, shows_filled(out, Outside(moment)), moment)
+        self.assertIs(False, shows_filled(out, Halted(1)))
+        self.assertIs(False, shows_filled(deal, Outside([0, 2])))
         self.assertIs(False, shows_filled(out, Halted(())))
         self.assertIs(False, shows_filled(out, Filled((0,))))
 

@@ -168,6 +168,24 @@ class LeastTest(Case):
         for told in ([*sets, (1,)], [*sets, (0, 1)], [(), (0,), (1,), ()], [(), (0,), [True]], [(), [Ratio(0)], (1,)], [(), "0", (1,)]):
             self.assertIs(False, shows_least(deal, Dial({}, {}), Never(told)))
 
+    def test_sets_that_are_allowed_at_lesser_numbers_but_not_reached(self):
+        swap = Swap.read("a b | a b 2 2 | b a 2 2 | a b 1 1")
+        deal, dial = Deal(swap, Bounds.alike(2, None, None)), Dial.all_trust(swap)
+        self.check_same((Ratio(1), (2, 1, 0), 1, ((),)), least(deal, dial).parts)
+        self.check_same(Ratio(0), dial.allowed_from(deal, (0, 1)))
+        self.assertIs(True, shows_least(deal, dial, Least(1, (2, 1, 0), 1, [()])))
+        self.assertIs(False, shows_least(deal, dial, Least(1, (2, 1, 0), 1, [(), (0, 1)])))
+        swap = Swap.read("a b | a b 3 1 | a b 0 0")
+        deal, dial = Deal(swap, Bounds.alike(2, None, None)), Dial({}, {"a": 1})
+        self.check_same((Ratio(3), (0, 1), 0, ()), least(deal, dial).parts)
+        self.assertIs(False, shows_least(deal, dial, Least(3, (0, 1), 0, [(0,)])))
+
+    def test_numbers_that_are_none(self):
+        deal = Deal(CUP, Bounds.alike(2, 1, 1))
+        self.assertIs(True, shows_least(deal, TRUST, Never([()])))
+        for sets in ([(), (2,)], [(), (7,)], [(), (-1,)], [(), (0, 2)], [(5,)], [(), ()], [(), (10 ** 30,)]):
+            self.assertIs(False, shows_least(deal, TRUST, Never(sets)))
+
     def test_no_size_is_refused(self):
         swap = Swap(CUP.strangers, CUP.hands * 20)
         deal = Deal(swap, Bounds.alike(2, None, None), [(number, number + 1) for number in range(39)])
@@ -227,9 +245,16 @@ class FrontTest(Case):
         deal, one, other = Deal(rope, Bounds.zero(2)), Dial.all_trust(rope), Dial.all_pledge(rope)
         self.assertIs(True, shows_front(deal, one, other, Front([(1, 3), (3, 1)], [(1, 0), (0, 1)], [[()], [()], [()]])))
         for points, rows in [([(1, 3)], [(1, 0)]), ([(3, 1)], [(0, 1)]), ([(1, 3), (2, 2), (3, 1)], [(1, 0), (0, 1), (0, 1)]),
-                             ([(3, 1), (1, 3)], [(0, 1), (1, 0)]), ([(1, 3), (3, 3), (3, 1)], [(1, 0), (0, 1), (0, 1)])]:
+                             ([(3, 1), (1, 3)], [(0, 1), (1, 0)]), ([(1, 3), (3, 3), (3, 1)], [(1, 0), (0, 1), (0, 1)]),
+                             ([(1, 3), (1, 3), (3, 1)], [(1, 0), (1, 0), (0, 1)]), ([(1, 3), (2, 3), (3, 1)], [(1, 0), (1, 0), (0, 1)]),
+                             ([(1, 3), (3, 2), (3, 1)], [(1, 0), (0, 1), (0, 1)]), ([(1, 4), (3, 1)], [(1, 0), (0, 1)])]:
             self.assertIs(False, shows_front(deal, one, other, Front(points, rows, [[()]] * (len(points) + 1))))
         self.assertIs(False, shows_front(deal, one, other, Never([()])))
+
+    def test_a_front_without_points(self):
+        deal = Deal(CUP, Bounds.alike(2, 1, 1))
+        self.assertIs(True, shows_front(deal, TRUST, Dial({}, {}), Never([()])))
+        self.assertIs(False, shows_front(deal, TRUST, Dial({}, {}), Front([], [], [[()]])))
 
     def test_no_size_is_refused(self):
         swap = Swap(CUP.strangers, CUP.hands * 20)

@@ -162,6 +162,17 @@ class PiecedTest(CheckCase):
                 self.assertIs(are_closed(deal, counts, told), shows_pieced(deal, Unpieced(counts, told)))
         self.assertTrue(several > 10 and more > 3, (several, more))
 
+    def test_tallies_that_are_not_allowed_and_that_of_all(self):
+        self.assertIs(True, shows_pieced(NEVER, Unpieced((1, 1), [(0, 0)])))
+        for more in ((1, 0), (0, 1), (1, 1)):
+            self.assertIs(False, shows_pieced(NEVER, Unpieced((1, 1), [(0, 0), more])))
+        self.assertIs(True, shows_pieced(NEVER, Unpieced((2, 2), [(0, 0)])))
+        self.assertIs(False, shows_pieced(NEVER, Unpieced((2, 2), [(0, 0), (2, 0)])))
+        every = [tally for tally in itertools.product(range(3), repeat=2) if plain_tally_allowed(DEAL, (2, 2), tally)]
+        self.assertIn((2, 2), every)
+        self.assertIs(False, shows_pieced(DEAL, Unpieced((2, 2), every)))
+        self.assertIs(False, shows_least_pieces(NEVER, NoPieces(1, [[(0, 0), (1, 0)]])))
+
     def test_no_size_is_refused(self):
         deal = Deal(Swap(CUP.strangers, CUP.hands * 20), Bounds.alike(2, 2, 2))
         self.assertIs(True, shows_pieced(deal, Pieced([1] * 40, list(range(40)))))
@@ -317,6 +328,8 @@ class FineTest(CheckCase):
             ((0, 1), against[::-1], False), ((0, 1), against[:1], False), ((0, 1), (*against, against[0]), False),
             ((0, 1, 2), against[1:], False), ((0, 1), ((2, "c", "leaves"), (3, "c", "drawn")), False),
             ((0, 1), ((2, "b", "leaves"), (3, "c", "drawn")), False), ((0, True), against, False), ((0, Ratio(1)), against, False),
+            ((0, 1, 0), against, False), ((0, 1, 4), against, False), ((0, 1, -1), against, False), ((0, 1, -4), against, False),
+            (None, against, False), ((0, 1), None, False),
         ]:
             self.assertIs(right, shows_fine(free, Unopened(opened, told)), (opened, told))
         chain = Deal(Swap.read("a b c d | b a 1 1 | a b 1 3 | c d 1 2 | d c 1 2"), Bounds([9, 0, 0, 0], [9, 9, 9, 9]))
@@ -324,6 +337,14 @@ class FineTest(CheckCase):
         self.check_same(((1, 0), against), fine(chain).parts)
         self.assertIs(True, shows_fine(chain, Unopened((1, 0), against)))
         self.assertIs(False, shows_fine(chain, Unopened((0, 1), against)))
+        # Bob takes nothing ahead of giving something: 0 does not open, though its giver could give.
+        even = Deal(Swap.read("a b c d | a b 1 1 | b a 1 1 | c d 1 2 | d c 1 2"), Bounds([9, 0, 0, 0], [9, 0, 9, 9]))
+        self.check_same(((), ((0, "b", "leaves"), (1, "b", "drawn"), *against)), fine(even).parts)
+        self.assertIs(False, shows_fine(even, Unopened((0, 1), against)))
+        turned = exchanged(even)
+        told = ((0, "b", "drawn"), (1, "b", "leaves"), (2, "c", "leaves"), (3, "d", "leaves"))
+        self.assertIs(True, shows_fine(turned, Unclosed((), told)))
+        self.assertIs(False, shows_fine(turned, Unclosed((0, 1), told[2:])))
 
     def test_both_sides_may_be_told(self):
         swap = Swap.read("a b | a b 1 1 | b a 1 1")

@@ -47,6 +47,13 @@ class PlayedTest(Case):
         none = Deal(NO_HANDS, Bounds.zero(2))
         self.assertTrue(shows_played(none, Played([], [], [[0, 0]])))
 
+    def test_plainly_if_nothing_else_is_told(self):
+        deal = Deal(CUP, Bounds([1, 0], [0, 2]))
+        plain, careful = played(deal, (0, 1)), played(deal, (0, 1), True)
+        self.assertEqual((True, False), (shows_played(deal, plain), shows_played(deal, careful)))
+        plain, careful = played_groups(deal, [[0], [1]]), played_groups(deal, [[0], [1]], True)
+        self.assertEqual((True, False), (shows_played_groups(deal, plain), shows_played_groups(deal, careful)))
+
     def test_bent_papers(self):
         for deal in [TURNS, Deal(CUP, Bounds.zero(2)), *random_deals(263, 6, 3)]:
             for careful in (False, True):

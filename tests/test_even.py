@@ -92,7 +92,7 @@ class WrongValuesTest(Case):
         self.check_raises(NotCoprime(6, 4), hardest, 6, 4)
         self.check_raises(NotCoprime(2, 2), hardest, 2, 2)
         self.check_raises(NotCoprime(10 ** 40, 10 ** 39), hardest, 10 ** 40, 10 ** 39)
-        for p, q in ((40, 1), (1, 40), (20, 21), (10 ** 40, 1)):
+        for p, q in ((40, 1), (1, 40), (20, 21), (10 ** 40, 1), (10 ** 40, 10 ** 40 + 1)):
             self.check_raises(TooMany("hands", 40), hardest, p=p, q=q)
         for p, q in ((39, 1), (1, 39), (21, 19)):
             self.assertEqual(40, len(hardest(p, q)))

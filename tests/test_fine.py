@@ -138,6 +138,9 @@ class FineTest(Case):
         self.check_same(((), ((0, "a", "drawn"), (1, "b", "drawn"))), fine(Deal(swap, Bounds.zero(2))).parts)
         self.check_same(((), ((0, "a", "drawn"), (1, "a", "leaves"))), fine(Deal(swap, Bounds([0, 9], [0, 9]))).parts)
         self.check_same(((), ((0, "b", "leaves"), (1, "a", "leaves"))), fine(Deal(swap, Bounds([9, 9], [0, 0]))).parts)
+        fed = Swap.read("x t u | x t 1 1 | t u 2 2 | u t 2 1")
+        found = fine(Deal(fed, Bounds([1, 0, 0], [1, 1, 1])))
+        self.check_same((Unclosed, (), ((0, "t", "drawn"), (1, "u", "drawn"), (2, "t", "drawn"))), (type(found), *found.parts))
         gain = Swap.read("a b | a b 1 2 | b a 1 2 | a b 0 0")
         self.check_same(((2,), ((0, "a", "leaves"), (1, "b", "leaves"))), fine(Deal(gain, Bounds([9, 9], [0, 0]))).parts)
         self.check_same(((2,), ((0, "a", "drawn"), (1, "b", "drawn"))), fine(Deal(gain, Bounds([0, 0], [9, 9]))).parts)
@@ -180,6 +183,22 @@ class FineTest(Case):
             if not fine(deal):
                 counts = [rnd.randrange(1, 5) for _ in range(len(deal))]
                 self.assertFalse(pieced(deal, counts))
+
+    def test_a_grain_in_one_place_and_many_hand_overs(self):
+        rnd = random.Random(540)
+        fines = 0
+        for _ in range(120):
+            swap = random_swap(rnd, rnd.choice([2, 3, 4]), rnd.randrange(6, 14), gainful=True)
+            if swap.is_gainful:
+                many = len(swap.strangers)
+                bounds = [[Ratio(rnd.choice([0, 0, 1]), rnd.choice([7, 1000])) for _ in range(many)] for _ in range(2)]
+                deal = Deal(swap, Bounds(*bounds))
+                found = fine(deal)
+                self.assertIs(True, shows_fine(deal, found))
+                if found:
+                    fines += 1
+                    self.assertTrue(is_fine(deal, *found.parts))
+        self.assertGreater(fines, 20)
 
     def test_great_ratios_and_40_hand_overs(self):
         rnd = random.Random(537)

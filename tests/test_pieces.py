@@ -97,6 +97,16 @@ class PiecedTest(Case):
         self.assertIs(Unpieced, type(none))
         self.check_same((False, "unpieced", (1, 1), ((0, 0),)), (bool(none), none.word, none.counts, none.reached))
 
+    def test_what_is_passed_stays(self):
+        counts, order = [2, 2], [1, 0, 1]
+        found = pieced(DEAL, counts)
+        paper = Pieced([1, 2], order)
+        counts.append(3)
+        longer = stretched(paper, 2)
+        order.append(0)
+        self.check_same(((2, 2), (1, 0, 1), (1, 1, 0, 0, 1, 1)), (found.counts, paper.order, longer.order))
+        self.assertEqual(Deal(CUP, Bounds.alike(2, 1, 1)), DEAL)
+
     def test_no_hand_over(self):
         none = Deal(NO_HANDS, Bounds.zero(2))
         self.check_same(((), ()), pieced(none, 1).parts)
