@@ -1,8 +1,10 @@
 """Chains: weights that show a row close to the road."""
 
+from math import gcd
+
 from lastgiver.errors import TooMany
 from lastgiver.papers import Paper, fixed
-from lastgiver.ratios import Ratio, least_of
+from lastgiver.ratios import Ratio
 from lastgiver.roads import ranked
 from lastgiver.spans import Span, whole_lines
 from lastgiver.sums import rest
@@ -21,6 +23,81 @@ class Chain(Paper):
         self.rank = self.parts[0]
         self.row = self.parts[1]
         self.weights = self.parts[2]
+
+
+class Weights:
+    """Weights of hand-overs, told in parts of 1; and a group of them that is moved.
+
+    The group are hand-overs of weights between 0 and 1 whose rows are no sums of multiples of one another.
+    So their weights follow from the others, which are never moved, and all numbers stay short.
+    """
+
+    def __init__(self, told, parts):
+        self.told = told
+        self.parts = parts
+        self.group = []
+
+    def as_ratios(self):
+        """A dict of the weights as Ratios."""
+        return {hand: Ratio(weight, self.parts) for hand, weight in self.told.items()}
+
+    def make_smaller(self, top, bottom):
+        """All weights times a ratio from 0 on, below 1."""
+        self._keep({hand: weight * top for hand, weight in self.told.items()}, self.parts * bottom)
+
+    def leave_out_zero(self):
+        """Leave the last hand-over out whose weight is 0."""
+        out = max([hand for hand, weight in self.told.items() if weight == 0])
+        self._keep({hand: weight for hand, weight in self.told.items() if hand != out}, self.parts)
+
+    def move_to_zero(self, rows):
+        """Move the weights of the group, and take others into it, until one is 0."""
+        while all([weight > 0 for weight in self.told.values()]):
+            fresh = min([hand for hand in self._between(list(self.told)) if hand not in self.group])
+            span = Span(len(rows[fresh]))
+            for hand in self.group:
+                span.take(rows[hand])
+            multiples = span.take(rows[fresh])
+            self.group = [*self.group, fresh]
+            if multiples is not None:
+                self._move(multiples)
+
+    def _move(self, multiples):
+        """Move the group by these multiples, or against them, until one is 0, or else 1."""
+        changes = multiples if self._comes_to_zero(multiples) else [-change for change in multiples]
+        far, by = self._way_along(changes)
+        moved = {hand: weight * by for hand, weight in self.told.items()}
+        for hand, change in zip(self.group, changes):
+            moved[hand] = moved[hand] + far * change
+        self._keep(moved, self.parts * by)
+
+    def _comes_to_zero(self, changes):
+        """Whether one weight of the group is 0 when they are moved by these changes as far as can be."""
+        far, by = self._way_along(changes)
+        return any([self.told[hand] * by + far * change == 0 for hand, change in zip(self.group, changes)])
+
+    def _way_along(self, changes):
+        """How often these changes can be made so that all weights stay from 0 to 1, as top and bottom."""
+        least = None
+        for hand, change in zip(self.group, changes):
+            if change != 0:
+                far = self.told[hand] if change < 0 else self.parts - self.told[hand]
+                if least is None or far * least[1] < least[0] * abs(change):
+                    least = (far, abs(change))
+        return least
+
+    def _between(self, hands):
+        """Those of the hand-overs whose weights are neither 0 nor 1."""
+        return [hand for hand in hands if 0 < self.told[hand] < self.parts]
+
+    def _keep(self, told, parts):
+        """Keep these weights, in as few parts of 1 as can be, and of the group those that are between 0 and 1."""
+        shared = parts
+        for weight in told.values():
+            shared = gcd(shared, weight)
+        self.told = {hand: weight // shared for hand, weight in told.items()}
+        self.parts = parts // shared
+        self.group = self._between([hand for hand in self.group if hand in told])
 
 
 def enough(swap):
@@ -54,16 +131,14 @@ def _weights_down(swap, number):
     """
     rows = _rows_of(swap)
     many = len(rows)
-    weights = {hand: Ratio(many - number, many) for hand in range(many)}
-    told = [weights]
-    group = []
-    while len(weights) > number:
-        smaller = Ratio(len(weights) - 1 - number, len(weights) - number)
-        weights = {hand: weight * smaller for hand, weight in weights.items()}
-        weights, group = _moved_to_zero(rows, weights, group)
-        out = max([hand for hand in weights if weights[hand].sign == 0])
-        weights = {hand: weight for hand, weight in weights.items() if hand != out}
-        told.append(weights)
+    weights = Weights({hand: many - number for hand in range(many)}, max(1, many))
+    told = [weights.as_ratios()]
+    while len(told) <= many - number:
+        left = many - len(told)
+        weights.make_smaller(left - number, left + 1 - number)
+        weights.move_to_zero(rows)
+        weights.leave_out_zero()
+        told.append(weights.as_ratios())
     return told
 
 
@@ -82,50 +157,3 @@ def _rows_of(swap):
     """
     effects = [[hand.effect(name) for name in swap.strangers] for hand in swap.hands]
     return [[*row, 1] for row in whole_lines(effects, len(swap.strangers))[0]]
-
-
-def _moved_to_zero(rows, weights, group):
-    """The weights moved until one is 0, and the group.
-
-    The group are hand-overs of weights between 0 and 1 whose rows are no sums of multiples of one another.
-    So their weights follow from the others, which are never moved, and all ratios stay short.
-    """
-    group = _between(weights, group)
-    while all([weight.sign > 0 for weight in weights.values()]):
-        fresh = min([hand for hand in _between(weights, weights) if hand not in group])
-        span = Span(len(rows[fresh]))
-        for hand in group:
-            span.take(rows[hand])
-        multiples = span.take(rows[fresh])
-        group = [*group, fresh]
-        if multiples is not None:
-            weights = _moved(weights, group, multiples)
-            group = _between(weights, group)
-    return weights, group
-
-
-def _between(weights, hands):
-    """Those of the hand-overs whose weights are neither 0 nor 1."""
-    return [hand for hand in hands if weights[hand].sign > 0 and weights[hand].is_below(1)]
-
-
-def _moved(weights, group, multiples):
-    """The weights of the group moved by these multiples, or against them, until one is 0, or else 1."""
-    moved = weights
-    for changes in (multiples, [-change for change in multiples]):
-        moved = _moved_along(weights, group, changes)
-        if any([weight.sign == 0 for weight in moved.values()]):
-            return moved
-    return moved
-
-
-def _moved_along(weights, group, changes):
-    """The weights of the group moved by these changes, as far as they stay from 0 to 1."""
-    ends = []
-    for hand, change in zip(group, changes):
-        if change != 0:
-            far = weights[hand] if change < 0 else Ratio(1) - weights[hand]
-            ends.append(far.over(abs(change)))
-    step = least_of(ends)
-    moved = {hand: weights[hand] + step * change for hand, change in zip(group, changes)}
-    return {hand: moved[hand] if hand in moved else weight for hand, weight in weights.items()}

@@ -5,7 +5,7 @@ from lastgiver.checks import are_integers, is_integer
 from lastgiver.deals import check_deal
 from lastgiver.dials import Dial
 from lastgiver.fronts import Front, seen_from_both
-from lastgiver.least import Least, Never, seen_from
+from lastgiver.least import Least, Never, pinch_of, seen_from
 from lastgiver.matched import matches
 from lastgiver.patience import Patience, share_of
 from lastgiver.ratios import Ratio, is_amount
@@ -57,9 +57,7 @@ def _is_right_least(seen, value):
     """Whether a Least has a row that is good at its number, its pinch there, and just the fence."""
     if not is_amount(value.number) or not is_integer(value.pinch) or not _is_good_at(seen, [value.number], value.row):
         return False
-    below = seen.field_below([value.number])
-    free = [below.is_free(state) for state in _states_along(seen, below, value.row)]
-    if False not in free or value.pinch != free.index(False):
+    if value.pinch != pinch_of(seen, seen.field_below([value.number]), value.row):
         return False
     return _are_just_reached(seen, [value.number], value.fence)
 
@@ -69,15 +67,7 @@ def _is_good_at(seen, numbers, row):
     if not are_integers(row) or sorted(list(row)) != list(seen.left):
         return False
     field = seen.field_at(numbers)
-    return all([field.is_free(state) for state in _states_along(seen, field, row)])
-
-
-def _states_along(seen, field, row):
-    """The states at all moments of a row of what is left."""
-    states = [field.start]
-    for number in row:
-        states.append(states[-1] + field.steps[seen.left.index(number)])
-    return states
+    return all([field.is_free(state) for state in seen.states_along(field, row)])
 
 
 def _are_just_reached(seen, numbers, sets):

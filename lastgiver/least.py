@@ -1,12 +1,11 @@
 """The least number of a deal on a dial, and the fence that shows it."""
 
-from lastgiver.cells import bits_of
 from lastgiver.checks import done_told
 from lastgiver.deals import check_deal
 from lastgiver.dials import check_dial
 from lastgiver.errors import TooMany
 from lastgiver.fields import first_way, leading_cells
-from lastgiver.needs import Seen, least_needs
+from lastgiver.needs import Seen
 from lastgiver.papers import Denial, Paper, fixed
 
 MOST_HANDS = 12
@@ -36,20 +35,16 @@ class Never(Denial):
 def least(deal, dial, done=()):
     """A Least with the first row that is good at the number, or a Never."""
     seen = seen_from(deal, dial, done)
-    many = len(seen.left)
-    if many > MOST_HANDS:
+    if len(seen.left) > MOST_HANDS:
         raise TooMany("hands", MOST_HANDS)
-    come = seen.field().reached_cells()
-    full = (1 << many) - 1
-    if not come >> full & 1:
-        return Never(seen.sets_of(come))
-    needs = seen.needs_in(come, 0)
-    on_the_way = least_needs(needs, many)
-    most = on_the_way[full]
-    fit = bits_of([cell for cell, need in needs.items() if need <= most])
-    row = first_way(leading_cells(fit, seen.sizes), [(number,) for number in seen.left])
-    fence = bits_of([cell for cell, need in on_the_way.items() if need < most])
-    return Least(seen.number_of(most, 0), row, _pinch_of(seen, needs, row, most), seen.sets_of(fence))
+    need = seen.least_need()
+    if need is None:
+        return Never(seen.sets_of(seen.field().reached_cells()))
+    number = seen.number_of(need, 0)
+    below = seen.field_below([number])
+    fit = seen.field_at([number]).reached_cells()
+    row = first_way(leading_cells(fit, seen.sizes), [(left,) for left in seen.left])
+    return Least(number, row, pinch_of(seen, below, row), seen.sets_of(below.reached_cells()))
 
 
 def seen_from(deal, dial, done):
@@ -61,11 +56,9 @@ def seen_from(deal, dial, done):
     return Seen(deal, (dial,), told)
 
 
-def _pinch_of(seen, needs, row, most):
-    """The first moment of a row whose need is this number."""
-    cell = 0
-    for moment, number in enumerate(row):
-        if needs[cell] == most:
+def pinch_of(seen, below, row):
+    """The first moment of a row that is not free in the Field of what is below a number, None if there is none."""
+    for moment, state in enumerate(seen.states_along(below, row)):
+        if not below.is_free(state):
             return moment
-        cell = cell + (1 << seen.left.index(number))
-    return len(row)
+    return None

@@ -3,10 +3,11 @@
 Sets are told by cells of what is left behind a first one: the masks of the places of its numbers there.
 """
 
+from heapq import heappop, heappush
 from math import lcm
 
 from lastgiver.cells import cells_in, sets_in
-from lastgiver.fields import Field
+from lastgiver.fields import FEW_STEPS, Field
 from lastgiver.ratios import Ratio
 
 
@@ -48,10 +49,18 @@ class Seen:
         half = len(self.left) // 2
         low_part = (1 << half) - 1
         for first, changes in self.asks[which]:
-            low = _sums_among(first, changes[:half])
-            high = _sums_among(0, changes[half:])
+            low, high = _tables_of(first, changes)
             needs = [max(need, low[cell & low_part] + high[cell >> half]) for need, cell in zip(needs, cells)]
         return dict(zip(cells, needs))
+
+    def least_need(self):
+        """The least number of the first dial at which all is reached, in parts of 1; None if it never is."""
+        near = self._near_need()
+        if near is not None:
+            return near
+        come = self.field().reached_cells()
+        full = (1 << len(self.left)) - 1
+        return least_needs(self.needs_in(come, 0), len(self.left))[full] if come >> full & 1 else None
 
     def number_of(self, need, which):
         """The Ratio of a number that is told in parts of 1."""
@@ -63,6 +72,44 @@ class Seen:
         if len(self.done) == 0:
             return inner
         return [tuple(sorted([*self.done, *[self.left[place] for place in places]])) for places in inner]
+
+    def states_along(self, field, row):
+        """The states of a Field at all moments of a row of what is left."""
+        states = [field.start]
+        for number in row:
+            states.append(states[-1] + field.steps[self.left.index(number)])
+        return states
+
+    def _near_need(self):
+        """The same as least_need, by cells in the order of what they need; None if this takes many steps, too.
+
+        So no cells are gone over but those that are reached at lesser numbers, and some at the number itself.
+        """
+        field = self.field()
+        tables = [_tables_of(first, changes) for first, changes in self.asks[0]]
+        half = len(self.left) // 2
+        low_part = (1 << half) - 1
+        # One hand-over more asks more of its giver's trust and its taker's pledge alone.
+        further_asked = [
+            [table for table, ask in zip(tables, self.asks[0]) if ask[1][place] > 0]
+            for place in range(len(self.left))
+        ]
+        first_need = max([low[0] for low, high in tables])
+        queue = [(first_need, len(self.left), 0, field.start)] if field.is_free(field.start) else []
+        met = {0: True}
+        tried = 0
+        while len(queue) > 0 and tried < FEW_STEPS:
+            need, many, cell, state = heappop(queue)
+            if many == 0:
+                return need
+            for place, step in enumerate(field.steps):
+                further = cell | (1 << place)
+                if further not in met and field.is_free(state + step):
+                    met[further] = True
+                    told = [low[further & low_part] + high[further >> half] for low, high in further_asked[place]]
+                    heappush(queue, (max([need, *told]), many - 1, further, state + step))
+            tried = tried + len(self.left)
+        return None
 
     def _field_within(self, numbers, less):
         """The Field of the cells that need of each dial its number at most, or in whole parts so much less."""
@@ -142,6 +189,12 @@ def _in_parts(asked, parts):
         by = parts // scale * times
         found.append((first * by, [change * by for change in changes]))
     return found
+
+
+def _tables_of(first, changes):
+    """Two lists, of the sums for the lower half of a cell and for the upper one, which add up to that of the cell."""
+    half = len(changes) // 2
+    return _sums_among(first, changes[:half]), _sums_among(0, changes[half:])
 
 
 def _sums_among(first, changes):

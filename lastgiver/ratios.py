@@ -73,7 +73,11 @@ class Ratio:
 
     def compared(self, other):
         """-1, 0 or 1, as this ratio is less than the other one, equal to it or greater."""
-        return (self - _right(other)).sign
+        right = _right(other)
+        mine, others = self.top * right.bottom, right.top * self.bottom
+        if mine == others:
+            return 0
+        return -1 if mine < others else 1
 
     def is_below(self, other):
         """Whether this ratio is less than the other one."""

@@ -14,7 +14,10 @@ BUILTINS = {
     "list", "tuple", "dict", "isinstance", "any", "all", "iter", "type", "ValueError", "staticmethod",
     "classmethod", "property",
 }
-LIBRARY = {"math": {"gcd", "lcm", "isqrt", "comb", "perm", "factorial"}}
+LIBRARY = {
+    "math": {"gcd", "lcm", "isqrt", "comb", "perm", "factorial"},
+    "heapq": {"heappush", "heappop", "heapify", "heapreplace", "heappushpop"},
+}
 METHODS = {
     "append", "clear", "copy", "count", "endswith", "extend", "find", "get", "index", "insert", "isalnum", "isalpha",
     "isdigit", "islower", "isspace", "isupper", "items", "join", "keys", "ljust", "lower", "lstrip", "partition",

@@ -8,7 +8,7 @@ from lastgiver.bounds import Bounds
 from lastgiver.deals import Deal
 from lastgiver.dials import Dial
 from lastgiver.errors import BadDeal, BadDial, BadDone, NoHand, NoStranger, TooMany, Twice
-from lastgiver.least import Least, Never, least
+from lastgiver.least import Least, Never, least, seen_from
 from lastgiver.ratios import Ratio
 from lastgiver.roads import rank
 from lastgiver.swaps import Swap
@@ -16,8 +16,8 @@ from lastgiver.turned import one_after, portion, scaled
 from lastgiver.turned_deals import exchanged, handed_back_deal
 
 from support import (
-    CUP, NO_DEALS, NO_DONE, NO_HANDS, ODD, Case, all_sets, as_fraction, own, plain_closure, plain_needs, random_bound, random_deals,
-    random_dial, random_swap,
+    CUP, NO_DEALS, NO_DONE, NO_HANDS, ODD, Case, all_sets, as_fraction, own, plain_closure, plain_needs, random_bound, random_deal,
+    random_deals, random_dial, random_swap,
 )
 
 LOOSE = Deal(CUP, Bounds([0, 0], [2, 2]))
@@ -124,6 +124,36 @@ class LeastTest(Case):
                 self.assertEqual(found, least(deal=deal, dial=dial))
         self.assertGreater(kinds.count(Least), 30)
         self.assertGreater(kinds.count(Never), 30)
+
+    def test_few_and_many_sets_of_greater_deals(self):
+        rnd = random.Random(422)
+        near = set()
+        for place in range(24):
+            deal = random_deal(rnd, rnd.choice([2, 3]), rnd.choice([7, 8, 9]), rnd.choice([0, 0, 2]), rnd.choice([9, 30]))
+            dial = [random_dial(rnd, deal.swap.strangers), Dial.all_bounds(deal.swap), Dial.all_trust(deal.swap)][place % 3]
+            done = rnd.choice([(), (0,)])
+            near.add(seen_from(deal, dial, done)._near_need() is None)
+            needs = {one: told[0] for one, told in plain_needs(deal, (dial,)).items()}
+            full = tuple(range(len(deal)))
+            ways = {}
+            for one in all_sets(len(deal))[::-1]:
+                if one in needs and set(done) <= set(one):
+                    further = [ways[more] for more in (tuple(sorted((*one, number))) for number in full if number not in one) if more in ways]
+                    if one == full or further:
+                        ways[one] = max(needs[one], min(further, default=0))
+            found = least(deal, dial, done)
+            if done not in ways:
+                self.check_same((tuple(plain_closure(list(needs), len(deal), done)),), found.parts)
+                continue
+            row, sets = [], [done]
+            while sets[-1] != full:
+                row.append(next(number for number in full if number not in sets[-1] and ways.get(
+                    tuple(sorted((*sets[-1], number))), ways[done] + 1) <= ways[done]))
+                sets.append(tuple(sorted((*sets[-1], row[-1]))))
+            fence = plain_closure([one for one, need in needs.items() if need < ways[done]], len(deal), done)
+            pinch = [needs[one] for one in sets].index(ways[done])
+            self.check_same((as_ratio(ways[done]), tuple(row), pinch, tuple(fence)), found.parts)
+        self.assertEqual({False, True}, near)
 
     def test_what_is_returned_is_equal_again_and_what_is_passed_stays(self):
         deal, done = Deal(CUP, Bounds([0, 0], [2, 2])), [0]
