@@ -18,16 +18,16 @@ class Field:
         self.sizes = tuple(sizes)
         self.start = 0
         self.guard = 0
-        self.steps = [0] * len(self.sizes)
         self._width = 0
-        for kind, size in enumerate(self.sizes):
+        steps = []
+        for size in list(self.sizes):
             # How many are left is a slack, too: it bars a step too far.
-            place = self._place_for(size, size + 1)
-            self.steps[kind] = -(1 << place)
+            steps.append(-(1 << self._place_for(size, size + 1)))
         for first, changes in slacks:
             if _can_fall(first, changes, self.sizes):
                 place = self._place_for(first, _furthest(first, changes, self.sizes))
-                self.steps = [step + (change << place) for step, change in zip(self.steps, changes)]
+                steps = [step + (change << place) for step, change in zip(steps, changes)]
+        self.steps = steps
 
     def is_free(self, state):
         """Whether a cell with this state is free; it has no more than one step too many."""

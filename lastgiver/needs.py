@@ -18,7 +18,7 @@ class Seen:
         self.done = tuple(done)
         self.left = tuple([number for number in range(len(deal.swap.hands)) if number not in done])
         self.sizes = [1] * len(self.left)
-        self.bars = [_leaning_slack(pair, done, self.left) for pair in deal.leanings.pairs]
+        bars = [_leaning_slack(pair, done, self.left) for pair in deal.leanings.pairs]
         # What a dial needs is at least 0; the parts are those of 1 in which it is told.
         asked = [[(0, [0] * len(self.left), 1, 1)] for dial in dials]
         for name, side, bound, first, changes, scale in _bounds_seen(deal, done, self.left):
@@ -26,7 +26,8 @@ class Seen:
             if which is not None and weight.sign > 0:
                 asked[which].append((-first, [-change for change in changes], scale * weight.top, weight.bottom))
             elif which is not None or bound is not None:
-                self.bars.append((first if which is not None else first + bound, changes))
+                bars.append((first if which is not None else first + bound, changes))
+        self.bars = bars
         self.parts = [_common_parts(told) for told in asked]
         self.asks = [_in_parts(told, parts) for told, parts in zip(asked, self.parts)]
 
@@ -95,14 +96,17 @@ class Seen:
             for place in range(len(self.left))
         ]
         first_need = max([low[0] for low, high in tables])
-        queue = [(first_need, len(self.left), 0, field.start)] if field.is_free(field.start) else []
+        queue = []
+        if field.is_free(field.start):
+            heappush(queue, (first_need, len(self.left), 0, field.start))
         met = {0: True}
         tried = 0
+        steps = list(field.steps)
         while len(queue) > 0 and tried < FEW_STEPS:
             need, many, cell, state = heappop(queue)
             if many == 0:
                 return need
-            for place, step in enumerate(field.steps):
+            for place, step in enumerate(steps):
                 further = cell | (1 << place)
                 if further not in met and field.is_free(state + step):
                     met[further] = True

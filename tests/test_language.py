@@ -71,6 +71,57 @@ def methods():
     return [(node, row) for _, node in nodes(ast.ClassDef) for row in node.body if isinstance(row, ast.FunctionDef)]
 
 
+CHANGERS = {
+    "append", "clear", "extend", "insert", "pop", "remove", "reverse", "setdefault", "update", "sort", "add", "discard",
+}
+
+
+def root_of(node):
+    """What an item, or the answer of setdefault, is taken from."""
+    while True:
+        if isinstance(node, ast.Subscript):
+            node = node.value
+        elif isinstance(node, ast.Call) and getattr(node.func, "attr", "") == "setdefault":
+            node = node.func.value
+        else:
+            return node
+
+
+def changed_in(rows):
+    """What is changed in these rows: whose items are assigned, or which list or dict a call changes."""
+    for node in (node for row in rows for node in ast.walk(row)):
+        if isinstance(node, ast.Subscript) and not isinstance(node.ctx, ast.Load):
+            yield root_of(node.value)
+        elif isinstance(node, ast.Call) and getattr(node.func, "attr", "") in CHANGERS:
+            yield root_of(node.func.value)
+        elif isinstance(node, ast.Call) and getattr(node.func, "id", "") in LIBRARY["heapq"]:
+            yield root_of(node.args[0])
+
+
+def is_made_here(node):
+    """Whether an expression plainly makes a new list or dict."""
+    if isinstance(node, ast.BinOp):
+        return is_made_here(node.left) or is_made_here(node.right)
+    if isinstance(node, ast.Subscript):
+        return isinstance(node.slice, ast.Slice)
+    if isinstance(node, ast.Call):
+        return getattr(node.func, "id", "") in ("list", "dict", "sorted", "set")
+    return isinstance(node, (ast.List, ast.Dict, ast.ListComp, ast.DictComp))
+
+
+def made_in(function):
+    """The names that a function assigns nothing but lists and dicts that it plainly makes."""
+    made, others = set(), set(parameters(function))
+    for node in ast.walk(function):
+        if isinstance(node, ast.Assign) and all(isinstance(target, ast.Name) for target in node.targets):
+            (made if is_made_here(node.value) else others).update(target.id for target in node.targets)
+        elif isinstance(node, (ast.Assign, ast.For)):
+            targets = node.targets if isinstance(node, ast.Assign) else [node.target]
+            others |= {one.id for target in targets for one in ast.walk(target)
+                       if isinstance(one, ast.Name) and isinstance(one.ctx, ast.Store)}
+    return made - others
+
+
 def is_generator(function):
     """Whether a function yields."""
     return any(isinstance(node, (ast.Yield, ast.YieldFrom)) for node in ast.walk(function))
@@ -203,6 +254,16 @@ class LanguageTest(unittest.TestCase):
             called = getattr(node.func, "id", getattr(node.func, "attr", ""))
             if called in told:
                 self.assertTrue(node in taken, (name, node.lineno))
+
+    def test_a_loop_changes_nothing_but_what_its_function_made_and_does_not_walk(self):
+        for name, function in functions():
+            made = made_in(function)
+            for loop in (node for node in ast.walk(function) if isinstance(node, ast.For)):
+                walked = {node.id for node in ast.walk(loop.iter) if isinstance(node, ast.Name)}
+                for node in changed_in(loop.body):
+                    self.assertIn(getattr(node, "id", None), made - walked, (name, node.lineno))
+            for told in (node for node in ast.walk(function) if isinstance(node, (ast.ListComp, ast.DictComp, ast.SetComp))):
+                self.none(changed_in([told]))
 
     def test_calls_of_methods(self):
         own = {row.name for _, row in methods()}
