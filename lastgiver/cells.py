@@ -129,6 +129,14 @@ def sets_in(bits, many):
     return [pair[1] for pair in ordered]
 
 
+def sums_among(first, changes):
+    """The sums of a first number and of some of the changes, each at the place that is their mask."""
+    found = [first]
+    for change in changes:
+        found = found + [total + change for total in found]
+    return found
+
+
 def counts_listed(bits, sizes):
     """The list of the counts that the bits tell, those of fewer ahead, then as tuples."""
     found = [counts_in(cell, sizes) for cell in cells_in(bits)]

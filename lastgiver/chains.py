@@ -32,28 +32,28 @@ class Weights:
     So their weights follow from the others, which are never moved, and all numbers stay short.
     """
 
-    def __init__(self, told, parts):
-        self.told = told
+    def __init__(self, shares, parts):
+        self.shares = shares
         self.parts = parts
         self.group = []
 
     def as_ratios(self):
         """A dict of the weights as Ratios."""
-        return {hand: Ratio(weight, self.parts) for hand, weight in self.told.items()}
+        return {hand: Ratio(weight, self.parts) for hand, weight in self.shares.items()}
 
     def make_smaller(self, top, bottom):
         """All weights times a ratio from 0 on, below 1."""
-        self._keep({hand: weight * top for hand, weight in self.told.items()}, self.parts * bottom)
+        self._keep({hand: weight * top for hand, weight in self.shares.items()}, self.parts * bottom)
 
     def leave_out_zero(self):
         """Leave the last hand-over out whose weight is 0."""
-        out = max([hand for hand, weight in self.told.items() if weight == 0])
-        self._keep({hand: weight for hand, weight in self.told.items() if hand != out}, self.parts)
+        out = max([hand for hand, weight in self.shares.items() if weight == 0])
+        self._keep({hand: weight for hand, weight in self.shares.items() if hand != out}, self.parts)
 
     def move_to_zero(self, rows):
         """Move the weights of the group, and take others into it, until one is 0."""
-        while all([weight > 0 for weight in self.told.values()]):
-            fresh = min([hand for hand in self._between(list(self.told)) if hand not in self.group])
+        while all([weight > 0 for weight in self.shares.values()]):
+            fresh = min([hand for hand in self._between(list(self.shares)) if hand not in self.group])
             span = Span(len(rows[fresh]))
             for hand in self.group:
                 span.take(rows[hand])
@@ -66,7 +66,7 @@ class Weights:
         """Move the group by these multiples, or against them, until one is 0, or else 1."""
         changes = multiples if self._comes_to_zero(multiples) else [-change for change in multiples]
         far, by = self._way_along(changes)
-        moved = {hand: weight * by for hand, weight in self.told.items()}
+        moved = {hand: weight * by for hand, weight in self.shares.items()}
         for hand, change in zip(self.group, changes):
             moved[hand] = moved[hand] + far * change
         self._keep(moved, self.parts * by)
@@ -74,28 +74,28 @@ class Weights:
     def _comes_to_zero(self, changes):
         """Whether one weight of the group is 0 when they are moved by these changes as far as can be."""
         far, by = self._way_along(changes)
-        return any([self.told[hand] * by + far * change == 0 for hand, change in zip(self.group, changes)])
+        return any([self.shares[hand] * by + far * change == 0 for hand, change in zip(self.group, changes)])
 
     def _way_along(self, changes):
         """How often these changes can be made so that all weights stay from 0 to 1, as top and bottom."""
         least = None
         for hand, change in zip(self.group, changes):
             if change != 0:
-                far = self.told[hand] if change < 0 else self.parts - self.told[hand]
+                far = self.shares[hand] if change < 0 else self.parts - self.shares[hand]
                 if least is None or far * least[1] < least[0] * abs(change):
                     least = (far, abs(change))
         return least
 
     def _between(self, hands):
         """Those of the hand-overs whose weights are neither 0 nor 1."""
-        return [hand for hand in hands if 0 < self.told[hand] < self.parts]
+        return [hand for hand in hands if 0 < self.shares[hand] < self.parts]
 
     def _keep(self, told, parts):
         """Keep these weights, in as few parts of 1 as can be, and of the group those that are between 0 and 1."""
         shared = parts
         for weight in told.values():
             shared = gcd(shared, weight)
-        self.told = {hand: weight // shared for hand, weight in told.items()}
+        self.shares = {hand: weight // shared for hand, weight in told.items()}
         self.parts = parts // shared
         self.group = self._between([hand for hand in self.group if hand in told])
 

@@ -1,7 +1,7 @@
 """Whether papers about least numbers, fronts and patience are right."""
 
 from lastgiver.cells import mask_of
-from lastgiver.checks import are_integers, is_integer
+from lastgiver.checks import are_integers, ascends, is_integer
 from lastgiver.deals import check_deal
 from lastgiver.dials import Dial
 from lastgiver.fronts import Front, seen_from_both
@@ -64,7 +64,7 @@ def _is_right_least(seen, value):
 
 def _is_good_at(seen, numbers, row):
     """Whether any value is a row of what is left that is good at these numbers of the dials."""
-    if not are_integers(row) or sorted(list(row)) != list(seen.left):
+    if not are_integers(row) or sorted(list(row)) != list(seen.numbers):
         return False
     field = seen.field_at(numbers)
     return all([field.is_free(state) for state in seen.states_along(field, row)])
@@ -77,7 +77,7 @@ def _are_just_reached(seen, numbers, sets):
         return False
     field = seen.field_below(numbers)
     listed = {mask: True for mask in masks}
-    if (1 << len(seen.left)) - 1 in listed:
+    if (1 << len(seen.numbers)) - 1 in listed:
         return False
     if 0 not in listed:
         return len(masks) == 0 and not field.is_free(field.start)
@@ -102,21 +102,16 @@ def _masks_told(seen, sets):
     if not isinstance(sets, tuple) or not all([are_integers(done) for done in sets]):
         return None
     ordered = [(len(done), done) for done in sets]
-    if not _ascends(ordered) or not all([_ascends(done) for done in sets]):
+    if not ascends(ordered) or not all([ascends(done) for done in sets]):
         return None
-    places = {number: place for place, number in enumerate(seen.left)}
-    known = [*seen.done, *seen.left]
+    places = {number: place for place, number in enumerate(seen.numbers)}
+    known = [*seen.done, *seen.numbers]
     masks = []
     for done in sets:
         if not all([number in known for number in done]) or not all([number in done for number in seen.done]):
             return None
         masks.append(mask_of([places[number] for number in done if number in places]))
     return masks
-
-
-def _ascends(items):
-    """Whether each item is greater than the one ahead of it."""
-    return all([items[place] < items[place + 1] for place in range(len(items) - 1)])
 
 
 def _are_points(value):

@@ -1,7 +1,7 @@
 """Whether papers about good rows are right, read by adding up."""
 
 from lastgiver.cells import mask_of
-from lastgiver.checks import are_integers, is_row, is_within
+from lastgiver.checks import are_integers, ascends, is_done_set, is_row, is_within
 from lastgiver.deals import check_deal, first_bad_moment
 from lastgiver.kind_rows import StuckKinds, check_unleant_deal
 from lastgiver.kinds import Kinds, are_counts
@@ -20,12 +20,7 @@ def shows_good(deal, value):
 def shows_stuck(deal, value):
     """Whether any value is a Stuck whose sets are a closed list."""
     check_deal(deal)
-    if type(value) is not Stuck or not _are_sets(len(deal.swap.hands), value.sets):
-        return False
-    listed = {mask_of(done): True for done in value.sets}
-    if (1 << len(deal.swap.hands)) - 1 in listed or (0 not in listed and deal.is_allowed(())):
-        return False
-    return all([_leads_within(deal, done, listed) for done in value.sets])
+    return type(value) is Stuck and _are_in_order(value.sets) and is_closed_list(deal, value.sets)
 
 
 def shows_stuck_kinds(deal, value):
@@ -62,23 +57,22 @@ def shows_gap(one, many, other, more, bounds, value):
     return is_gap(stretch_at(tracks, value.place, more), stretch_at(tracks, value.place + 1, more))
 
 
-def _are_sets(many, value):
-    """Whether any value is a tuple of different done sets, in their order."""
-    if not isinstance(value, tuple) or not all([_is_set(many, done) for done in value]):
+def is_closed_list(deal, value):
+    """Whether any value is a tuple of the sets of a closed list, in any order."""
+    many = len(deal.swap.hands)
+    if not isinstance(value, tuple) or not all([is_done_set(many, done) for done in value]):
         return False
-    return _ascends([(len(done), done) for done in value])
-
-
-def _is_set(many, value):
-    """Whether any value is an ascending tuple of numbers of hand-overs."""
-    if not are_integers(value) or not all([0 <= number < many for number in value]):
+    listed = {mask_of(done): True for done in value}
+    if len(listed) < len(value) or (1 << many) - 1 in listed or (0 not in listed and deal.is_allowed(())):
         return False
-    return _ascends(value)
+    return all([_leads_within(deal, done, listed) for done in value])
 
 
-def _ascends(items):
-    """Whether each item is greater than the one ahead of it."""
-    return all([items[place] < items[place + 1] for place in range(len(items) - 1)])
+def _are_in_order(value):
+    """Whether any value is a tuple of tuples of integers in the order of done sets."""
+    if not isinstance(value, tuple) or not all([are_integers(done) for done in value]):
+        return False
+    return ascends([(len(done), done) for done in value])
 
 
 def _leads_within(deal, done, listed):
@@ -93,7 +87,7 @@ def _are_listed_counts(sizes, value):
     """Whether any value is a tuple of different counts, in their order."""
     if not isinstance(value, tuple) or not all([are_counts(sizes, counts) for counts in value]):
         return False
-    return _ascends([(sum(counts), counts) for counts in value])
+    return ascends([(sum(counts), counts) for counts in value])
 
 
 def _allows_counts(deal, kinds, counts):

@@ -67,6 +67,18 @@ def done_told(many, value, part):
     return tuple(sorted(hands_told(many, value, part)))
 
 
+def ascends(items):
+    """Whether each item is greater than the one ahead of it."""
+    return all([items[place] < items[place + 1] for place in range(len(items) - 1)])
+
+
+def is_done_set(many, value):
+    """Whether any value is a tuple of numbers of so many hand-overs, ascending, as a paper tells a done set."""
+    if not isinstance(value, tuple) or not all([is_within(number, 0, many - 1) for number in value]):
+        return False
+    return ascends(value)
+
+
 def check_hand(many, value):
     """Raise NoHand for any value that is no number of so many hand-overs."""
     if not is_within(value, 0, many - 1):

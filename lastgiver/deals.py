@@ -3,7 +3,7 @@
 from lastgiver.bounds import Bounds, bounds_at
 from lastgiver.cells import mask_of, sets_in, tracks_of
 from lastgiver.checks import check_hand, done_told, integer_in, is_within, word_at, words_of
-from lastgiver.errors import BadBounds, BadDeal, BadLeanings, BadText, Done, Leans, TooMany, Unlike
+from lastgiver.errors import BadBounds, BadDeal, BadLeanings, BadText, Done, Leans, NoWay, TooMany, Unlike
 from lastgiver.fields import Field, bound_slacks, leaning_slacks
 from lastgiver.leanings import Leanings, are_pairs
 from lastgiver.swaps import check_swap, swap_at_start
@@ -131,6 +131,14 @@ def check_small_deal(deal):
     check_deal(deal)
     if len(deal.swap.hands) > MOST_HANDS:
         raise TooMany("hands", MOST_HANDS)
+
+
+def check_ends(deal):
+    """Raise NoWay for a deal whose empty set, or else its full one, is not allowed, with the first who objects."""
+    for done in ((), tuple(range(len(deal.swap.hands)))):
+        objected = deal.objections(done)
+        if len(objected) > 0:
+            raise NoWay(done, objected[0].name)
 
 
 def allowed_sets(deal):

@@ -2,8 +2,7 @@
 
 from math import lcm
 
-from lastgiver.deals import check_deal, check_no_leaning
-from lastgiver.errors import NoWay
+from lastgiver.deals import check_deal, check_ends, check_no_leaning
 from lastgiver.papers import Denial, Paper, fixed
 from lastgiver.ratios import Ratio, greatest_of, least_of
 from lastgiver.swaps import check_swap
@@ -88,10 +87,7 @@ def check_fine(deal):
     """Raise the errors of a deal that has no beginning or no end."""
     check_deal(deal)
     check_no_leaning(deal)
-    for done in ((), tuple(range(len(deal.swap.hands)))):
-        objected = deal.objections(done)
-        if len(objected) > 0:
-            raise NoWay(done, objected[0].name)
+    check_ends(deal)
 
 
 def opened_in(deal):

@@ -44,7 +44,7 @@ class Front(Paper):
 def front(deal, one, other):
     """A Front with the first rows, or a Never."""
     seen = seen_from_both(deal, one, other)
-    many = len(seen.left)
+    many = len(seen.numbers)
     if many > MOST_HANDS:
         raise TooMany("hands", MOST_HANDS)
     come = seen.field().reached_cells()
@@ -70,7 +70,7 @@ def _front_within(seen, come):
 
     Each point has the least first number below the second number of the point ahead of it.
     """
-    many = len(seen.left)
+    many = len(seen.numbers)
     full = (1 << many) - 1
     firsts = seen.needs_in(come, 0)
     seconds = seen.needs_in(come, 1)
@@ -84,7 +84,7 @@ def _front_within(seen, come):
         y = least_needs({cell: need for cell, need in seconds.items() if firsts[cell] <= x}, many)[full]
         points.append((seen.number_of(x, 0), seen.number_of(y, 1)))
         fit = bits_of([cell for cell, need in seconds.items() if need <= y and firsts[cell] <= x])
-        rows.append(first_way(leading_cells(fit, seen.sizes), [(number,) for number in seen.left]))
+        rows.append(first_way(leading_cells(fit, seen.sizes), [(number,) for number in seen.numbers]))
         on_the_way = least_needs({cell: need for cell, need in firsts.items() if seconds[cell] < y}, many)
     fences.append(seen.sets_of(bits_of(on_the_way)))
     return Front(points, rows, fences)

@@ -70,6 +70,12 @@ def are_pairs(value):
     return is_listed(value) and all([is_listed(pair) and len(pair) == 2 for pair in value])
 
 
+def pairs_among(leanings, numbers):
+    """The pairs of leanings between these numbers, each told by its place among them."""
+    places = {number: place for place, number in enumerate(numbers)}
+    return [(places[one], places[other]) for one, other in leanings.pairs if one in places and other in places]
+
+
 def _needed_masks(many, pairs):
     """For each number the mask of those on which it leans at once."""
     masks = [0] * many

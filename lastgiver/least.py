@@ -35,7 +35,7 @@ class Never(Denial):
 def least(deal, dial, done=()):
     """A Least with the first row that is good at the number, or a Never."""
     seen = seen_from(deal, dial, done)
-    if len(seen.left) > MOST_HANDS:
+    if len(seen.numbers) > MOST_HANDS:
         raise TooMany("hands", MOST_HANDS)
     need = seen.least_need()
     if need is None:
@@ -43,7 +43,7 @@ def least(deal, dial, done=()):
     number = seen.number_of(need, 0)
     below = seen.field_below([number])
     fit = seen.field_at([number]).reached_cells()
-    row = first_way(leading_cells(fit, seen.sizes), [(left,) for left in seen.left])
+    row = first_way(leading_cells(fit, seen.sizes), [(left,) for left in seen.numbers])
     return Least(number, row, pinch_of(seen, below, row), seen.sets_of(below.reached_cells()))
 
 

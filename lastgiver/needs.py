@@ -6,7 +6,7 @@ Sets are told by cells of what is left behind a first one: the masks of the plac
 from heapq import heappop, heappush
 from math import lcm
 
-from lastgiver.cells import cells_in, sets_in
+from lastgiver.cells import cells_in, sets_in, sums_among
 from lastgiver.fields import FEW_STEPS, Field
 from lastgiver.ratios import Ratio
 
@@ -16,12 +16,12 @@ class Seen:
 
     def __init__(self, deal, dials, done):
         self.done = tuple(done)
-        self.left = tuple([number for number in range(len(deal.swap.hands)) if number not in done])
-        self.sizes = [1] * len(self.left)
-        bars = [_leaning_slack(pair, done, self.left) for pair in deal.leanings.pairs]
+        self.numbers = tuple([number for number in range(len(deal.swap.hands)) if number not in done])
+        self.sizes = [1] * len(self.numbers)
+        bars = [_leaning_slack(pair, done, self.numbers) for pair in deal.leanings.pairs]
         # What a dial needs is at least 0; the parts are those of 1 in which it is told.
-        asked = [[(0, [0] * len(self.left), 1, 1)] for dial in dials]
-        for name, side, bound, first, changes, scale in _bounds_seen(deal, done, self.left):
+        asked = [[(0, [0] * len(self.numbers), 1, 1)] for dial in dials]
+        for name, side, bound, first, changes, scale in _bounds_seen(deal, done, self.numbers):
             which, weight = _on_dial(dials, name, side)
             if which is not None and weight.sign > 0:
                 asked[which].append((-first, [-change for change in changes], scale * weight.top, weight.bottom))
@@ -47,7 +47,7 @@ class Seen:
         """A dict: for each of the cells, ascending, which number it needs of a dial, in parts of 1."""
         cells = cells_in(bits)
         needs = [0] * len(cells)
-        half = len(self.left) // 2
+        half = len(self.numbers) // 2
         low_part = (1 << half) - 1
         for first, changes in self.asks[which]:
             low, high = _tables_of(first, changes)
@@ -60,8 +60,8 @@ class Seen:
         if near is not None:
             return near
         come = self.field().reached_cells()
-        full = (1 << len(self.left)) - 1
-        return least_needs(self.needs_in(come, 0), len(self.left))[full] if come >> full & 1 else None
+        full = (1 << len(self.numbers)) - 1
+        return least_needs(self.needs_in(come, 0), len(self.numbers))[full] if come >> full & 1 else None
 
     def number_of(self, need, which):
         """The Ratio of a number that is told in parts of 1."""
@@ -69,16 +69,16 @@ class Seen:
 
     def sets_of(self, bits):
         """The list of the done sets of some cells, in their order."""
-        inner = sets_in(bits, len(self.left))
+        inner = sets_in(bits, len(self.numbers))
         if len(self.done) == 0:
             return inner
-        return [tuple(sorted([*self.done, *[self.left[place] for place in places]])) for places in inner]
+        return [tuple(sorted([*self.done, *[self.numbers[place] for place in places]])) for places in inner]
 
     def states_along(self, field, row):
         """The states of a Field at all moments of a row of what is left."""
         states = [field.start]
         for number in row:
-            states.append(states[-1] + field.steps[self.left.index(number)])
+            states.append(states[-1] + field.steps[self.numbers.index(number)])
         return states
 
     def _near_need(self):
@@ -88,17 +88,17 @@ class Seen:
         """
         field = self.field()
         tables = [_tables_of(first, changes) for first, changes in self.asks[0]]
-        half = len(self.left) // 2
+        half = len(self.numbers) // 2
         low_part = (1 << half) - 1
         # One hand-over more asks more of its giver's trust and its taker's pledge alone.
         further_asked = [
             [table for table, ask in zip(tables, self.asks[0]) if ask[1][place] > 0]
-            for place in range(len(self.left))
+            for place in range(len(self.numbers))
         ]
         first_need = max([low[0] for low, high in tables])
         queue = []
         if field.is_free(field.start):
-            heappush(queue, (first_need, len(self.left), 0, field.start))
+            heappush(queue, (first_need, len(self.numbers), 0, field.start))
         met = {0: True}
         tried = 0
         steps = list(field.steps)
@@ -112,7 +112,7 @@ class Seen:
                     met[further] = True
                     told = [low[further & low_part] + high[further >> half] for low, high in further_asked[place]]
                     heappush(queue, (max([need, *told]), many - 1, further, state + step))
-            tried = tried + len(self.left)
+            tried = tried + len(self.numbers)
         return None
 
     def _field_within(self, numbers, less):
@@ -198,12 +198,4 @@ def _in_parts(asked, parts):
 def _tables_of(first, changes):
     """Two lists, of the sums for the lower half of a cell and for the upper one, which add up to that of the cell."""
     half = len(changes) // 2
-    return _sums_among(first, changes[:half]), _sums_among(0, changes[half:])
-
-
-def _sums_among(first, changes):
-    """The sums of a first number and of some of the changes, each at the place that is their mask."""
-    found = [first]
-    for change in changes:
-        found = found + [total + change for total in found]
-    return found
+    return sums_among(first, changes[:half]), sums_among(0, changes[half:])

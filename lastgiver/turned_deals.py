@@ -4,6 +4,7 @@ from lastgiver.bounds import Bounds
 from lastgiver.checks import done_told
 from lastgiver.deals import Deal, check_deal
 from lastgiver.errors import Ahead, Below, Objected
+from lastgiver.leanings import pairs_among
 from lastgiver.sums import rest, sums
 from lastgiver.turned import handed_back, portion
 
@@ -32,7 +33,7 @@ def rest_deal(deal, done):
     _check_allowed(deal, told)
     left = rest(deal.swap, told)
     trusts = _raised(deal.bounds.trusts, sums(deal.swap, told))
-    return Deal(portion(deal.swap, left), Bounds(trusts, deal.bounds.pledges), _pairs_among(deal.leanings, left))
+    return Deal(portion(deal.swap, left), Bounds(trusts, deal.bounds.pledges), pairs_among(deal.leanings, left))
 
 
 def _raised(bounds, line):
@@ -54,9 +55,3 @@ def _check_allowed(deal, done):
     objected = deal.objections(done)
     if len(objected) > 0:
         raise Objected(objected[0].name, objected[0].amount)
-
-
-def _pairs_among(leanings, numbers):
-    """The pairs of leanings between these numbers, each told by its place among them."""
-    places = {number: place for place, number in enumerate(numbers)}
-    return [(places[one], places[other]) for one, other in leanings.pairs if one in places and other in places]

@@ -39,6 +39,16 @@ FUNCTIONS = {
     "fine": "openings(deal) closings(deal) fine(deal) sources(swap)",
     "check_pieces": "shows_pieced(deal,value) shows_least_pieces(deal,value) shows_fewest_pieces(deal,value) "
                     "shows_enough_pieces(deal,value) shows_fine(deal,value)",
+    "ways": "count_ways(deal,largest=None)",
+    "together": "parting(deal,e,f) behind(deal,e,f) classes(deal) never_behind(deal)",
+    "groups": "most_groups(deal) least_group(deal) fewest_groups(deal,largest)",
+    "check_groups": "shows_parting(deal,e,f,value) shows_behind(deal,e,f,value) shows_most(deal,value) "
+                    "shows_narrow(deal,value) shows_few(deal,largest,value)",
+    "held_ways": "held_way(deal,keepers) count_held(deal,keepers)",
+    "purses": "least_purse(deal,keepers,name) reliers(deal,keepers,name)",
+    "laid": "laid(deal,keeper,amounts) shifted(deal,amounts) span(deal,row,name) least_laid(deal,name)",
+    "check_hands": "shows_held(deal,keepers,value) shows_least_purse(deal,keepers,name,value) "
+                   "shows_reliers(deal,keepers,name,value) shows_least_laid(deal,name,value) hand_moments(deal,keepers,held)",
     "even": "lane(deal) grain(swap) enough_width(swap) filled(deal) hardest(p,q)",
 }
 CLASSES = {
@@ -90,6 +100,21 @@ CLASSES = {
     ("fine", "Fine"): "__init__(opening,closing,pieces)",
     ("fine", "Unopened"): "__init__(opened,against)",
     ("fine", "Unclosed"): "__init__(closed,against)",
+    ("ways", "Way"): "__init__(deal,groups) merged(at) refined() as_row() __len__ __eq__ __iter__ largest",
+    ("together", "Parted"): "__init__(done)",
+    ("together", "Together"): "__init__(lines)",
+    ("groups", "Most"): "__init__(number,groups,ranks)",
+    ("groups", "Narrow"): "__init__(number,groups,fence)",
+    ("groups", "Few"): "__init__(number,groups,ranks)",
+    ("keepers", "Keeper"): "__init__(name,purse,*relied_on_by) with_purse(purse) __contains__ __eq__",
+    ("keepers", "Keepers"): "__init__(swap,worths,*keepers) placed(keeper) reasons(name,group) __eq__",
+    ("held_ways", "Held"): "__init__(strokes)",
+    ("held_ways", "NotHeld"): "__init__(sets)",
+    ("purses", "LeastPurse"): "__init__(number,strokes,fence)",
+    ("purses", "Reliers"): "__init__(least,barred)",
+    ("purses", "NoPurse"): "__init__(sets)",
+    ("laid", "LeastLaid"): "__init__(number,row,closed)",
+    ("laid", "NeverLaid"): "__init__(closed)",
 }
 
 

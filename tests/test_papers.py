@@ -8,16 +8,21 @@ from lastgiver.fine import Fine, Unclosed, Unopened
 from lastgiver.fitting import EnoughPieces, FewestPieces, LeastPieces, NoFewest, NoPieces, Tight
 from lastgiver.fronts import Front
 from lastgiver.group_plays import PlayedGroups
+from lastgiver.groups import Few, Most, Narrow
+from lastgiver.held_ways import Held, NotHeld
 from lastgiver.kind_rows import StuckKinds
+from lastgiver.laid import LeastLaid, NeverLaid
 from lastgiver.least import Least, Never
 from lastgiver.papers import Denial, Paper, fixed
 from lastgiver.patience import Patience
 from lastgiver.pieces import Pieced, Unpieced
 from lastgiver.plays import Played
+from lastgiver.purses import LeastPurse, NoPurse, Reliers
 from lastgiver.ratios import Ratio
 from lastgiver.roads import Rank
 from lastgiver.rows import Good, Stuck
 from lastgiver.seasons import Season
+from lastgiver.together import Parted, Together
 from lastgiver.two_sides import Gap, Sides
 
 from support import Case
@@ -31,6 +36,9 @@ SEVERAL = [
     (LeastPieces, "pieces order denials", True), (FewestPieces, "counts order denials", True), (EnoughPieces, "pieces", True),
     (NoPieces, "most denials", False), (NoFewest, "extra denials", False), (Tight, "name side", False),
     (Fine, "opening closing pieces", True), (Unopened, "opened against", False), (Unclosed, "closed against", False),
+    (Parted, "done", True), (Together, "lines", False), (Most, "number groups ranks", True), (Narrow, "number groups fence", True),
+    (Few, "number groups ranks", True), (Held, "strokes", True), (NotHeld, "sets", False), (LeastPurse, "number strokes fence", True),
+    (NoPurse, "sets", False), (Reliers, "least barred", True), (LeastLaid, "number row closed", True), (NeverLaid, "closed", False),
 ]
 KINDS = [(Good, "good", "row", True), (Stuck, "stuck", "sets", False), (StuckKinds, "stuckkinds", "counts", False),
          (Sides, "sides", "row", True), (Gap, "gap", "place", False)]
