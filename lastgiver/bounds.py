@@ -19,8 +19,8 @@ class Bounds:
             raise BadBounds("pledges")
         if len(trusts) != len(pledges):
             raise Unlike("pledges")
-        self.trusts = tuple([_kept(trust) for trust in trusts])
-        self.pledges = tuple([_kept(pledge) for pledge in pledges])
+        self.trusts = tuple([kept_bound(trust) for trust in trusts])
+        self.pledges = tuple([kept_bound(pledge) for pledge in pledges])
 
     def __len__(self):
         return len(self.trusts)
@@ -113,7 +113,7 @@ def _are_bounds(value):
     return all([is_bound(item) for item in value])
 
 
-def _kept(bound):
+def kept_bound(bound):
     """The bound as Bounds keep it."""
     return None if bound is None else Ratio.of(bound)
 
@@ -137,27 +137,27 @@ def _greater(bound, other):
 
 def _pair_text(trust, pledge):
     """The text of one stranger's bounds."""
-    return f"{_bound_text(trust)} {_bound_text(pledge)}"
+    return f"{bound_text(trust)} {bound_text(pledge)}"
 
 
-def _bound_text(bound):
+def bound_text(bound):
     """The word that tells a bound."""
     return WIDE if bound is None else str(bound)
 
 
-def _bound_at(words, at):
+def bound_at(words, at):
     """The bound that the word at this place tells."""
     return None if word_at(words, at) == WIDE else amount_at(words, at)
 
 
 def bounds_at(words, at, least, most):
     """The Bounds told from this place on, of least to most strangers, and the place behind them."""
-    trusts = [_bound_at(words, at)]
-    pledges = [_bound_at(words, at + 1)]
+    trusts = [bound_at(words, at)]
+    pledges = [bound_at(words, at + 1)]
     end = at + 2
     while end < len(words) and words[end] == "," and len(trusts) < most:
-        trusts.append(_bound_at(words, end + 1))
-        pledges.append(_bound_at(words, end + 2))
+        trusts.append(bound_at(words, end + 1))
+        pledges.append(bound_at(words, end + 2))
         end = end + 3
     if len(trusts) < least:
         raise BadText(0, end)

@@ -65,7 +65,7 @@ def is_closed_list(deal, value):
     listed = {mask_of(done): True for done in value}
     if len(listed) < len(value) or (1 << many) - 1 in listed or (0 not in listed and deal.is_allowed(())):
         return False
-    return all([_leads_within(deal, done, listed) for done in value])
+    return all([leads_within(deal, done, listed) for done in value])
 
 
 def _are_in_order(value):
@@ -75,7 +75,7 @@ def _are_in_order(value):
     return ascends([(len(done), done) for done in value])
 
 
-def _leads_within(deal, done, listed):
+def leads_within(deal, done, listed):
     """Whether a set is allowed, and each single move from it leads to a listed one."""
     if not deal.is_allowed(done):
         return False

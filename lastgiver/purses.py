@@ -99,7 +99,8 @@ def reliers_tried(deal, keepers, name):
 
 def holders_if(keepers, name, names):
     """For each mask the tuple of those who hold it if just these strangers rely on the keeper of this name."""
-    keeper = Keeper(name, keeper_named(keepers, name).purse, *names)
+    purse = keeper_named(keepers, name).purse
+    keeper = Keeper(name, purse, *names)
     worths = Worths(keepers)
     return worths.holders(worths.told_of([keeper if one.name == name else one for one in keepers.keepers]))
 

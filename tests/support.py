@@ -9,6 +9,7 @@ from lastgiver.bounds import Bounds
 from lastgiver.deals import Deal
 from lastgiver.dials import Dial
 from lastgiver.errors import LastError
+from lastgiver.papers import Paper
 from lastgiver.ratios import Ratio
 from lastgiver.swaps import HandOver, Swap
 
@@ -208,6 +209,8 @@ def loosened(value):
 
 def bent_leaf(value):
     """Values that do not stand for this one."""
+    if isinstance(value, Paper):
+        return [None, 0, value.parts, type(value)]
     if isinstance(value, bool):
         return [not value, int(value), Ratio(int(value)), None]
     if isinstance(value, Ratio):

@@ -49,6 +49,16 @@ FUNCTIONS = {
     "laid": "laid(deal,keeper,amounts) shifted(deal,amounts) span(deal,row,name) least_laid(deal,name)",
     "check_hands": "shows_held(deal,keepers,value) shows_least_purse(deal,keepers,name,value) "
                    "shows_reliers(deal,keepers,name,value) shows_least_laid(deal,name,value) hand_moments(deal,keepers,held)",
+    "choices": "choices(deal)",
+    "doable": "ended(choice,done=()) doable(deal,done=()) most_chosen(deal,done=()) brings_most(deal,done=()) gainful_most(deal) "
+              "choice_front(deal,done=())",
+    "changed": "renaming(deal,names) seating(deal,strangers) ordering(deal,order) scaling(deal,ratio) adding(deal,name) "
+               "idling(deal,giver,taker) capping(deal)",
+    "check_choices": "shows_ended(deal,value) shows_stuck_choice(deal,value) shows_no_choice(deal,value) shows_most(deal,done,value) "
+                     "shows_brings_most(deal,done,value) shows_gainful_most(deal,value) shows_choice_front(deal,done,value)",
+    "stories": "replay(deal,story) merged(one,other)",
+    "plans": "plan(book) shows_plan(book,value) can_end(book) enough_here(book)",
+    "reader": "form_of(value) read_line(line,forms)",
     "even": "lane(deal) grain(swap) enough_width(swap) filled(deal) hardest(p,q)",
 }
 CLASSES = {
@@ -115,6 +125,23 @@ CLASSES = {
     ("purses", "NoPurse"): "__init__(sets)",
     ("laid", "LeastLaid"): "__init__(number,row,closed)",
     ("laid", "NeverLaid"): "__init__(closed)",
+    ("choices", "Choice"): "__init__(deal,numbers) numbers_of(inners) read(deal,text) whole(deal) none(deal) __len__ __iter__ __contains__ "
+                           "__eq__ __or__ __and__ __str__ brings is_gainful",
+    ("doable", "Ended"): "__init__(numbers,done,row)",
+    ("doable", "StuckChoice"): "__init__(numbers,done,sets)",
+    ("doable", "Best"): "__init__(numbers,row,others)",
+    ("doable", "ChoiceFront"): "__init__(points,others)",
+    ("doable", "NoChoice"): "__init__(done,name,amount)",
+    ("changed", "DealChange"): "done_after(done) row_after(row) row_before(row) line_after(line) __mul__",
+    ("deeds", "Deed"): "read(text) __eq__ __str__",
+    ("deeds", "Do"): "__init__(numbers) __eq__ __str__",
+    ("deeds", "Leave"): "__init__(name) __eq__ __str__",
+    ("deeds", "Break"): "__init__(number) __eq__ __str__",
+    ("deeds", "SetTrust"): "__init__(name,trust) __eq__ __str__",
+    ("deeds", "SetPledge"): "__init__(name,pledge) __eq__ __str__",
+    ("books", "Book"): "__init__(deal) do(*numbers) leave(name) breaks(number) set_trust(name,trust) set_pledge(name,pledge) tell(deed) "
+                       "undo() redo() left() twin() tried(work) __len__ __iter__ __eq__ sums_now hopes waiting objecting",
+    ("desk", "Desk"): "told(*lines) undo() deed_lines() value_of(name) __call__(line) __contains__ __len__ __iter__ __eq__",
 }
 
 
@@ -146,6 +173,16 @@ class InterfaceTest(unittest.TestCase):
                 self.assertIn(method, vars(kind), (name, method))
                 if stop:
                     self.assertEqual(text, method + told_parameters(getattr(kind, method)))
+
+    def test_static_methods(self):
+        for file, name, methods in (("choices", "Choice", "read whole none"), ("deeds", "Deed", "read"), ("swaps", "Swap", "ring"),
+                                    ("bounds", "Bounds", "alike zero"), ("ratios", "Ratio", "of")):
+            kind = getattr(importlib.import_module(f"lastgiver.{file}"), name)
+            for method in methods.split():
+                self.assertIsInstance(vars(kind)[method], staticmethod)
+
+    def test_forms_stand_in_their_file(self):
+        self.assertEqual(("swap", "bounds", "deal", "dial"), importlib.import_module("lastgiver.reader").FORMS)
 
     def test_errors_stand_in_their_own_file(self):
         module = importlib.import_module("lastgiver.errors")

@@ -15,7 +15,7 @@ from lastgiver.swaps import HandOver, Swap
 from lastgiver.walked import RowWalk
 
 from support import (
-    CUP, NO_AMOUNTS, NO_DEALS, NO_HANDS, NO_NAMES, NO_ROWS, ODD, Case, all_sets, as_fraction, plain_allowed, plain_good_rows,
+    CUP, NO_AMOUNTS, NO_DEALS, NO_HANDS, NO_NAMES, NO_ROWS, Case, all_sets, as_fraction, plain_allowed, plain_good_rows,
     plain_reached, plain_sums, random_deals, random_ratio, random_swap,
 )
 from support_ways import NO_BEGINNING

@@ -122,6 +122,15 @@ def made_in(function):
     return made - others
 
 
+def is_plain(node, deep=0):
+    """Whether a value at module level is a constant, or a tuple or dict of these and of functions; no dict stands in one."""
+    if isinstance(node, ast.Dict):
+        return deep == 0 and all(isinstance(key, ast.Constant) for key in node.keys) and all(is_plain(one, 1) for one in node.values)
+    if isinstance(node, ast.Tuple):
+        return all(is_plain(one, deep + 1) for one in node.elts)
+    return isinstance(node, ast.Constant) or (deep > 0 and isinstance(node, ast.Name))
+
+
 def is_generator(function):
     """Whether a function yields."""
     return any(isinstance(node, (ast.Yield, ast.YieldFrom)) for node in ast.walk(function))
@@ -148,7 +157,7 @@ class LanguageTest(unittest.TestCase):
             self.assertIsNotNone(ast.get_docstring(tree), name)
             others = [row for row in rows if not isinstance(row, plain)]
             self.none((name, row.lineno) for row in others if not isinstance(row, ast.Assign))
-            self.none((name, row.lineno) for row in others if not isinstance(row.value, ast.Constant))
+            self.none((name, row.lineno) for row in others if not is_plain(row.value))
             told = [row.name for row in rows if isinstance(row, (ast.FunctionDef, ast.ClassDef))]
             told += [alias.name for row in rows if isinstance(row, ast.ImportFrom) for alias in row.names]
             told += [target.id for row in others for target in row.targets]
@@ -198,7 +207,7 @@ class LanguageTest(unittest.TestCase):
 
     def test_no_value_that_is_left_out(self):
         kinds = (
-            ast.Lambda, ast.GeneratorExp, ast.Global, ast.Nonlocal, ast.Try, ast.With, ast.AugAssign, ast.AnnAssign,
+            ast.Lambda, ast.GeneratorExp, ast.Global, ast.Nonlocal, ast.With, ast.AugAssign, ast.AnnAssign,
             ast.Set, ast.NamedExpr, ast.Match, ast.AsyncFunctionDef, ast.Await, ast.Assert, ast.Delete, ast.Div,
             ast.Pow, ast.MatMult,
         )
@@ -313,6 +322,18 @@ class LanguageTest(unittest.TestCase):
             self.assertIsInstance(node.exc, ast.Call, (name, node.lineno))
             self.assertIn(node.exc.func.id, errors)
             self.assertEqual([], node.exc.keywords)
+
+    def test_own_errors_alone_are_caught(self):
+        errors = {row.name for row in TREES["errors"].body if isinstance(row, ast.ClassDef)}
+        for name, node in nodes(ast.Try):
+            for handler in node.handlers:
+                self.assertIn(handler.type.id, errors, (name, node.lineno))
+                for row in (row for told in handler.body for row in ast.walk(told)):
+                    self.assertFalse(isinstance(row, ast.Name) and isinstance(row.ctx, ast.Store) and row.id == handler.name)
+            for row in node.finalbody:
+                self.assertIsInstance(row, ast.Assign, (name, node.lineno))
+                told = [one for one in ast.walk(row) if not isinstance(one, (ast.Assign, ast.Tuple, ast.Name, ast.Attribute, ast.expr_context))]
+                self.none(told)
 
     def test_texts_of_values_only_return(self):
         for _, row in methods():

@@ -3,6 +3,7 @@
 import unittest
 
 from lastgiver.chains import Chain
+from lastgiver.doable import Best, ChoiceFront, Ended, NoChoice, StuckChoice
 from lastgiver.even import Filled, Halted, Outside
 from lastgiver.fine import Fine, Unclosed, Unopened
 from lastgiver.fitting import EnoughPieces, FewestPieces, LeastPieces, NoFewest, NoPieces, Tight
@@ -39,6 +40,8 @@ SEVERAL = [
     (Parted, "done", True), (Together, "lines", False), (Most, "number groups ranks", True), (Narrow, "number groups fence", True),
     (Few, "number groups ranks", True), (Held, "strokes", True), (NotHeld, "sets", False), (LeastPurse, "number strokes fence", True),
     (NoPurse, "sets", False), (Reliers, "least barred", True), (LeastLaid, "number row closed", True), (NeverLaid, "closed", False),
+    (Ended, "numbers done row", True), (StuckChoice, "numbers done sets", False), (Best, "numbers row others", True),
+    (ChoiceFront, "points others", True), (NoChoice, "done name amount", False),
 ]
 KINDS = [(Good, "good", "row", True), (Stuck, "stuck", "sets", False), (StuckKinds, "stuckkinds", "counts", False),
          (Sides, "sides", "row", True), (Gap, "gap", "place", False)]
