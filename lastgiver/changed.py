@@ -1,9 +1,9 @@
 """Changes of a deal, and what becomes of its numbers, rows and lines."""
 
 from lastgiver.bounds import Bounds
-from lastgiver.checks import done_told, is_listed, is_name, row_told
+from lastgiver.checks import done_told, is_listed, row_told
 from lastgiver.deals import Deal, check_deal
-from lastgiver.errors import BadNumber, BadSwap, Unlike
+from lastgiver.errors import BadNumber, Unlike
 from lastgiver.ratios import Ratio, is_ratio
 from lastgiver.sums import gave
 from lastgiver.swaps import HandOver, Swap
@@ -93,8 +93,6 @@ def scaling(deal, ratio):
 def adding(deal, name):
     """The change that adds a stranger, the last one, without hand-overs, trust and pledge."""
     check_deal(deal)
-    if not is_name(name):
-        raise BadSwap("strangers")
     swap = Swap([*deal.swap.strangers, name], deal.swap.hands)
     bounds = Bounds([*deal.bounds.trusts, 0], [*deal.bounds.pledges, 0])
     return _changed(deal, Deal(swap, bounds, deal.leanings), None, None)

@@ -67,7 +67,7 @@ def shows_narrow(deal, value):
     return all([
         mask in fence or sizes[mask ^ inner] >= value.number
         for inner in fence for mask in masks
-        if inner & mask == inner and inner != mask
+        if inner & mask == inner
     ])
 
 

@@ -16,7 +16,8 @@ class Keeper:
     def __init__(self, name, purse, *relied_on_by):
         if not is_name(name):
             raise BadKeeper("name")
-        _check_purse(purse)
+        if not is_amount(purse):
+            raise BadKeeper("purse")
         if not are_names(relied_on_by):
             raise BadKeeper("stranger")
         check_none_twice(relied_on_by)
@@ -26,7 +27,6 @@ class Keeper:
 
     def with_purse(self, purse):
         """The Keeper with this purse."""
-        _check_purse(purse)
         names = self.relied_on_by
         return Keeper(self.name, purse, *names)
 
@@ -104,12 +104,6 @@ def check_kept(deal, keepers, *names):
         keeper_named(keepers, name)
     if keepers.swap != deal.swap:
         raise Unlike("swap")
-
-
-def _check_purse(purse):
-    """Raise BadKeeper for what is no ratio from 0 on."""
-    if not is_amount(purse):
-        raise BadKeeper("purse")
 
 
 def _check_names(swap, keepers):

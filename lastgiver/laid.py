@@ -43,17 +43,12 @@ def laid(deal, keeper, amounts):
     strangers = deal.swap.strangers
     if keeper in strangers:
         raise Twice(keeper)
-    if len(strangers) == Swap.MOST_STRANGERS:
-        raise TooMany("strangers", Swap.MOST_STRANGERS)
     told = [(name, amounts[name]) for name in strangers if name in amounts and Ratio.of(amounts[name]).sign > 0]
-    old = len(deal.swap.hands)
-    if old + 2 * len(told) > Swap.MOST_HANDS:
-        raise TooMany("hands", Swap.MOST_HANDS)
     over = [HandOver(name, keeper, amount, 0) for name, amount in told]
     back = [HandOver(keeper, name, 0, amount) for name, amount in told]
     swap = Swap([*strangers, keeper], [*deal.swap.hands, *over, *back])
     bounds = Bounds([*deal.bounds.trusts, 0], [*deal.bounds.pledges, 0])
-    return Deal(swap, bounds, [*deal.leanings.pairs, *_pairs_around(old, len(told))])
+    return Deal(swap, bounds, [*deal.leanings.pairs, *_pairs_around(len(deal.swap.hands), len(told))])
 
 
 def shifted(deal, amounts):
@@ -121,8 +116,7 @@ def _pairs_around(old, many):
     hands = range(old + 2 * many)
     pledged = range(old, old + many)
     back = range(old + many, old + 2 * many)
-    # A lesser number stands ahead where both are laid, or both give back, and each laid one ahead of each back.
     return [
         (e, f) for e in hands for f in hands
-        if (e in pledged and (f < old or f > e)) or (f in back and e < f and e not in pledged)
+        if (e in pledged and (f < old or e < f)) or (f in back and e < f)
     ]

@@ -38,13 +38,13 @@ def sizes_by_mask(many):
 
 
 def moves_to(values, mask, sizes, largest):
-    """For each move to a set, of at most so many hand-overs, from one that has a value: a triple.
+    """For each move to a set, of at most so many hand-overs, from another one that has a value: a triple.
 
     It tells the value, how many hand-overs are done, and the set from which they are.
     """
     return [
         (value, sizes[mask ^ inner], inner) for inner, value in values.items()
-        if inner & mask == inner and inner != mask and sizes[mask ^ inner] <= largest
+        if inner & mask == inner and sizes[mask ^ inner] <= largest
     ]
 
 

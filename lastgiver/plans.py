@@ -22,12 +22,10 @@ def shows_plan(book, value):
     deal = _left_of(book)
     places = {number: place for place, number in enumerate(book.waiting)}
     if type(value) is Good:
-        row = _places_of(places, value.row)
-        return row is not None and shows_good(deal, Good(row))
+        return shows_good(deal, Good(_places_of(places, value.row)))
     if type(value) is not Stuck or not isinstance(value.sets, tuple):
         return False
-    sets = [_places_of(places, done) for done in value.sets]
-    return None not in sets and shows_stuck(deal, Stuck(sets))
+    return shows_stuck(deal, Stuck([_places_of(places, done) for done in value.sets]))
 
 
 def can_end(book):

@@ -11,7 +11,7 @@ from lastgiver.check_choices import (
 from lastgiver.choices import Choice
 from lastgiver.deals import Deal
 from lastgiver.doable import (
-    Best, ChoiceFront, Ended, NoChoice, StuckChoice, brings_most, choice_front, ended, gainful_most, most_chosen,
+    Best, ChoiceFront, Ended, NoChoice, StuckChoice, brings_most, choice_front, doable, ended, gainful_most, most_chosen,
 )
 from lastgiver.errors import BadDeal, BadDone, NoHand, Twice
 from lastgiver.papers import Paper
@@ -193,7 +193,8 @@ class BestTest(Case):
                     self.assertIs(right_best(deal, done, told, False, value.parts), shows_brings_most(deal, done, value))
                     self.assertIs(right_best(deal, (), gainful_in(deal), False, value.parts), shows_gainful_most(deal, value))
 
-    def test_points_told_twice_or_left_out(self):
+    def test_points_told_twice_bettered_or_left_out(self):
+        bettered = 0
         for deal, done in done_deals(998, 40, 3):
             found = choice_front(deal, done)
             if not found:
@@ -203,6 +204,12 @@ class BestTest(Case):
                 for points in (less, (*found.points, point)):
                     self.assertIs(right_front(deal, done, (points, found.others)), shows_choice_front(deal, done, ChoiceFront(points, found.others)))
                 self.assertIs(False, shows_choice_front(deal, done, ChoiceFront((*found.points, point), found.others)))
+            chosen = [numbers for numbers, _ in found.points]
+            for one in doable(deal, done):
+                points = (*found.points, (one.numbers, one.row))
+                self.assertIs(False, shows_choice_front(deal, done, ChoiceFront(points, found.others)))
+                bettered += one.numbers not in chosen
+        self.assertGreater(bettered, 10)
 
     def test_seven_hand_overs(self):
         for many in (6, 7, 40):

@@ -1,6 +1,7 @@
 """Whether papers about ways by groups are right: right ones, and ones bent at each place."""
 
 import itertools
+import random
 import unittest
 
 from lastgiver.bounds import Bounds
@@ -16,7 +17,7 @@ from lastgiver.together import Parted, Together, behind, parting
 
 from support import CUP, NO_DEALS, NO_NUMBERS, ODD, Case, all_sets, bent, loosened, plain_allowed
 from support_ways import (
-    BARE, BOTH, NO_BEGINNING, NO_END, NONE, is_set, right_few, right_most, right_narrow, right_together, way_deals,
+    BARE, BOTH, NO_BEGINNING, NO_END, NONE, allowed_in, is_set, plain_ways, right_few, right_most, right_narrow, right_together, way_deals,
 )
 
 NO_PAPERS = [*ODD, 3, [], (), ((0, 1),), Paper("parted", ()), Good([0, 1]), Paper("most", 2, ((0, 1), (2,)), ())]
@@ -112,6 +113,11 @@ class PartingTest(Case):
         long = Deal(LONG.swap, LONG.bounds, [(0, 1)])
         lines = [(done, (0, 1)) for done in all_sets(9) if 1 in done and 0 not in done]
         self.assertIs(False, shows_behind(long, 0, 1, Together(lines)))
+        for many in (8, 9):
+            idle = Deal(Swap.read("ann bob | ann bob 1 2 | bob ann 1 2" + " | ann bob 0 0" * (many - 2)), Bounds.zero(2))
+            sets = kind_of_sets(idle, 0, 1, False)
+            lines = [(done, tuple(vars(idle.objections(done)[0]).values())) for done in sets]
+            self.assertIs(many == 8, shows_parting(idle, 0, 1, Together(lines)))
 
 
 class NumbersTest(Case):
@@ -171,6 +177,33 @@ class NumbersTest(Case):
         self.assertIs(False, shows_narrow(deal, Narrow(1, [[0], [1]], [[], [0, 1]])))
         self.assertIs(False, shows_narrow(deal, Narrow(1, [[0], [1]], [[1]])))
         self.assertIs(False, shows_narrow(deal, Narrow(1, [[0], [1]], [[], []])))
+
+    def test_any_ranks_and_fences(self):
+        rnd = random.Random(873)
+        kinds = []
+        for deal in [BOTH, BARE, *way_deals(874, 60, 4)]:
+            sets, groups = allowed_in(deal), tuple(rnd.choice(plain_ways(deal)))
+            for _ in range(12):
+                some = rnd.sample(sets, rnd.randrange(len(sets) + 1))
+                fence = tuple(some) if rnd.random() < 0.3 else tuple({(), *some} - {tuple(range(len(deal)))})
+                number = rnd.randrange(1, 4)
+                right = right_narrow(deal, (number, groups, fence))
+                kinds.append(right)
+                self.assertIs(right, shows_narrow(deal, Narrow(number, groups, fence)))
+                told = sets if rnd.random() < 0.7 else [(), *some]
+                ranks = {done: rnd.choice([len(done), len(done) // 2, rnd.randrange(3)]) for done in told}
+                ranks.update({(): 0, tuple(range(len(deal))): len(groups)})
+                parts = (len(groups), groups, tuple(ranks.items()))
+                kinds.append(right_few(deal, number, parts))
+                self.assertIs(right_most(deal, parts), shows_most(deal, Most(*parts)))
+                self.assertIs(kinds[-1], shows_few(deal, number, Few(*parts)))
+        self.assertGreater(min(kinds.count(True), kinds.count(False)), 50)
+
+    def test_a_fence_that_is_left_from_within(self):
+        deal = Deal(CUP, Bounds.alike(2, None, None))
+        self.assertIs(False, shows_narrow(deal, Narrow(2, [[0, 1]], [[], [0], [1]])))
+        three = Deal(Swap.read("a b | a b 1 1 | a b 1 1 | a b 1 1"), Bounds.alike(2, None, None))
+        self.assertIs(False, shows_narrow(three, Narrow(2, [[0, 1], [2]], [[], [0], [1], [2]])))
 
     def test_no_hand_over(self):
         self.assertIs(True, shows_most(NONE, Most(0, [], [[[], 0]])))

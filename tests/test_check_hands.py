@@ -15,6 +15,7 @@ from lastgiver.papers import Paper
 from lastgiver.purses import LeastPurse, NoPurse, Reliers, least_purse, reliers
 from lastgiver.ratios import Ratio
 from lastgiver.rows import Stuck
+from lastgiver.swaps import Swap
 
 from support import (
     CUP, NO_DEALS, NO_NAMES, ODD, Case, all_sets, as_fraction, bent, is_same, loosened, plain_allowed, plain_good, plain_reached,
@@ -229,6 +230,24 @@ class LeastPurseTest(Case):
         self.assertIs(False, shows_least_purse(BARE, LESS, "kin", NoPurse([()])))
         self.assertIs(True, shows_least_purse(BARE, LESS, "lo", NoPurse([()])))
 
+    def test_groups_of_strangers_who_do_not_rely(self):
+        deal = Deal(Swap.read("ann bob cay | ann bob 1 1 | bob ann 1 1 | ann cay 1 1 | cay ann 1 1"), Bounds.zero(3))
+        keepers = Keepers(deal.swap, [1, 1, 2, 3], Keeper("kin", 9, "ann", "cay"), Keeper("lo", 2, "ann", "bob"))
+        strokes = [([0, 1], "lo"), ([2, 3], "kin")]
+        self.check_same((Ratio(5), ((), (0, 1))), least_purse(deal, keepers, "kin").parts[::2])
+        for fence, right in (([[], [0, 1]], True), ([[]], False), ([[], [0, 1], [2, 3]], False)):
+            self.assertIs(right, shows_least_purse(deal, keepers, "kin", LeastPurse(5, strokes, fence)))
+        alone = Keepers(deal.swap, [1, 1, 2, 3], Keeper("kin", 9, "ann", "cay"))
+        self.check_same((((), (2, 3)),), least_purse(deal, alone, "kin").parts)
+        self.assertIs(True, shows_least_purse(deal, alone, "kin", NoPurse([[2, 3], []])))
+        self.assertIs(False, shows_least_purse(deal, alone, "kin", LeastPurse(5, strokes, [[]])))
+        # What kin holds not for bob is not come to, however little it is worth.
+        gain = Deal(Swap.read("ann bob cay | ann bob 1 1 | bob ann 1 1 | ann cay 1 3 | cay ann 1 3"), Bounds([0, 0, 0], [None, None, None]))
+        alone = Keepers(gain.swap, [1, 1, 2, 3], Keeper("kin", 9, "ann", "cay"))
+        strokes = [([2, 3], "kin"), ([0], None), ([1], None)]
+        self.assertEqual(LeastPurse(5, strokes, [[]]), least_purse(gain, alone, "kin"))
+        self.assertIs(True, shows_least_purse(gain, alone, "kin", LeastPurse(5, strokes, [[]])))
+
     def test_nine_hand_overs(self):
         for many in (8, 9, 40):
             keepers = Keepers(wide_deal(many).swap, [1] * many, Keeper("kin", 0))
@@ -247,7 +266,7 @@ class ReliersTest(Case):
                 self.assertIs(True, shows_reliers(deal, keepers, keeper.name, Reliers(found.least[::-1], found.barred[::-1])))
 
     def test_bent_papers(self):
-        told = [(BARE, HANDS), (NONE, Keepers(NONE.swap, [], Keeper("kin", 0))), *kept_deals(942, 16, 3)]
+        told = [(BARE, HANDS), (NONE, Keepers(NONE.swap, [], Keeper("kin", 0))), *kept_deals(942, 8, 3)]
         for deal, keepers in told:
             for keeper in keepers.keepers:
                 found = reliers(deal, keepers, keeper.name)
@@ -333,6 +352,8 @@ class MomentsTest(Case):
         self.check_raises(Unlike("swap"), lambda: list(hand_moments(deal=BOTH, keepers=HANDS, held=None)))
         wrong = [*NO_PAPERS, NotHeld([()]), Held([]), Held([((0, 1, 2), "lo")]), held_way(BARE, LESS)]
         self.check_each_raises(BadPaper("held"), wrong, lambda value: list(hand_moments(BARE, HANDS, value)))
+        self.assertIs(True, shows_held(BARE, LESS, NotHeld([()])))
+        self.check_raises(BadPaper("held"), lambda: list(hand_moments(BARE, LESS, NotHeld([()]))))
         long = wide_deal(9)
         paper = Held([([number], None) for number in range(9)])
         self.check_raises(BadPaper("held"), lambda: list(hand_moments(long, Keepers(long.swap, [1] * 9), paper)))

@@ -52,6 +52,14 @@ class DeedTest(Case):
             self.assertFalse(one == other)
             self.assertTrue(one != other)
 
+    def test_deeds_of_any_kind_are_compared_by_their_texts(self):
+        for place, (made, text) in enumerate(KINDS):
+            for at, (other, _) in enumerate(KINDS):
+                self.assertIs(place == at, Deed.__eq__(made(), other()))
+            self.assertEqual(text.split(" ")[0], Deed.__str__(made()))
+        self.assertIs(False, Deed.__eq__(Do([0]), Do([1])))
+        self.assertIs(False, Deed.__eq__(Do([0]), "do 0"))
+
     def test_texts(self):
         for made, text in KINDS:
             self.assertEqual(text, str(made()))

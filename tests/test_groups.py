@@ -77,7 +77,7 @@ class PapersTest(Case):
 
     def test_by_trying_all_ways(self):
         narrow = 0
-        for deal in way_deals(841, 220):
+        for deal in way_deals(841, 130):
             ways = plain_ways(deal)
             found = most_groups(deal)
             self.assertEqual(max(len(groups) for groups in ways), found.number)
@@ -101,7 +101,7 @@ class PapersTest(Case):
                 else:
                     narrow += 1
                     self.check_raises(TooNarrow(least_group(deal).number), fewest_groups, deal, largest)
-        self.assertGreater(narrow, 12)
+        self.assertGreater(narrow, 5)
 
     def plain_ranks(self, deal, largest):
         """The fewest moves that lead to each set, by layers."""

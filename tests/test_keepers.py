@@ -17,6 +17,13 @@ LO = Keeper("lo", 1, "ann")
 HANDS = Keepers(THREE, [1, 1, 1], KIN, LO)
 
 
+class Same:
+    """A value that equals any other, and is no name."""
+
+    def __eq__(self, other):
+        return True
+
+
 class KeeperTest(Case):
     def test_wrong_values(self):
         self.check_each_raises(BadKeeper("name"), NO_NAMES, lambda value: Keeper(value, None, None))
@@ -36,7 +43,7 @@ class KeeperTest(Case):
     def test_who_relies(self):
         for name in ("ann", "bob", "cay"):
             self.assertIs(True, name in KIN)
-        for value in [*ODD, "kin", "dan", 3, [], ("ann",), Ratio(1), KIN]:
+        for value in [*ODD, "kin", "dan", 3, [], ("ann",), Ratio(1), KIN, Same()]:
             self.assertIs(False, value in KIN)
         self.assertIs(False, "ann" in Keeper("kin", 3))
 
@@ -107,7 +114,7 @@ class KeepersTest(Case):
 
 class ReasonsTest(Case):
     def test_wrong_values(self):
-        for value in [*NO_NAMES, "ann", "mo", KIN]:
+        for value in [*NO_NAMES, "ann", "mo", KIN, Same()]:
             with self.assertRaises(NoKeeper) as caught:
                 HANDS.reasons(value, None)
             self.assertIs(value, caught.exception.name)

@@ -237,14 +237,13 @@ class LanguageTest(unittest.TestCase):
         for name, node in nodes(ast.Assign):
             if isinstance(node.value, ast.Call) and getattr(node.value.func, "id", "") == "range":
                 taken.append(node.value)
-        for name, node in nodes(ast.Call):
-            if getattr(node.func, "id", "") == "range" and any(
-                getattr(other.func, "id", "") == "reversed" and node in other.args for _, other in nodes(ast.Call)
-            ):
-                taken.append(node)
+        for _, node in nodes(ast.Call):
+            if getattr(node.func, "id", "") == "reversed":
+                taken.extend(other for other in node.args if getattr(getattr(other, "func", None), "id", "") == "range")
+        known = {id(node) for node in taken}
         for name, node in nodes(ast.Call):
             if getattr(node.func, "id", "") in VIEWS or getattr(node.func, "attr", "") in ("items", "keys", "values"):
-                self.assertTrue(node in taken, (name, node.lineno))
+                self.assertIn(id(node), known, (name, node.lineno))
 
     def test_reversed_takes_what_is_plainly_a_list(self):
         for name, node in nodes(ast.Call):

@@ -1,6 +1,7 @@
 """Least purses and reliers."""
 
 import itertools
+import random
 import unittest
 from fractions import Fraction
 
@@ -13,9 +14,10 @@ from lastgiver.purses import LeastPurse, NoPurse, Reliers, least_purse, reliers
 from lastgiver.ratios import Ratio
 from lastgiver.swaps import Swap
 
-from support import CUP, NO_DEALS, NO_NAMES, Case, all_sets, as_fraction
+from support import CUP, NO_DEALS, NO_NAMES, Case, all_sets, as_fraction, random_swap
 from support_ways import (
     BARE, BOTH, NO_BEGINNING, NONE, kept_deals, plain_come_to, plain_held_ways, plain_holds, plain_strokes, right_strokes,
+    tight_deal,
 )
 from test_held_ways import EASED, HANDS, KIN, LESS, NO_KEEPERS, wide_deal
 
@@ -75,9 +77,20 @@ class LeastPurseTest(Case):
         parts = Keepers(BARE.swap, [Ratio(1, 2), Ratio(1, 3), 0], Keeper("kin", 0, *ALL))
         self.check_same((Ratio(5, 6), ((),)), (least_purse(BARE, parts, "kin").number, least_purse(BARE, parts, "kin").fence))
 
+    def cases(self):
+        """Deals and keepers of all sorts, and ones on whom all rely in deals with few allowed sets."""
+        rnd = random.Random(903)
+        found = kept_deals(901, 170)
+        few = Deal.read("ann bob | bob ann 2 2 | ann bob 4 2 | ann bob 2 2 | bob ann 2 2 ; 2 2 , 1 0")
+        found.append((few, Keepers(few.swap, [3, 1, 2, 2], Keeper("kin", 0, "ann", "bob"))))
+        for _ in range(40):
+            deal = tight_deal(rnd, random_swap(rnd, rnd.choice([2, 3]), 4))
+            found.append((deal, Keepers(deal.swap, [rnd.choice([1, 2, 3]) for _ in range(4)], Keeper("kin", 0, *deal.swap.strangers))))
+        return found
+
     def test_by_trying_all_thresholds(self):
         kinds = []
-        for deal, keepers in kept_deals(901, 170):
+        for deal, keepers in self.cases():
             for keeper in keepers.keepers:
                 found = least_purse(deal, keepers, keeper.name)
                 kinds.append(type(found) if not found else min(1, found.number.top))

@@ -138,7 +138,7 @@ class LinesTest(Case):
             self.check_same(("tell", "k", text), read_line(f"tell k {text}", KEPT))
         for text, word in [
             ("", 2), ("x", 2), ("do", 3), ("do 1 0", 4), ("do 0 ", 4), ("leave", 3), ("leave ann bob", 4), ("trust ann", 4), ("trust ann -1", 4),
-            ("pledge ann 0 0", 5), ("break 1 ", 4),
+            ("pledge ann 0 0", 5), ("break 1 ", 4), ("swap a b", 2), ("bounds 0 0 , 0 0", 2), ("dial trust | pledge", 2),
         ]:
             self.check_raises(BadText(0, word), read_line, f"tell k {text}", KEPT)
 
