@@ -92,9 +92,9 @@ def doable(deal, done=()):
 def most_chosen(deal, done=()):
     """The Best choice by the number of its hand-overs, or a NoChoice."""
     told = _done_of_few(deal, done)
-    found = drawn_at(deal, told)
-    if found is not None:
-        return found
+    drawn = drawn_at(deal, told)
+    if drawn is not None:
+        return drawn
     ordered = choices_holding(deal, told)
     return _best_of(ordered, ranks_by_number(ordered), told)
 
@@ -102,9 +102,9 @@ def most_chosen(deal, done=()):
 def brings_most(deal, done=()):
     """The Best choice by what it brings, or a NoChoice."""
     told = _done_of_few(deal, done)
-    found = drawn_at(deal, told)
-    if found is not None:
-        return found
+    drawn = drawn_at(deal, told)
+    if drawn is not None:
+        return drawn
     ordered = choices_holding(deal, told)
     return _best_of(ordered, ranks_by_gain(ordered), told)
 
@@ -118,15 +118,15 @@ def gainful_most(deal):
 def choice_front(deal, done=()):
     """A ChoiceFront with the first rows, or a NoChoice."""
     told = _done_of_few(deal, done)
-    found = drawn_at(deal, told)
-    if found is not None:
-        return found
+    drawn = drawn_at(deal, told)
+    if drawn is not None:
+        return drawn
     tried = [(_ended_from(choice, told), nets_of(choice)) for choice in choices_holding(deal, told)]
-    doing = [nets for found, nets in tried if found]
-    points = [found for found, nets in tried if found and not any([is_better(other, nets) for other in doing])]
+    doing = [nets for paper, nets in tried if paper]
     # What some doable choice is better than, some point is better than, too.
-    others = [found for found, nets in tried if not found and not any([is_better(other, nets) for other in doing])]
-    return ChoiceFront([(point.numbers, point.row) for point in points], others)
+    kept = [paper for paper, nets in tried if not any([is_better(other, nets) for other in doing])]
+    points = [(paper.numbers, paper.row) for paper in kept if paper]
+    return ChoiceFront(points, [paper for paper in kept if not paper])
 
 
 def choices_holding(deal, done):
