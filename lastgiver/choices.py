@@ -9,7 +9,6 @@ from lastgiver.ratios import added
 from lastgiver.turned import portion
 
 MOST_HANDS = 6
-NO_NUMBERS = "-"
 
 
 class Choice:
@@ -57,7 +56,7 @@ class Choice:
 
     def __str__(self):
         if len(self.numbers) == 0:
-            return NO_NUMBERS
+            return "-"
         return " ".join([str(number) for number in self.numbers])
 
     @staticmethod
@@ -65,7 +64,7 @@ class Choice:
         """The Choice of a deal that the text tells."""
         check_deal(deal)
         words = words_of(text)
-        if words[0] == NO_NUMBERS:
+        if words[0] == "-":
             check_end(words, 1)
             return Choice(deal, ())
         numbers = []

@@ -90,7 +90,7 @@ def leaning_slacks(pairs, many):
     """The slacks of leanings among so many hand-overs."""
     slacks = []
     for one, other in pairs:
-        changes = [0] * many
+        changes = [0 for number in range(many)]
         changes[one] = 1
         changes[other] = -1
         slacks.append((0, changes))
@@ -127,7 +127,7 @@ def first_way(bits, numbers):
     """
     sizes = [len(like) for like in numbers]
     strides = strides_of(sizes)
-    counts = [0] * len(sizes)
+    counts = [0 for size in sizes]
     row = []
     cell = 0
     while cell < strides[-1] - 1:

@@ -78,7 +78,7 @@ def pairs_among(leanings, numbers):
 
 def _needed_masks(many, pairs):
     """For each number the mask of those on which it leans at once."""
-    masks = [0] * many
+    masks = [0 for number in range(many)]
     for one, other in pairs:
         masks[other] = masks[other] | (1 << one)
     return masks

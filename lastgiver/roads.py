@@ -48,7 +48,7 @@ def ranked(swap):
     inverse = inverse_of([[rows[number][pivot] for pivot in span.pivots] for number in kept])
     pulls = []
     for place in range(len(kept)):
-        pull = [Ratio(0)] * width
+        pull = [Ratio(0) for name in swap.strangers]
         for pivot, row in zip(span.pivots, inverse):
             pull[pivot] = row[place] * scales[pivot]
         pulls.append(pull)

@@ -99,9 +99,12 @@ def changed_in(rows):
 
 
 def is_made_here(node):
-    """Whether an expression plainly makes a new list or dict."""
+    """Whether an expression plainly makes a new list or dict.
+
+    Classes of the package have `*` and `+`: a product is not surely a list, and a sum only if both its sides are.
+    """
     if isinstance(node, ast.BinOp):
-        return is_made_here(node.left) or is_made_here(node.right)
+        return isinstance(node.op, ast.Add) and is_made_here(node.left) and is_made_here(node.right)
     if isinstance(node, ast.Subscript):
         return isinstance(node.slice, ast.Slice)
     if isinstance(node, ast.Call):
@@ -120,6 +123,78 @@ def made_in(function):
             others |= {one.id for target in targets for one in ast.walk(target)
                        if isinstance(one, ast.Name) and isinstance(one.ctx, ast.Store)}
     return made - others
+
+
+def is_property(function):
+    """Whether a function is read as a property."""
+    return any(getattr(told, "id", "") == "property" for told in function.decorator_list)
+
+
+def defined_in(name):
+    """A dict: by its name, each function and class that a file defines."""
+    return {row.name: row for row in TREES[name].body if isinstance(row, (ast.FunctionDef, ast.ClassDef))}
+
+
+def seen_in(name):
+    """A dict: by its name, the file and the node of each function and class that a file defines or imports."""
+    seen = {told: (name, row) for told, row in defined_in(name).items()}
+    for node in ast.walk(TREES[name]):
+        if isinstance(node, ast.ImportFrom) and node.module not in LIBRARY:
+            file = node.module.split(".")[1]
+            seen.update({alias.name: (file, defined_in(file).get(alias.name)) for alias in node.names})
+    return seen
+
+
+def run_by(function, seen, by_name):
+    """Pairs of a file and a function: all that a function names, and all methods of a name that it calls."""
+    inner = list(ast.walk(function))
+    named = {node.id for node in inner if isinstance(node, ast.Name)} - bound_in(function)
+    for file, told in (seen[name] for name in named if name in seen):
+        if isinstance(told, ast.FunctionDef):
+            yield file, told
+        elif isinstance(told, ast.ClassDef):
+            yield from ((file, row) for row in told.body if getattr(row, "name", "") == "__init__")
+    called = {getattr(node.func, "attr", "") for node in inner if isinstance(node, ast.Call)}
+    for name in called - {"__init__"}:
+        yield from by_name.get(name, [])
+
+
+def roads():
+    """Triples: a file, a function of it that operators, properties, texts, lengths or `==` run, and a way that leads there."""
+    begun = OPERATORS | {"__eq__", "__len__", "__repr__", "__str__"}
+    seen = {name: seen_in(name) for name in TREES}
+    by_name, layer = {}, []
+    for name, owner in nodes(ast.ClassDef):
+        for row in (row for row in owner.body if isinstance(row, ast.FunctionDef)):
+            by_name.setdefault(row.name, []).append((name, row))
+            if row.name in begun or is_property(row):
+                layer.append((name, row, (owner.name, row.name)))
+    met, found = set(), []
+    while layer:
+        name, row, way = layer.pop()
+        if row not in met:
+            met.add(row)
+            found.append((name, row, way))
+            layer.extend((file, further, (*way, further.name)) for file, further in run_by(row, seen[name], by_name))
+    return found
+
+
+def is_plain_text(node):
+    """Whether what a text of a value returns has one of the forms that are let."""
+    if isinstance(node, ast.Call):
+        joined = isinstance(node.func, ast.Attribute) and node.func.attr == "join" and is_literal(node.func.value, str)
+        return joined or getattr(node.func, "id", "") in ("str", "repr")
+    return isinstance(node, ast.JoinedStr) or is_literal(node, str)
+
+
+def is_plain_length(node):
+    """Whether what a length of a value returns has one of the forms that are let."""
+    return (isinstance(node, ast.Call) and getattr(node.func, "id", "") == "len") or is_literal(node, int)
+
+
+def is_literal(node, kind):
+    """Whether a node is a literal of this kind."""
+    return isinstance(node, ast.Constant) and type(node.value) is kind
 
 
 def is_plain(node, deep=0):
@@ -340,6 +415,35 @@ class LanguageTest(unittest.TestCase):
                 inner = [node for node in ast.walk(row) if isinstance(node, (ast.Assign, ast.For, ast.While))]
                 self.none(inner)
                 self.assertIsInstance(row.body[-1], ast.Return)
+
+    def test_texts_and_lengths_return_plain_forms(self):
+        forms = {"__str__": is_plain_text, "__repr__": is_plain_text, "__len__": is_plain_length}
+        for owner, row in methods():
+            if row.name in forms:
+                told = [node for node in ast.walk(row) if isinstance(node, ast.Return)]
+                self.none((owner.name, node.lineno) for node in told if not forms[row.name](node.value))
+
+    def test_operators_properties_and_texts_change_nothing_but_what_they_plainly_made(self):
+        for _, row, way in roads():
+            made = set() if is_generator(row) else made_in(row)
+            self.none((way, node.lineno) for node in changed_in(row.body) if getattr(node, "id", None) not in made)
+            stored = [node for node in ast.walk(row) if isinstance(node, ast.Attribute) and not isinstance(node.ctx, ast.Load)]
+            self.none((way, node.lineno) for node in stored if row.name != "__init__" or getattr(node.value, "id", "") != "self")
+
+    def test_operators_properties_and_texts_call_nothing_that_they_are_handed_or_hold(self):
+        library = BUILTINS | {name for names in LIBRARY.values() for name in names}
+        stored = {node.attr for _, node in nodes(ast.Attribute) if isinstance(node.ctx, ast.Store)}
+        held = {"__init__"} | METHODS | {row.name for _, row in methods()} - stored
+        for name, row, way in roads():
+            called = [node.func for node in ast.walk(row) if isinstance(node, ast.Call)]
+            plain = {node.id for node in called if isinstance(node, ast.Name)}
+            self.none((way, other) for other in plain - (library | set(seen_in(name))) | plain & bound_in(row))
+            others = [node for node in called if not isinstance(node, ast.Name)]
+            self.none((way, ast.unparse(node)) for node in others if getattr(node, "attr", "") not in held)
+
+    def test_roads_lead_from_operators_to_all_that_they_run(self):
+        told = {way[-1] for _, _, way in roads()}
+        self.assertEqual(set(), {"__or__", "__and__", "_leanings_told", "_needed_masks", "brings", "added"} - told)
 
     def test_comparisons_by_is(self):
         for name, node in nodes(ast.Compare):
